@@ -1,0 +1,140 @@
+package inflate
+
+import (
+	"darkroom/api"
+	"darkroom/bits"
+	"darkroom/prefix"
+)
+
+// A stream is what is left to read and what was written so far. Its methods
+// give up by a panic with the error's number, however deep in a block they are.
+type stream struct {
+	in    *bits.Reader
+	out   []byte
+	most  int
+	fixed *codes // nil till a block asks for them: there may be many such blocks
+}
+
+// must gives up at an error of a layer below.
+func must(e api.Errno) {
+	if e != api.OK {
+		panic(e)
+	}
+}
+
+func (s *stream) take(n int) int {
+	v, e := s.in.Take(n)
+	must(e)
+	return int(v)
+}
+
+func (s *stream) next(d *prefix.Decoder) int {
+	symbol, e := d.Next(s.in)
+	must(e)
+	return symbol
+}
+
+// wantRoom gives up if n bytes more are more than there may be.
+func (s *stream) wantRoom(n int) {
+	if n > s.most-len(s.out) {
+		panic(api.ErrLong)
+	}
+}
+
+// block reads a block and answers whether it is the last one.
+func (s *stream) block() bool {
+	last := s.take(1) == 1
+	switch s.take(2) {
+	case 0:
+		s.stored()
+	case 1:
+		s.symbols(s.fixedCodes())
+	case 2:
+		s.symbols(s.toldCodes())
+	default:
+		panic(api.ErrBlock)
+	}
+	return last
+}
+
+// stored reads a block whose bytes stand as they are.
+func (s *stream) stored() {
+	s.in.Align()
+	n := s.take(16)
+	if s.take(16) != 65535-n {
+		panic(api.ErrBlock)
+	}
+	// A block that is too long is told as that, also if its bytes aren't there.
+	s.wantRoom(n)
+	b, e := s.in.Bytes(n)
+	must(e)
+	s.out = append(s.out, b...)
+}
+
+// What the literals' symbols from 256 on say.
+const (
+	endOfBlock  = 256
+	firstLength = 257 // the least length
+	lastLength  = 285 // the greatest one, by itself
+)
+
+const (
+	minLength   = 3
+	maxLength   = 258
+	minDistance = 1
+)
+
+// symbols reads what stands behind a block's head, if it is packed by codes.
+func (s *stream) symbols(c codes) {
+	for {
+		symbol := s.next(c.literals)
+		switch {
+		case symbol < endOfBlock:
+			s.wantRoom(1)
+			s.out = append(s.out, byte(symbol))
+		case symbol == endOfBlock:
+			return
+		default:
+			length := s.length(symbol)
+			s.repeat(length, s.distance(c.distances))
+		}
+	}
+}
+
+func (s *stream) length(symbol int) int {
+	switch {
+	case symbol > lastLength:
+		panic(api.ErrCode)
+	case symbol == lastLength:
+		return maxLength
+	}
+	return minLength + s.stepped(symbol-firstLength, 4)
+}
+
+// distance needs no look at 30 and 31: no code that may be read has them.
+func (s *stream) distance(d *prefix.Decoder) int {
+	return minDistance + s.stepped(s.next(d), 2)
+}
+
+// stepped answers what the symbol at place k stands for, above the least one of
+// its kind. Symbols go up in groups: those of the first two stand for a number
+// each, and from group to group each stands for twice as many, told apart by
+// one bit more.
+func (s *stream) stepped(k, group int) int {
+	if k < 2*group {
+		return k
+	}
+	more := k/group - 1
+	return (group+k%group)<<more + s.take(more)
+}
+
+// repeat goes byte by byte: a match may run into what it writes itself.
+func (s *stream) repeat(length, distance int) {
+	if distance > len(s.out) {
+		panic(api.ErrFar)
+	}
+	s.wantRoom(length)
+	for range length {
+		s.out = append(s.out, s.out[len(s.out)-distance])
+	}
+}
