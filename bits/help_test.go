@@ -11,17 +11,6 @@ import (
 // orders names both values of high.
 var orders = map[string]bool{"high": true, "low": false}
 
-// noise answers n bytes that look like none in particular, the same each time.
-func noise(n int) []byte {
-	b := make([]byte, n)
-	s := uint32(12345)
-	for i := range b {
-		s = s*1664525 + 1013904223
-		b[i] = byte(s >> 24)
-	}
-	return b
-}
-
 // bitsOf tells the bits of b one by one, as the chapter's section Orders says.
 func bitsOf(b []byte, high bool) []uint32 {
 	var out []uint32
@@ -52,22 +41,6 @@ func numberOf(b []uint32, high bool) uint32 {
 		}
 	}
 	return v
-}
-
-// roomy answers b as the middle of a greater list, and that list: what is
-// written into spare room shows there.
-func roomy(b []byte) ([]byte, []byte) {
-	all := bytes.Repeat([]byte{0xEE}, len(b)+16)
-	copy(all[8:], b)
-	return all[8 : 8+len(b)], all
-}
-
-// spoil changes a list and its spare room; to do it twice doesn't undo it.
-func spoil(b []byte) {
-	b = b[:cap(b)]
-	for i := range b {
-		b[i] += 101
-	}
 }
 
 func wantTake(t *testing.T, r *bits.Reader, n int, v uint32, e api.Errno) {

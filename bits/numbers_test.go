@@ -7,6 +7,7 @@ import (
 
 	"darkroom/api"
 	"darkroom/bits"
+	"darkroom/probe"
 )
 
 func wantGet(t *testing.T, b []byte, at, size int, big bool, v uint32, e api.Errno) {
@@ -62,7 +63,7 @@ func TestSet(t *testing.T) {
 
 // Sizes 0 and 5 are refused wherever they stand, also where bytes are missing.
 func TestSizesThatMayNotBe(t *testing.T) {
-	b := noise(20)
+	b := probe.Noise(0, 20)
 	for _, size := range []int{0, 5, -1, math.MinInt, math.MaxInt} {
 		for _, at := range []int{0, 19, 20, 99, -1, math.MinInt, math.MaxInt} {
 			for _, big := range []bool{true, false} {
@@ -91,7 +92,7 @@ func TestPlacesThatMayNotBe(t *testing.T) {
 
 // Bytes in spare room don't count as standing there.
 func TestSpareRoomIsNotRead(t *testing.T) {
-	b, all := roomy([]byte{1, 2})
+	b, all := probe.Roomy([]byte{1, 2})
 	before := string(all)
 	wantGet(t, b, 1, 2, true, 0, api.ErrEnd)
 	wantSet(t, b, 1, 2, true, 7, nil, api.ErrEnd)
@@ -101,18 +102,18 @@ func TestSpareRoomIsNotRead(t *testing.T) {
 }
 
 func TestSetAnswersNewMemory(t *testing.T) {
-	b, all := roomy([]byte{1, 2, 3})
+	b, all := probe.Roomy([]byte{1, 2, 3})
 	before := string(all)
 	c, _ := bits.Set(b, 0, 2, true, 9)
 	d, _ := bits.Set(b, 0, 2, true, 9)
-	spoil(c)
+	probe.Spoil(c)
 	if string(all) != before || !bytes.Equal(d, []byte{0, 9, 3}) {
 		t.Error("an answer shares memory:", all, d)
 	}
 }
 
 func TestWhatIsSetIsGot(t *testing.T) {
-	b := noise(10)
+	b := probe.Noise(0, 10)
 	const v = 0xF00DBEE5
 	for size := 1; size <= 4; size++ {
 		for at := 0; at <= 10-size; at++ {

@@ -6,6 +6,7 @@ import (
 
 	"darkroom/api"
 	"darkroom/bits"
+	"darkroom/probe"
 )
 
 func TestTakeExamples(t *testing.T) {
@@ -21,7 +22,7 @@ func TestTakeExamples(t *testing.T) {
 
 // Every width from every place, against the bits told one by one.
 func TestTakeEveryWidthAtEveryPlace(t *testing.T) {
-	data := noise(9)
+	data := probe.Noise(0, 9)
 	for name, high := range orders {
 		all := bitsOf(data, high)
 		for from := 0; from <= 16; from++ {
@@ -40,7 +41,7 @@ func TestTakeEveryWidthAtEveryPlace(t *testing.T) {
 
 func TestTakeWidthsThatMayNotBe(t *testing.T) {
 	for _, high := range orders {
-		r := bits.NewReader(noise(20), high)
+		r := bits.NewReader(probe.Noise(0, 20), high)
 		r.Take(5)
 		for _, n := range []int{-1, 33, 64, math.MinInt, math.MaxInt} {
 			wantTake(t, r, n, 0, api.ErrRange)
@@ -165,7 +166,7 @@ func TestNilReader(t *testing.T) {
 }
 
 func TestReaderKeepsNothingOfWhatItIsHanded(t *testing.T) {
-	data, all := roomy([]byte{1, 2, 3, 4})
+	data, all := probe.Roomy([]byte{1, 2, 3, 4})
 	r := bits.NewReader(data, true)
 	for i := range all {
 		if i < 8 || i >= 12 {
@@ -174,18 +175,18 @@ func TestReaderKeepsNothingOfWhatItIsHanded(t *testing.T) {
 			}
 		}
 	}
-	spoil(all)
+	probe.Spoil(all)
 	wantTake(t, r, 8, 1, api.OK)
 	wantReaderBytes(t, r, 3, []byte{2, 3, 4}, api.OK)
 }
 
 func TestReaderLeavesWhatItIsHanded(t *testing.T) {
-	data, all := roomy([]byte{1, 2, 3, 4})
+	data, all := probe.Roomy([]byte{1, 2, 3, 4})
 	before := string(all)
 	r := bits.NewReader(data, false)
 	r.Take(9)
 	b, _ := r.Bytes(1)
-	spoil(b)
+	probe.Spoil(b)
 	r.Align()
 	r.Take(8)
 	if string(all) != before {
@@ -198,10 +199,10 @@ func TestReaderLeavesWhatItIsHanded(t *testing.T) {
 func TestReaderAnswersNewMemory(t *testing.T) {
 	r := bits.NewReader([]byte{1, 2, 3, 4, 5, 6}, true)
 	a, _ := r.Bytes(2)
-	spoil(a)
+	probe.Spoil(a)
 	b, _ := r.Bytes(2)
 	was := string(a)
-	spoil(b)
+	probe.Spoil(b)
 	if string(a) != was {
 		t.Error("two answers share memory")
 	}

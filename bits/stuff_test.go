@@ -5,6 +5,7 @@ import (
 	"testing"
 
 	"darkroom/bits"
+	"darkroom/probe"
 )
 
 func TestStuff(t *testing.T) {
@@ -58,7 +59,7 @@ func TestUnstuffStaysWithinTheList(t *testing.T) {
 // P1.5: what was stuffed comes back, to the last byte.
 func TestUnstuffOfStuff(t *testing.T) {
 	for n := range 40 {
-		b := noise(n)
+		b := probe.Noise(0, n)
 		for i := range b {
 			if b[i] < 100 {
 				b[i] = 255
@@ -75,15 +76,15 @@ func TestUnstuffOfStuff(t *testing.T) {
 
 func TestStuffingAnswersNewMemory(t *testing.T) {
 	for _, plain := range [][]byte{{1, 2, 3}, {1, 255, 0, 3}} {
-		b, all := roomy(plain)
+		b, all := probe.Roomy(plain)
 		before := string(all)
 		s, again := bits.Stuff(b), bits.Stuff(b)
 		was := string(again)
-		spoil(s)
+		probe.Spoil(s)
 		u, _ := bits.Unstuff(b)
 		v, _ := bits.Unstuff(b)
 		kept := string(v)
-		spoil(u)
+		probe.Spoil(u)
 		if string(all) != before {
 			t.Error("what was handed in was changed:", all)
 		}

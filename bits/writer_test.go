@@ -7,6 +7,7 @@ import (
 
 	"darkroom/api"
 	"darkroom/bits"
+	"darkroom/probe"
 )
 
 func TestPutExample(t *testing.T) {
@@ -124,7 +125,7 @@ func TestWriterAnswersNewMemory(t *testing.T) {
 		w.Put(1, 1)
 		a := w.Bytes()
 		was := w.Bytes()
-		spoil(a)
+		probe.Spoil(a)
 		if !bytes.Equal(w.Bytes(), was) {
 			t.Fatal("an answer shares memory with the writer")
 		}
@@ -146,7 +147,7 @@ func TestWritersApart(t *testing.T) {
 
 // P1.5: numbers of all widths in all sequence are read as they were written.
 func TestWhatIsWrittenIsRead(t *testing.T) {
-	data := noise(4 * 500)
+	data := probe.Noise(0, 4*500)
 	for name, high := range orders {
 		w := bits.NewWriter(high)
 		var ns []int

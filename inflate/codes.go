@@ -2,6 +2,7 @@ package inflate
 
 import (
 	"darkroom/api"
+	"darkroom/blocks"
 	"darkroom/prefix"
 )
 
@@ -13,56 +14,22 @@ type codes struct {
 // fixedCodes answers the codes that a stream needn't tell.
 func (s *stream) fixedCodes() codes {
 	if s.fixed == nil {
-		s.fixed = &codes{decoderOf(fixedLiterals()), decoderOf(fixedDistances())}
+		s.fixed = &codes{decoderOf(blocks.FixedLiterals()), decoderOf(blocks.FixedDistances())}
 	}
 	return *s.fixed
 }
 
-func fixedLiterals() []int {
-	lengths := make([]int, 288)
-	for symbol := range lengths {
-		switch {
-		case symbol <= 143:
-			lengths[symbol] = 8
-		case symbol <= 255:
-			lengths[symbol] = 9
-		case symbol <= 279:
-			lengths[symbol] = 7
-		default:
-			lengths[symbol] = 8
-		}
-	}
-	return lengths
-}
-
-func fixedDistances() []int {
-	lengths := make([]int, maxDistances)
-	for symbol := range lengths {
-		lengths[symbol] = 5
-	}
-	return lengths
-}
-
-// How many symbols a code that is told has at least, and at most. The five bits
-// that tell how many could tell more than there are.
-const (
-	minLiterals  = 257
-	maxLiterals  = 286
-	minDistances = 1
-	maxDistances = 30
-	minLengths   = 4
-)
-
 // toldCodes reads the codes at a block's beginning.
 func (s *stream) toldCodes() codes {
-	literals := minLiterals + s.take(5)
-	distances := minDistances + s.take(5)
-	lengths := minLengths + s.take(4)
-	if literals > maxLiterals || distances > maxDistances {
+	literals := blocks.MinLiterals + s.take(5)
+	distances := blocks.MinDistances + s.take(5)
+	lengths := blocks.MinLengths + s.take(4)
+	// The five bits could tell of more symbols than there are.
+	if literals > blocks.Literals || distances > blocks.Distances {
 		panic(api.ErrTable)
 	}
 	row := s.row(s.lengthsCode(lengths), literals+distances)
-	if row[endOfBlock] == 0 {
+	if row[blocks.End] == 0 {
 		panic(api.ErrTable)
 	}
 	return codes{
@@ -71,16 +38,13 @@ func (s *stream) toldCodes() codes {
 	}
 }
 
-// lengthsOrder has those symbols of the lengths' code last that are seldom
-// wanted, so that the stream may leave them out.
-var lengthsOrder = [19]int{16, 17, 18, 0, 8, 7, 9, 6, 10, 5, 11, 4, 12, 3, 13, 2, 14, 1, 15}
-
 // lengthsCode reads the code, of n symbols, by which the other codes' lengths
 // are packed.
 func (s *stream) lengthsCode(n int) *prefix.Decoder {
-	lengths := make([]int, len(lengthsOrder))
-	for i := range n {
-		lengths[lengthsOrder[i]] = s.take(3)
+	lengths := make([]int, blocks.Lengths)
+	order := blocks.LengthsOrder()
+	for _, symbol := range order[:n] {
+		lengths[symbol] = s.take(3)
 	}
 	return goodDecoder(lengths, false)
 }
@@ -104,18 +68,18 @@ func (s *stream) row(d *prefix.Decoder, n int) []int {
 // run answers the length that a symbol stands for behind this row, and how
 // often.
 func (s *stream) run(symbol int, row []int) (length, times int) {
-	switch symbol {
-	case 16:
-		if len(row) == 0 {
-			panic(api.ErrTable)
-		}
-		return row[len(row)-1], 3 + s.take(2)
-	case 17:
-		return 0, 3 + s.take(3)
-	case 18:
-		return 0, 11 + s.take(7)
+	if symbol == blocks.Again && len(row) == 0 {
+		panic(api.ErrTable)
 	}
-	return symbol, 1
+	least, more := blocks.Repeats(symbol)
+	times = least + s.take(more)
+	switch symbol {
+	case blocks.Again:
+		return row[len(row)-1], times
+	case blocks.FewNoughts, blocks.ManyNoughts:
+		return 0, times
+	}
+	return symbol, times
 }
 
 // goodDecoder gives up at a code that a stream may not tell.

@@ -2,13 +2,13 @@ package inflate_test
 
 import (
 	"bytes"
-	"fmt"
 	"slices"
 	"strings"
 	"testing"
 
 	"darkroom/api"
 	"darkroom/inflate"
+	"darkroom/probe"
 )
 
 // Streams are put together here as text of noughts and ones, in the order in
@@ -165,18 +165,6 @@ func with(list []int, at, x int) []int {
 	return c
 }
 
-// noise answers n bytes that look like none in particular, the same each time
-// for one seed.
-func noise(seed uint32, n int) []byte {
-	b := make([]byte, n)
-	s := seed*2654435761 + 12345
-	for i := range b {
-		s = s*1664525 + 1013904223
-		b[i] = byte(s >> 24)
-	}
-	return b
-}
-
 // nothing is a block that writes nothing and has an odd number of bits: put
 // ahead of a text it moves it to another bit of a byte.
 func nothing() string {
@@ -198,41 +186,17 @@ func atBorder(t *testing.T, text string) []byte {
 	return pack(text, "0")
 }
 
-// roomy answers b as the middle of a greater list, and that list: what is
-// written into spare room shows there.
-func roomy(b []byte) ([]byte, []byte) {
-	all := bytes.Repeat([]byte{0xEE}, len(b)+16)
-	copy(all[8:], b)
-	return all[8 : 8+len(b)], all
-}
-
-// spoil changes a list and its spare room; to do it twice doesn't undo it.
-func spoil(b []byte) {
-	b = b[:cap(b)]
-	for i := range b {
-		b[i] += 101
-	}
-}
-
-// short tells bytes, but not all of many.
-func short(b []byte) string {
-	if len(b) <= 60 {
-		return fmt.Sprintf("%x", b)
-	}
-	return fmt.Sprintf("%x.. (%d)", b[:30], len(b))
-}
-
 func wantRaw(t *testing.T, b []byte, most int, out []byte, begun int) {
 	t.Helper()
 	if gotB, gotN, gotE := inflate.Raw(b, most); !bytes.Equal(gotB, out) || gotN != begun || gotE != api.OK {
-		t.Errorf("Raw(%s, %d) = %s, %d, %d; want %s, %d", short(b), most, short(gotB), gotN, gotE, short(out), begun)
+		t.Errorf("Raw(%s, %d) = %s, %d, %d; want %s, %d", probe.Short(b), most, probe.Short(gotB), gotN, gotE, probe.Short(out), begun)
 	}
 }
 
 func wantFault(t *testing.T, b []byte, most int, e api.Errno) {
 	t.Helper()
 	if gotB, gotN, gotE := inflate.Raw(b, most); len(gotB) != 0 || gotN != 0 || gotE != e {
-		t.Errorf("Raw(%s, %d) = %s, %d, %d; want %d", short(b), most, short(gotB), gotN, gotE, e)
+		t.Errorf("Raw(%s, %d) = %s, %d, %d; want %d", probe.Short(b), most, probe.Short(gotB), gotN, gotE, e)
 	}
 }
 
@@ -254,7 +218,7 @@ func wantTextFault(t *testing.T, text string, most int, e api.Errno) {
 	t.Helper()
 	for range 8 {
 		wantFault(t, pack(text, "0"), most, e)
-		wantFault(t, append(pack(text, "1"), noise(1, 20)...), most, e)
+		wantFault(t, append(pack(text, "1"), probe.Noise(1, 20)...), most, e)
 		text = nothing() + text
 	}
 }

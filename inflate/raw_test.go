@@ -9,6 +9,7 @@ import (
 	"testing"
 
 	"darkroom/api"
+	"darkroom/probe"
 )
 
 func TestRawExamples(t *testing.T) {
@@ -76,7 +77,7 @@ func TestStored(t *testing.T) {
 		ahead := ""
 		for range 8 {
 			for _, fill := range []string{"0", "1"} {
-				wantText(t, stored(ahead, last, fill, noise(3, n)), noise(3, n))
+				wantText(t, stored(ahead, last, fill, probe.Noise(3, n)), probe.Noise(3, n))
 			}
 			ahead += nothing()
 			if n > 1000 && len(ahead)%8 == 3 {
@@ -99,7 +100,7 @@ func TestStoredFromABorderOn(t *testing.T) {
 
 // P4.1: each bit of both numbers tells.
 func TestStoredWithAWrongNumber(t *testing.T) {
-	good := pack(stored("", last, "0", noise(4, 300)), "0")
+	good := pack(stored("", last, "0", probe.Noise(4, 300)), "0")
 	for bit := 8; bit < 40; bit++ {
 		b := bytes.Clone(good)
 		b[bit/8] ^= 1 << (bit % 8)
@@ -213,7 +214,7 @@ func TestTheGreatestLengths(t *testing.T) {
 // P4.1: each symbol of a distance, with bits behind it of all kinds, where all
 // 32768 bytes were written, just as many as it says, and one less.
 func TestDistances(t *testing.T) {
-	written := noise(9, 32768)
+	written := probe.Noise(9, 32768)
 	for name, p := range allPairs() {
 		distances := plainTexts(p.distances)
 		for i, s := range plainDistances() {
@@ -256,7 +257,7 @@ func TestOverlappingMatches(t *testing.T) {
 	p := fixed()
 	for distance := 1; distance <= 12; distance++ {
 		for length := 3; length <= 40; length++ {
-			first := noise(uint32(distance), 12)
+			first := probe.Noise(uint32(distance), 12)
 			text := head(last, 1) + p.bytes(first) + p.match(length, distance) + p.literal('!') + p.end()
 			wantText(t, text, append(append(bytes.Clone(first), again(first, length, distance)...), '!'))
 		}
@@ -382,7 +383,7 @@ func TestSeveralBlocks(t *testing.T) {
 	for i := range 81 {
 		text, out := "", []byte{}
 		for j, k := range []int{i % 3, i / 3 % 3, i / 9 % 3, i / 27} {
-			b := noise(uint32(i), j*5)
+			b := probe.Noise(uint32(i), j*5)
 			text = kinds[k](text, fmt.Sprint(j/3), b)
 			out = append(out, b...)
 		}
@@ -397,7 +398,7 @@ func TestWhatStandsBehindTheEnd(t *testing.T) {
 	for n := range 20 {
 		text := head(last, 1) + p.bytes(alikeBytes(200, n)) + p.end()
 		begun := (3 + 9*n + 7 + 7) / 8
-		for _, tail := range [][]byte{nil, {0}, {0xFF}, {7, 7, 7}, noise(5, 50)} {
+		for _, tail := range [][]byte{nil, {0}, {0xFF}, {7, 7, 7}, probe.Noise(5, 50)} {
 			for _, fill := range []string{"0", "1"} {
 				wantRaw(t, append(pack(text, fill), tail...), n, alikeBytes(200, n), begun)
 			}

@@ -12,6 +12,7 @@ import (
 
 	"darkroom/api"
 	"darkroom/inflate"
+	"darkroom/probe"
 )
 
 // texts are bytes of all kinds to be deflated.
@@ -20,10 +21,10 @@ func texts() map[string][]byte {
 		"nothing":  nil,
 		"one":      {7},
 		"alike":    alikeBytes('a', 100000),
-		"noise":    noise(1, 70000),
+		"noise":    probe.Noise(1, 70000),
 		"words":    []byte(strings.Repeat("a line of a text that is told again, ", 50)),
-		"few":      noise(2, 20000),
-		"far":      slices.Concat(noise(3, 32000), noise(3, 32000)),
+		"few":      probe.Noise(2, 20000),
+		"far":      slices.Concat(probe.Noise(3, 32000), probe.Noise(3, 32000)),
 		"rising":   make([]byte, 66000),
 		"sparse":   make([]byte, 50000),
 		"two ways": []byte("abcabcabdabcabdabcaacbacbacb"),
@@ -100,7 +101,7 @@ func someStreams(t *testing.T) [][]byte {
 	list := append(packedStreams(t), storedBytes(last, []byte("abcdef")),
 		pack(stored(head(further, 1)+p.literal(200)+p.end(), further, "1", []byte("xy"))+head(last, 1)+p.match(4, 3)+p.end(), "1"))
 	for i := range 3 {
-		list = append(list, deflated(t, noise(uint32(i), 9), -2))
+		list = append(list, deflated(t, probe.Noise(uint32(i), 9), -2))
 	}
 	return list
 }
@@ -112,7 +113,7 @@ func wantAsTold(t *testing.T, b []byte, most int) {
 	out, begun, e := inflate.Raw(b, most)
 	wantOut, wantBegun, wantE := plainRaw(b, most)
 	if !bytes.Equal(out, wantOut) || begun != wantBegun || e != wantE {
-		t.Fatalf("Raw(%s, %d) = %s, %d, %d; want %s, %d, %d", short(b), most, short(out), begun, e, short(wantOut), wantBegun, wantE)
+		t.Fatalf("Raw(%s, %d) = %s, %d, %d; want %s, %d, %d", probe.Short(b), most, probe.Short(out), begun, e, probe.Short(wantOut), wantBegun, wantE)
 	}
 	if e == api.ErrLong {
 		return
@@ -120,7 +121,7 @@ func wantAsTold(t *testing.T, b []byte, most int) {
 	r := bytes.NewReader(b)
 	libOut, err := io.ReadAll(flate.NewReader(r))
 	if (err == nil) != (e == api.OK) || err == nil && (!bytes.Equal(libOut, out) || len(b)-r.Len() != begun) {
-		t.Fatalf("Raw(%s, %d) = %s, %d, %d; the library: %s, %d, %v", short(b), most, short(out), begun, e, short(libOut), len(b)-r.Len(), err)
+		t.Fatalf("Raw(%s, %d) = %s, %d, %d; the library: %s, %d, %v", probe.Short(b), most, probe.Short(out), begun, e, probe.Short(libOut), len(b)-r.Len(), err)
 	}
 }
 
@@ -130,7 +131,7 @@ func TestBrokenStreamsAsTold(t *testing.T) {
 	for _, b := range someStreams(t) {
 		out, _, e := inflate.Raw(b, plenty)
 		if e != api.OK {
-			t.Fatalf("Raw(%s) = %d", short(b), e)
+			t.Fatalf("Raw(%s) = %d", probe.Short(b), e)
 		}
 		for _, most := range []int{plenty, len(out), len(out) - 1, 0} {
 			for n := range len(b) {
@@ -169,7 +170,7 @@ func TestStreamsCutOffAtEachBit(t *testing.T) {
 // the chapter tells.
 func TestNoiseAsTold(t *testing.T) {
 	for i := range 3000 {
-		b := noise(uint32(i), 1+i%90)
+		b := probe.Noise(uint32(i), 1+i%90)
 		for kind := range 3 {
 			b[0] = b[0]&^6 | byte(2*kind)
 			for _, most := range []int{plenty, i % 30} {
@@ -177,7 +178,7 @@ func TestNoiseAsTold(t *testing.T) {
 			}
 			out, e := inflate.Zlib(append([]byte{0x78, 0x9C}, b...), i%50)
 			if e == api.OK || len(out) != 0 {
-				t.Fatal(short(b), short(out), e)
+				t.Fatal(probe.Short(b), probe.Short(out), e)
 			}
 			// A table's beginning is good, what stands behind isn't.
 			text := wideHead(last, 257+int(b[0])%30, 1+i%30) + textOf(b)
@@ -207,7 +208,7 @@ func handedIn(t *testing.T) [][]byte {
 		out, _, _ := inflate.Raw(b, plenty)
 		list = append(list, wrapped(b, out), wrapped(b, []byte("else")), append(bytes.Clone(b), 1, 2, 3))
 	}
-	return append(list, storedBytes(last, noise(7, 3000)), wrapped(storedBytes(last, noise(7, 300)), noise(7, 300)))
+	return append(list, storedBytes(last, probe.Noise(7, 3000)), wrapped(storedBytes(last, probe.Noise(7, 300)), probe.Noise(7, 300)))
 }
 
 // R4: what is handed in stays, spare room included; what stands behind it isn't
@@ -215,7 +216,7 @@ func handedIn(t *testing.T) [][]byte {
 func TestKeepsAndSharesNothing(t *testing.T) {
 	for _, b := range handedIn(t) {
 		for _, most := range []int{plenty, 3, 0, -1} {
-			given, all := roomy(b)
+			given, all := probe.Roomy(b)
 			before := string(all)
 			raw, n, e := inflate.Raw(given, most)
 			raw2, _, _ := inflate.Raw(given, most)
@@ -223,17 +224,17 @@ func TestKeepsAndSharesNothing(t *testing.T) {
 			out2, _ := inflate.Zlib(given, most)
 			wantB, wantN, wantE := plainRaw(b, most)
 			was := string(out)
-			spoil(raw)
-			spoil(out)
+			probe.Spoil(raw)
+			probe.Spoil(out)
 			if string(all) != before {
-				t.Fatal("what was handed in was changed:", short(b), most)
+				t.Fatal("what was handed in was changed:", probe.Short(b), most)
 			}
-			spoil(all)
+			probe.Spoil(all)
 			if string(raw2) != string(wantB) || n != wantN || e != wantE {
-				t.Fatal("Raw shares memory, or reads what wasn't handed in:", short(b), most, n, e)
+				t.Fatal("Raw shares memory, or reads what wasn't handed in:", probe.Short(b), most, n, e)
 			}
 			if out3, e := inflate.Zlib(b, most); string(out2) != was || string(out3) != was || e != ze {
-				t.Fatal("Zlib shares memory, or reads what wasn't handed in:", short(b), most, ze)
+				t.Fatal("Zlib shares memory, or reads what wasn't handed in:", probe.Short(b), most, ze)
 			}
 		}
 	}
@@ -264,11 +265,11 @@ func TestCallsHangOnNothingElse(t *testing.T) {
 				wantB, wantN, wantE := plainRaw(b, 50)
 				out, n, e := inflate.Raw(b, 50)
 				if !bytes.Equal(out, wantB) || n != wantN || e != wantE {
-					t.Error(short(b), short(out), n, e)
+					t.Error(probe.Short(b), probe.Short(out), n, e)
 				}
 				first, firstE := inflate.Zlib(b, 50)
 				if again, e := inflate.Zlib(b, 50); !bytes.Equal(again, first) || e != firstE {
-					t.Error(short(b), short(again), e)
+					t.Error(probe.Short(b), probe.Short(again), e)
 				}
 			}
 		})

@@ -3,6 +3,7 @@ package inflate
 import (
 	"darkroom/api"
 	"darkroom/bits"
+	"darkroom/blocks"
 	"darkroom/prefix"
 )
 
@@ -45,11 +46,11 @@ func (s *stream) wantRoom(n int) {
 func (s *stream) block() bool {
 	last := s.take(1) == 1
 	switch s.take(2) {
-	case 0:
+	case blocks.Stored:
 		s.stored()
-	case 1:
+	case blocks.Fixed:
 		s.symbols(s.fixedCodes())
-	case 2:
+	case blocks.Told:
 		s.symbols(s.toldCodes())
 	default:
 		panic(api.ErrBlock)
@@ -61,7 +62,7 @@ func (s *stream) block() bool {
 func (s *stream) stored() {
 	s.in.Align()
 	n := s.take(16)
-	if s.take(16) != 65535-n {
+	if s.take(16) != blocks.MaxStored-n {
 		panic(api.ErrBlock)
 	}
 	// A block that is too long is told as that, also if its bytes aren't there.
@@ -71,28 +72,15 @@ func (s *stream) stored() {
 	s.out = append(s.out, b...)
 }
 
-// What the literals' symbols from 256 on say.
-const (
-	endOfBlock  = 256
-	firstLength = 257 // the least length
-	lastLength  = 285 // the greatest one, by itself
-)
-
-const (
-	minLength   = 3
-	maxLength   = 258
-	minDistance = 1
-)
-
 // symbols reads what stands behind a block's head, if it is packed by codes.
 func (s *stream) symbols(c codes) {
 	for {
 		symbol := s.next(c.literals)
 		switch {
-		case symbol < endOfBlock:
+		case symbol < blocks.End:
 			s.wantRoom(1)
 			s.out = append(s.out, byte(symbol))
-		case symbol == endOfBlock:
+		case symbol == blocks.End:
 			return
 		default:
 			length := s.length(symbol)
@@ -103,29 +91,24 @@ func (s *stream) symbols(c codes) {
 
 func (s *stream) length(symbol int) int {
 	switch {
-	case symbol > lastLength:
+	case symbol > blocks.LastLength:
 		panic(api.ErrCode)
-	case symbol == lastLength:
-		return maxLength
+	case symbol == blocks.LastLength:
+		return blocks.MaxLength
 	}
-	return minLength + s.stepped(symbol-firstLength, 4)
+	return blocks.MinLength + s.stepped(symbol-blocks.FirstLength, blocks.LengthGroup)
 }
 
 // distance needs no look at 30 and 31: no code that may be read has them.
 func (s *stream) distance(d *prefix.Decoder) int {
-	return minDistance + s.stepped(s.next(d), 2)
+	return blocks.MinDistance + s.stepped(s.next(d), blocks.DistanceGroup)
 }
 
 // stepped answers what the symbol at place k stands for, above the least one of
-// its kind. Symbols go up in groups: those of the first two stand for a number
-// each, and from group to group each stands for twice as many, told apart by
-// one bit more.
+// its kind.
 func (s *stream) stepped(k, group int) int {
-	if k < 2*group {
-		return k
-	}
-	more := k/group - 1
-	return (group+k%group)<<more + s.take(more)
+	least, more := blocks.Step(k, group)
+	return least + s.take(more)
 }
 
 // repeat goes byte by byte: a match may run into what it writes itself.

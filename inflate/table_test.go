@@ -6,6 +6,7 @@ import (
 	"testing"
 
 	"darkroom/api"
+	"darkroom/probe"
 )
 
 // flat is a pair of full codes of so many symbols.
@@ -417,7 +418,7 @@ func TestNoDistancesCode(t *testing.T) {
 
 // P4.1: a distances' code of one symbol.
 func TestDistancesCodeOfOneSymbol(t *testing.T) {
-	written := noise(2, 32768)
+	written := probe.Noise(2, 32768)
 	for symbol, s := range plainDistances() {
 		for _, n := range []int{symbol + 1, 30} {
 			p := pair{full(286), with(alike(0, n), symbol, 1)}
@@ -435,7 +436,7 @@ func TestDistancesCodeOfOneSymbol(t *testing.T) {
 // what they are.
 func TestCodesOfOneBlock(t *testing.T) {
 	p, q := flat(286, 30), pair{deep(286, 6), deep(30, 10)}
-	b := noise(8, 30)
+	b := probe.Noise(8, 30)
 	text := told(further, p) + p.bytes(b) + p.end() + head(further, 1) + fixed().bytes(b) + fixed().end()
 	text += told(further, q) + q.bytes(b) + q.match(30, 90) + q.end()
 	text += head(further, 1) + fixed().match(30, 1) + fixed().bytes(b) + fixed().end()

@@ -9,19 +9,20 @@ import (
 
 	"darkroom/api"
 	"darkroom/inflate"
+	"darkroom/probe"
 )
 
 func wantZlib(t *testing.T, b []byte, most int, out []byte) {
 	t.Helper()
 	if gotB, gotE := inflate.Zlib(b, most); !bytes.Equal(gotB, out) || gotE != api.OK {
-		t.Errorf("Zlib(%s, %d) = %s, %d; want %s", short(b), most, short(gotB), gotE, short(out))
+		t.Errorf("Zlib(%s, %d) = %s, %d; want %s", probe.Short(b), most, probe.Short(gotB), gotE, probe.Short(out))
 	}
 }
 
 func wantZlibFault(t *testing.T, b []byte, most int, e api.Errno) {
 	t.Helper()
 	if gotB, gotE := inflate.Zlib(b, most); len(gotB) != 0 || gotE != e {
-		t.Errorf("Zlib(%s, %d) = %s, %d; want %d", short(b), most, short(gotB), gotE, e)
+		t.Errorf("Zlib(%s, %d) = %s, %d; want %d", probe.Short(b), most, probe.Short(gotB), gotE, e)
 	}
 }
 
@@ -105,7 +106,7 @@ func TestZlibHeadFaults(t *testing.T) {
 
 // P4.2: the window that the head tells of is no bound for a distance.
 func TestZlibWindow(t *testing.T) {
-	written := noise(1, 32768)
+	written := probe.Noise(1, 32768)
 	p := fixed()
 	raw := append(storedBytes(further, written), pack(head(last, 1)+p.match(258, 32768)+p.end(), "0")...)
 	out := append(bytes.Clone(written), written[:258]...)
@@ -137,7 +138,7 @@ func TestZlibOfBrokenStreams(t *testing.T) {
 
 // P4.2: most is Raw's.
 func TestZlibMost(t *testing.T) {
-	out := noise(6, 100)
+	out := probe.Noise(6, 100)
 	b := wrapped(pack(head(last, 1)+fixed().bytes(out)+fixed().end(), "0"), out)
 	for _, most := range []int{100, 101, math.MaxInt} {
 		wantZlib(t, b, most, out)
@@ -156,9 +157,9 @@ func TestZlibMost(t *testing.T) {
 // bits of a byte.
 func zlibCases() [][2][]byte {
 	p := fixed()
-	cases := [][2][]byte{{{3, 0}, nil}, {storedBytes(last, noise(3, 70)), noise(3, 70)}}
+	cases := [][2][]byte{{{3, 0}, nil}, {storedBytes(last, probe.Noise(3, 70)), probe.Noise(3, 70)}}
 	for n := range 9 {
-		b := noise(uint32(n), n)
+		b := probe.Noise(uint32(n), n)
 		for i := range b {
 			b[i] |= 144 // a code of nine bits
 		}
@@ -178,7 +179,7 @@ func TestZlibSum(t *testing.T) {
 			wrong[len(b)-4+bit/8] ^= 1 << (bit % 8)
 			wantZlibFault(t, wrong, plenty, api.ErrSum)
 		}
-		for _, tail := range [][]byte{{0}, {0xFF}, {0, 0, 0, 1}, noise(5, 40), b} {
+		for _, tail := range [][]byte{{0}, {0xFF}, {0, 0, 0, 1}, probe.Noise(5, 40), b} {
 			wantZlib(t, append(bytes.Clone(b), tail...), plenty, c[1])
 			wrong := append(bytes.Clone(b), tail...)
 			wrong[len(b)-1]++

@@ -9,6 +9,7 @@ import (
 
 	"darkroom/api"
 	"darkroom/prefix"
+	"darkroom/probe"
 )
 
 // wantBuilt asks for a good answer of P3.2 whose sum is cost, and answers it.
@@ -323,12 +324,12 @@ func TestBuildOfTooManySymbols(t *testing.T) {
 func TestBuildKeepsAndSharesNothing(t *testing.T) {
 	for _, counts := range [][]int{{}, {0, 0}, {0, 3, 0}, {5, 1, 1, 0}, {1, 1, 1}, {-1, 2}, noise(1, 500, 1000)} {
 		for _, most := range []int{0, 1, 9, 16} {
-			given, all := roomy(counts)
+			given, all := probe.Roomy(counts)
 			before := slices.Clone(all)
 			first, e := prefix.Build(given, most)
 			second, _ := prefix.Build(given, most)
 			want := slices.Clone(first)
-			spoil(first)
+			probe.Spoil(first)
 			third, e3 := prefix.Build(given, most)
 			what := fmt.Sprintf("Build(%s, %d)", short(counts), most)
 			if !slices.Equal(all, before) {

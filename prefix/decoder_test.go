@@ -10,6 +10,7 @@ import (
 	"darkroom/api"
 	"darkroom/bits"
 	"darkroom/prefix"
+	"darkroom/probe"
 )
 
 // plainNext goes bit by bit through text, as P3.3 tells it: the symbol, the
@@ -280,7 +281,7 @@ func TestDecoderKeepsNoLengths(t *testing.T) {
 	for name, lengths := range codeLists() {
 		given := slices.Clone(lengths)
 		d := decoderOf(t, given)
-		spoil(given)
+		probe.Spoil(given)
 		wantEachCode(t, name, d, lengths)
 	}
 }

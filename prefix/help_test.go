@@ -33,22 +33,6 @@ func with(list []int, at, x int) []int {
 	return c
 }
 
-// roomy answers list as the middle of a greater one, and that one: what is
-// written into spare room shows there.
-func roomy(list []int) ([]int, []int) {
-	all := alike(777, len(list)+16)
-	copy(all[8:], list)
-	return all[8 : 8+len(list)], all
-}
-
-// spoil changes a list and its spare room; to do it twice doesn't undo it.
-func spoil[T int | uint32](list []T) {
-	list = list[:cap(list)]
-	for i := range list {
-		list[i] += 101
-	}
-}
-
 // short tells a list, but not all of a long one.
 func short(list []int) string {
 	if len(list) <= 40 {

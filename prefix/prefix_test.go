@@ -6,6 +6,7 @@ import (
 
 	"darkroom/api"
 	"darkroom/prefix"
+	"darkroom/probe"
 )
 
 func wantRoom(t *testing.T, lengths []int, room int) {
@@ -126,7 +127,7 @@ func TestMoreCodesThanThereIsRoomFor(t *testing.T) {
 // R4: what is handed in stays, spare room included, and isn't read further.
 func TestLengthsStay(t *testing.T) {
 	for name, lengths := range codeLists() {
-		given, all := roomy(lengths)
+		given, all := probe.Roomy(lengths)
 		before := slices.Clone(all)
 		prefix.Room(given)
 		c, _ := prefix.Codes(given)
@@ -135,7 +136,7 @@ func TestLengthsStay(t *testing.T) {
 			t.Errorf("%s: %v", name, all)
 		}
 	}
-	over, all := roomy([]int{1, 1, 1})
+	over, all := probe.Roomy([]int{1, 1, 1})
 	before := slices.Clone(all)
 	wantFault(t, over, api.OK, api.ErrOver)
 	if !slices.Equal(all, before) {
@@ -149,7 +150,7 @@ func TestCodesAreNewMemory(t *testing.T) {
 		before := slices.Clone(lengths)
 		first, _ := prefix.Codes(lengths)
 		second, _ := prefix.Codes(lengths)
-		spoil(first)
+		probe.Spoil(first)
 		third, _ := prefix.Codes(lengths)
 		want := plainCodes(before)
 		if !slices.Equal(lengths, before) || !slices.Equal(second, want) || !slices.Equal(third, want) {

@@ -23,17 +23,6 @@ var numbers = []uint32{
 	0xFFF2FFF3, 0xFFFF0000, 0xFFFF0001, 0xFFFFFFFE, 0xFFFFFFFF,
 }
 
-// noise answers n bytes that look like none in particular, the same each time.
-func noise(n int) []byte {
-	b := make([]byte, n)
-	s := uint32(54321)
-	for i := range b {
-		s = s*1664525 + 1013904223
-		b[i] = byte(s >> 24)
-	}
-	return b
-}
-
 // alike answers n bytes x.
 func alike(x byte, n int) []byte { return bytes.Repeat([]byte{x}, n) }
 

@@ -5,6 +5,7 @@ import (
 	"sync"
 	"testing"
 
+	"darkroom/probe"
 	"darkroom/sums"
 )
 
@@ -85,10 +86,10 @@ func TestEveryByteFromEveryNumber(t *testing.T) {
 func TestListsFromEveryNumber(t *testing.T) {
 	var lists [][]byte
 	for n := range 70 {
-		lists = append(lists, noise(n), alike(255, n))
+		lists = append(lists, probe.Noise(0, n), alike(255, n))
 	}
 	for _, n := range []int{255, 256, 257, 5551, 5552, 5553, 65521, 70000} {
-		lists = append(lists, noise(n), alike(255, n))
+		lists = append(lists, probe.Noise(0, n), alike(255, n))
 	}
 	for _, k := range kinds {
 		for _, b := range lists {
@@ -154,7 +155,7 @@ func TestNothing(t *testing.T) {
 			wantSum(t, "CrcOn of nothing", sums.CrcOn(n, none), n)
 		}
 		for n := range 300 {
-			b := noise(n)
+			b := probe.Noise(0, n)
 			wantSum(t, "AdlerOn of nothing", sums.AdlerOn(sums.Adler(b), none), sums.Adler(b))
 		}
 	}
@@ -163,7 +164,7 @@ func TestNothing(t *testing.T) {
 // P2.3: wherever a list is cut, its sum is that of the first part gone on with.
 func TestGoneOn(t *testing.T) {
 	for _, k := range kinds {
-		for _, b := range [][]byte{[]byte("123456789"), []byte("Wikipedia"), noise(600), alike(255, 600), alike(0, 600)} {
+		for _, b := range [][]byte{[]byte("123456789"), []byte("Wikipedia"), probe.Noise(0, 600), alike(255, 600), alike(0, 600)} {
 			whole := k.of(b)
 			for cut := 0; cut <= len(b); cut++ {
 				wantSum(t, fmt.Sprintf("%s cut at %d", k.name, cut), k.on(k.of(b[:cut]), b[cut:]), whole)
@@ -182,7 +183,7 @@ func TestGoneOn(t *testing.T) {
 // R4: what is handed in stays, and what stands behind it is neither read nor
 // written.
 func TestNothingHandedInIsChanged(t *testing.T) {
-	all := noise(300)
+	all := probe.Noise(0, 300)
 	before := string(all)
 	b := all[10:100]
 	for _, k := range kinds {
@@ -197,7 +198,7 @@ func TestNothingHandedInIsChanged(t *testing.T) {
 
 // R5 and R6: no call hangs on those ahead of it, nor on those beside it.
 func TestCallsHangOnNothingElse(t *testing.T) {
-	b := noise(5000)
+	b := probe.Noise(0, 5000)
 	var ws sync.WaitGroup
 	for i := range 8 {
 		ws.Go(func() {
