@@ -1,20 +1,18 @@
 package deflate_test
 
 import (
-	"bytes"
 	"slices"
 	"testing"
 
-	"darkroom/deflate"
 	"darkroom/probe"
 )
 
 // wantAlike asks for the bound of bytes that are all alike.
 func wantAlike(t *testing.T, x byte, n int) {
 	t.Helper()
-	raw(t, alike(x, n), 0)
+	raw(t, probe.Alike(x, n), 0)
 	for level := 1; level <= 2; level++ {
-		if b := raw(t, alike(x, n), level); len(b) > 32+n/64 {
+		if b := raw(t, probe.Alike(x, n), level); len(b) > 32+n/64 {
 			t.Errorf("%d bytes %d take %d with level %d; want at most %d", n, x, len(b), level, 32+n/64)
 		}
 	}
@@ -43,7 +41,7 @@ func TestAlike(t *testing.T) {
 func TestBytesBetterStored(t *testing.T) {
 	t.Parallel()
 	for _, n := range []int{1, 2, 3, 4, 5, 8, 100, 256, 257, 1000, 65534, 65535, 65536} {
-		wantRaw(t, noneAgain(n))
+		wantRaw(t, probe.NoneAgain(n))
 		wantRaw(t, probe.Noise(1, n))
 		high := probe.Noise(2, n)
 		for i := range high {
@@ -52,7 +50,7 @@ func TestBytesBetterStored(t *testing.T) {
 		wantRaw(t, high)
 	}
 	for n := range 257 {
-		b := each()[256-n:]
+		b := probe.Each()[256-n:]
 		wantRaw(t, b)
 		slices.Reverse(b)
 		wantRaw(t, b)
@@ -65,33 +63,9 @@ func TestStoredBehindPacked(t *testing.T) {
 	t.Parallel()
 	for n := range 12 {
 		// Each packed part ends a few bits farther than that of the n ahead.
-		packed := slices.Concat(alike('p', 65535-2*n-1), probe.Noise(uint32(n), 2*n+1))
+		packed := slices.Concat(probe.Alike('p', 65535-2*n-1), probe.Noise(uint32(n), 2*n+1))
 		better := probe.Noise(uint32(n)+50, 65535)
 		wantRaw(t, slices.Concat(packed, better[:100+n]))
 		wantRaw(t, slices.Concat(packed, better, packed, better[:n]))
-	}
-}
-
-// P5.2, R5: the same bytes and level, wherever they stand and whatever was
-// asked ahead, give the same stream.
-func TestSameStream(t *testing.T) {
-	t.Parallel()
-	all := slices.Concat(texts(), longTexts())
-	for level := range 3 {
-		var first, firstZ [][]byte
-		for _, x := range all {
-			r, _ := deflate.Raw(x.b, level)
-			z, _ := deflate.Zlib(x.b, level)
-			first, firstZ = append(first, r), append(firstZ, z)
-		}
-		for i, x := range slices.Backward(all) {
-			given, _ := probe.Roomy(x.b)
-			if r, _ := deflate.Raw(given, level); !bytes.Equal(r, first[i]) {
-				t.Errorf("%s: %s, then %s", x.name, probe.Short(first[i]), probe.Short(r))
-			}
-			if z, _ := deflate.Zlib(given, level); !bytes.Equal(z, firstZ[i]) {
-				t.Errorf("%s: %s, then %s", x.name, probe.Short(firstZ[i]), probe.Short(z))
-			}
-		}
 	}
 }

@@ -14,39 +14,6 @@ import (
 	"darkroom/probe"
 )
 
-// few is noise of so many letters.
-func few(seed uint32, n, letters int) []byte {
-	b := probe.Noise(seed, n)
-	for i := range b {
-		b[i] = byte(int(b[i]) * letters / 256)
-	}
-	return b
-}
-
-func alike(x byte, n int) []byte { return bytes.Repeat([]byte{x}, n) }
-
-// each answers all bytes, each once.
-func each() []byte {
-	b := make([]byte, 256)
-	for i := range b {
-		b[i] = byte(i)
-	}
-	return b
-}
-
-// noneAgain answers n bytes, at most 65536, of which no three, nor any two,
-// come again.
-func noneAgain(n int) []byte {
-	var b []byte
-	for x := 0; x < 256 && len(b) < n; x++ {
-		b = append(b, byte(x))
-		for y := x + 1; y < 256; y++ {
-			b = append(b, byte(x), byte(y))
-		}
-	}
-	return b[:n]
-}
-
 // again answers a text in which the string s stands twice, the second time just
 // distance bytes behind where it stood first.
 func again(seed uint32, s []byte, distance int) []byte {
@@ -65,10 +32,10 @@ func again(seed uint32, s []byte, distance int) []byte {
 func skewed(counts []int) []byte {
 	var singles []byte
 	for x, n := range counts {
-		singles = append(singles, alike(byte(x), n)...)
+		singles = append(singles, probe.Alike(byte(x), n)...)
 	}
 	mix(singles)
-	b := noneAgain(65535)
+	b := probe.NoneAgain(65535)
 	source := b[len(b)-4*len(singles):]
 	for i, x := range singles {
 		b = append(append(b, source[4*i:4*i+3]...), x)
@@ -96,53 +63,23 @@ func rising(n int) []int {
 	return counts[:n]
 }
 
-// A text is bytes to be deflated.
-type text struct {
-	name string
-	b    []byte
-}
-
-// texts are of all kinds, each short enough to be deflated often.
-func texts() []text {
-	few5, few2 := few(1, 9000, 5), few(2, 9000, 2)
-	return []text{
-		{"nothing", nil},
-		{"one", []byte{7}},
-		{"two", []byte{0xFF, 0}},
-		{"three alike", alike('x', 3)},
-		{"four alike", alike('x', 4)},
-		{"each byte", each()},
-		{"each byte twice", slices.Concat(each(), each())},
-		{"words", []byte(strings.Repeat("a line of a text that is told again, ", 50))},
-		{"no two alike", []byte("no two alike: xyzw")},
-		{"three again", []byte("abcabdabeabfabgabhabcab")},
-		{"noise", probe.Noise(1, 5000)},
-		{"five letters", few5},
-		{"two letters", few2},
-		{"high bytes", bytes.Map(func(r rune) rune { return r%40 + 60 }, few5)},
-		{"none again", noneAgain(6000)},
-		{"noise, then alike", slices.Concat(probe.Noise(3, 900), alike(9, 900))},
-		{"alike, then noise", slices.Concat(alike(9, 900), probe.Noise(3, 900))},
-	}
-}
-
 // longTexts are longer than a stored block may be.
-func longTexts() []text {
+func longTexts() []probe.Text {
 	stripes := make([]byte, 70000)
 	for i := range stripes {
 		stripes[i] = byte(i / 300)
 	}
-	return []text{
-		{"long words", []byte(strings.Repeat("a line of a text that is told again, ", 4000))},
-		{"long noise", probe.Noise(4, 140000)},
-		{"long few letters", few(5, 150000, 20)},
-		{"long none again", noneAgain(65536)},
-		{"stripes", stripes},
-		{"noise again", slices.Concat(probe.Noise(6, 65535), probe.Noise(6, 65535), probe.Noise(7, 100))},
-		{"noise and alike by turns", slices.Concat(probe.Noise(8, 65535), alike(3, 65535), probe.Noise(9, 65535), alike(4, 65535), probe.Noise(8, 65535))},
-		{"few letters and noise by turns", slices.Concat(few(1, 65535, 3), probe.Noise(1, 65535), few(2, 65535, 7), probe.Noise(2, 65535))},
-		{"skewed", skewed(rising(17))},
-		{"all skewed", slices.Repeat(skewed(rising(17)), 2)},
+	return []probe.Text{
+		{Name: "long words", B: []byte(strings.Repeat("a line of a text that is told again, ", 4000))},
+		{Name: "long noise", B: probe.Noise(4, 140000)},
+		{Name: "long few letters", B: probe.Few(5, 150000, 20)},
+		{Name: "long none again", B: probe.NoneAgain(65536)},
+		{Name: "stripes", B: stripes},
+		{Name: "noise again", B: slices.Concat(probe.Noise(6, 65535), probe.Noise(6, 65535), probe.Noise(7, 100))},
+		{Name: "noise and alike by turns", B: slices.Concat(probe.Noise(8, 65535), probe.Alike(3, 65535), probe.Noise(9, 65535), probe.Alike(4, 65535), probe.Noise(8, 65535))},
+		{Name: "few letters and noise by turns", B: slices.Concat(probe.Few(1, 65535, 3), probe.Noise(1, 65535), probe.Few(2, 65535, 7), probe.Noise(2, 65535))},
+		{Name: "skewed", B: skewed(rising(17))},
+		{Name: "all skewed", B: slices.Repeat(skewed(rising(17)), 2)},
 	}
 }
 

@@ -44,8 +44,8 @@ func TestLevelsOutOfRange(t *testing.T) {
 // P5.1, P5.2: texts of all kinds, at each level.
 func TestRawOfTexts(t *testing.T) {
 	t.Parallel()
-	for _, x := range slices.Concat(texts(), longTexts()) {
-		t.Run(x.name, func(t *testing.T) { wantRaw(t, x.b) })
+	for _, x := range slices.Concat(probe.Texts(), longTexts()) {
+		t.Run(x.Name, func(t *testing.T) { wantRaw(t, x.B) })
 	}
 }
 
@@ -76,7 +76,7 @@ func TestRawOfAllShortTexts(t *testing.T) {
 func TestStored(t *testing.T) {
 	t.Parallel()
 	for _, n := range []int{0, 1, 2, 65534, 65535, 65536, 2*65535 - 1, 2 * 65535, 2*65535 + 1, 200000} {
-		for _, b := range [][]byte{alike('a', n), probe.Noise(1, n)} {
+		for _, b := range [][]byte{probe.Alike('a', n), probe.Noise(1, n)} {
 			x := raw(t, b, 0)
 			if kinds := walked(t, x).kinds; slices.Max(kinds) != 0 || len(x) != n+5*len(kinds) {
 				t.Errorf("%d bytes: %d, of the kinds %v", n, len(x), kinds)
@@ -92,7 +92,7 @@ func TestRawAroundStoredBlocks(t *testing.T) {
 		for d := -2; d <= 2; d++ {
 			n := border + d
 			wantRaw(t, probe.Noise(uint32(n), n))
-			wantRaw(t, few(uint32(n), n, 30))
+			wantRaw(t, probe.Few(uint32(n), n, 30))
 			wantRaw(t, bytes.Repeat([]byte("0123456789"), n/10+1)[:n])
 		}
 	}
@@ -115,7 +115,7 @@ func TestEachLength(t *testing.T) {
 	t.Parallel()
 	for n := 1; n <= 520; n++ {
 		wantRaw(t, again(uint32(n), probe.Noise(5, n), n+2))
-		wantRaw(t, append(alike('r', n), 's'))
+		wantRaw(t, append(probe.Alike('r', n), 's'))
 	}
 }
 
@@ -136,7 +136,7 @@ func TestStringsOverBorders(t *testing.T) {
 	t.Parallel()
 	s := probe.Noise(1, 300)
 	for _, at := range []int{65535 - 301, 65535 - 300, 65535 - 299, 65535 - 3, 65535 - 1, 65535, 65536} {
-		for _, between := range [][]byte{probe.Noise(2, at), alike(5, at), few(3, at, 4)} {
+		for _, between := range [][]byte{probe.Noise(2, at), probe.Alike(5, at), probe.Few(3, at, 4)} {
 			b := slices.Concat(s, between)[:at]
 			wantRaw(t, slices.Concat(b, s, probe.Noise(9, 40)))
 			b = slices.Concat(between[:at-400], s, between)[:at]
@@ -168,13 +168,13 @@ func TestGapsBetweenSymbols(t *testing.T) {
 	t.Parallel()
 	for gap := 1; gap < 255; gap++ {
 		letters := []byte{0, byte(gap), byte(min(gap+3, 255)), byte(min(2*gap+5, 255))}
-		b := few(uint32(gap), 400, len(letters))
+		b := probe.Few(uint32(gap), 400, len(letters))
 		for i := range b {
 			b[i] = letters[b[i]]
 		}
 		wantRaw(t, b)
-		wantRaw(t, few(uint32(gap), 400, gap))
-		wantRaw(t, append(few(uint32(gap), 900, gap), each()...))
+		wantRaw(t, probe.Few(uint32(gap), 400, gap))
+		wantRaw(t, append(probe.Few(uint32(gap), 900, gap), probe.Each()...))
 	}
 }
 
@@ -182,33 +182,16 @@ func TestGapsBetweenSymbols(t *testing.T) {
 func TestRawOfPieces(t *testing.T) {
 	t.Parallel()
 	for i := range uint32(400) {
-		dice := probe.Noise(i, 40)
-		var b []byte
-		for j := 0; j+3 < len(dice); j += 4 {
-			n := int(dice[j+1])*(1+int(dice[j+2])%4) + 1
-			switch from := len(b) - int(dice[j+2])*16 - int(dice[j+3]); {
-			case dice[j]%4 == 0:
-				b = append(b, probe.Noise(i+uint32(j), n)...)
-			case dice[j]%4 == 1:
-				b = append(b, few(i+uint32(j), n, 2+int(dice[j+3])%40)...)
-			case dice[j]%4 == 2 || from < 0:
-				b = append(b, alike(dice[j+3], n)...)
-			default:
-				for k := range n {
-					b = append(b, b[from+k])
-				}
-			}
-		}
-		wantRaw(t, b)
+		wantRaw(t, probe.Pieces(i, 10))
 	}
 }
 
 // P5.1: what is packed already is read back as it was packed.
 func TestRawOfStreams(t *testing.T) {
 	t.Parallel()
-	for _, x := range texts() {
+	for _, x := range probe.Texts() {
 		for level := range 3 {
-			b := raw(t, x.b, level)
+			b := raw(t, x.B, level)
 			wantRaw(t, b)
 		}
 	}
@@ -217,7 +200,7 @@ func TestRawOfStreams(t *testing.T) {
 	if err != nil {
 		t.Fatal(err)
 	}
-	z.Write(noneAgain(65536))
+	z.Write(probe.NoneAgain(65536))
 	z.Close()
 	wantRaw(t, w.Bytes())
 }

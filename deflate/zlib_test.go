@@ -59,8 +59,8 @@ func wantRead(t *testing.T, z, b []byte) {
 // P5.3: texts of all kinds, at each level.
 func TestZlibOfTexts(t *testing.T) {
 	t.Parallel()
-	for _, x := range slices.Concat(texts(), longTexts()) {
-		t.Run(x.name, func(t *testing.T) { wantZlib(t, x.b) })
+	for _, x := range slices.Concat(probe.Texts(), longTexts()) {
+		t.Run(x.Name, func(t *testing.T) { wantZlib(t, x.B) })
 	}
 }
 
@@ -74,7 +74,7 @@ func TestZlibOfFewAndAlike(t *testing.T) {
 		wantZlib(t, []byte{byte(x)})
 	}
 	for _, n := range []int{2, 3, 257, 258, 259, 5552, 5553, 65535, 65536, 70000} {
-		wantZlib(t, alike(0xFF, n))
+		wantZlib(t, probe.Alike(0xFF, n))
 		wantZlib(t, probe.Noise(uint32(n), n))
 	}
 }
@@ -82,16 +82,16 @@ func TestZlibOfFewAndAlike(t *testing.T) {
 // P5.3: a stream that is cut off, or has a byte changed, isn't read as b.
 func TestZlibIsLookedAt(t *testing.T) {
 	t.Parallel()
-	for _, x := range texts()[:10] {
+	for _, x := range probe.Texts()[:10] {
 		for level := range 3 {
-			z, _ := deflate.Zlib(x.b, level)
+			z, _ := deflate.Zlib(x.B, level)
 			for n := range len(z) {
-				if y, e := inflate.Zlib(z[:n], len(x.b)); e == api.OK {
-					t.Fatalf("%s: %d of %d bytes are read as %s", x.name, n, len(z), probe.Short(y))
+				if y, e := inflate.Zlib(z[:n], len(x.B)); e == api.OK {
+					t.Fatalf("%s: %d of %d bytes are read as %s", x.Name, n, len(z), probe.Short(y))
 				}
 			}
-			if y, e := inflate.Zlib(append(z, 1, 2), len(x.b)); !bytes.Equal(y, x.b) || e != api.OK {
-				t.Fatalf("%s: %s, %d", x.name, probe.Short(y), e)
+			if y, e := inflate.Zlib(append(z, 1, 2), len(x.B)); !bytes.Equal(y, x.B) || e != api.OK {
+				t.Fatalf("%s: %s, %d", x.Name, probe.Short(y), e)
 			}
 		}
 	}

@@ -51,3 +51,33 @@ func TestShort(t *testing.T) {
 		t.Error(s)
 	}
 }
+
+func TestTexts(t *testing.T) {
+	if b := probe.Few(1, 5000, 3); len(b) != 5000 || slices.Max(b) != 2 || slices.Min(b) != 0 || !bytes.Contains(b, []byte{1}) {
+		t.Error(probe.Short(b))
+	}
+	if b := probe.Each(); len(b) != 256 || b[0] != 0 || b[7] != 7 || b[255] != 255 {
+		t.Error(b)
+	}
+	if b := probe.Alike(7, 3); !bytes.Equal(b, []byte{7, 7, 7}) {
+		t.Error(b)
+	}
+	b := probe.NoneAgain(65536)
+	seen := map[[2]byte]bool{}
+	for i := range len(b) - 1 {
+		seen[[2]byte{b[i], b[i+1]}] = true
+	}
+	if len(b) != 65536 || len(seen) != 65535 || len(probe.NoneAgain(3)) != 3 {
+		t.Error("bytes come again:", len(b), len(seen))
+	}
+	if b := probe.Pieces(1, 20); len(b) < 1000 || !bytes.Equal(b, probe.Pieces(1, 20)) || bytes.Equal(b, probe.Pieces(2, 20)) {
+		t.Error(probe.Short(b))
+	}
+	names := map[string]bool{}
+	for _, x := range probe.Texts() {
+		names[x.Name] = true
+	}
+	if len(names) != len(probe.Texts()) {
+		t.Error("two texts have one name")
+	}
+}

@@ -1,0 +1,70 @@
+package probe
+
+import (
+	"bytes"
+	"slices"
+	"strconv"
+	"sync"
+
+	"darkroom/api"
+)
+
+// Kept answers how a call breaks the rule of what is handed in and answered, ""
+// if it doesn't: b is read alone, stays and isn't kept, spare room included,
+// and what is answered is new memory.
+func Kept(b []byte, call func(b []byte) ([]byte, api.Errno)) string {
+	want, wantE := call(slices.Clone(b))
+	wanted := string(want)
+	given, all := Roomy(b)
+	before := string(all)
+	first, e := call(given)
+	second, _ := call(given)
+	if e != wantE || string(first) != wanted {
+		return "what wasn't handed in is read: " + Short(first)
+	}
+	Spoil(first)
+	if string(all) != before {
+		return "what was handed in is changed, or answered"
+	}
+	if string(second) != wanted || string(want) != wanted {
+		return "answers share memory"
+	}
+	Spoil(all)
+	if string(second) != wanted {
+		return "what was handed in is answered"
+	}
+	Spoil(want)
+	Spoil(second)
+	if third, e := call(slices.Clone(b)); e != wantE || string(third) != wanted {
+		return "what was handed in, or answered, is kept"
+	}
+	return ""
+}
+
+// Steady answers which of n calls hangs on those ahead of it or beside it, "" if
+// none does.
+func Steady(n int, call func(i int) ([]byte, api.Errno)) string {
+	type answer struct {
+		b []byte
+		e api.Errno
+	}
+	all := make([]answer, n)
+	for i := range all {
+		all[i].b, all[i].e = call(i)
+	}
+	const beside = 8
+	var faults [beside]string
+	var ws sync.WaitGroup
+	for g := range beside {
+		ws.Go(func() {
+			for j := range all {
+				i := (g + (2*g+1)*(n-1-j)) % n
+				if b, e := call(i); e != all[i].e || !bytes.Equal(b, all[i].b) {
+					faults[g] = "call " + strconv.Itoa(i) + ": " + Short(all[i].b) + ", then " + Short(b)
+				}
+			}
+		})
+	}
+	ws.Wait()
+	return slices.Max(faults[:])
+}
