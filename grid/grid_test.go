@@ -1,0 +1,214 @@
+package grid_test
+
+import (
+	"slices"
+	"strconv"
+	"testing"
+
+	"darkroom/api"
+	"darkroom/grid"
+	"darkroom/probe"
+)
+
+// P7.1: each size that may be, and its cells.
+func TestNew(t *testing.T) {
+	for _, s := range sizes() {
+		g, e := grid.New[int](s.w, s.h)
+		if e != api.OK {
+			t.Fatal(s, e)
+		}
+		wantGrid(t, g, s.w, s.h, make([]int, s.w*s.h))
+	}
+}
+
+// P7.1: cells of all kinds are their kind's zero ones.
+func TestNewOfOtherKinds(t *testing.T) {
+	strings, _ := grid.New[string](2, 3)
+	wantGrid(t, strings, 2, 3, make([]string, 6))
+	spots, _ := grid.New[spot](3, 2)
+	wantGrid(t, spots, 3, 2, make([]spot, 6))
+	pointers, _ := grid.New[*int](1, 2)
+	wantGrid(t, pointers, 1, 2, make([]*int, 2))
+	arrays, _ := grid.New[[3]uint16](2, 1)
+	wantGrid(t, arrays, 2, 1, make([][3]uint16, 2))
+	errors, _ := grid.New[error](2, 2)
+	wantGrid(t, errors, 2, 2, make([]error, 4))
+	nothings, _ := grid.New[struct{}](2, 2)
+	wantGrid(t, nothings, 2, 2, make([]struct{}, 4))
+	if functions, e := grid.New[func()](2, 1); e != api.OK || len(functions.Cells()) != 2 || functions.Cells()[1] != nil {
+		t.Error("functions", e)
+	}
+}
+
+// P7.1: sizes that may not be.
+func TestNewSizes(t *testing.T) {
+	for _, s := range wrongSizes() {
+		if g, e := grid.New[byte](s.w, s.h); e != api.ErrSize || g != nil {
+			t.Errorf("New(%d, %d) = %v, %d", s.w, s.h, g, e)
+		}
+	}
+}
+
+// P7.1: the document's example, and cells of each kind.
+func TestOf(t *testing.T) {
+	g := made(t, 2, 2, []int{1, 2, 3, 4})
+	if v, ok := g.At(1, 0); v != 2 || !ok {
+		t.Error(v, ok)
+	}
+	for _, s := range sizes() {
+		wantGrid(t, counted(t, s.w, s.h, 7), s.w, s.h, count(7, s.w*s.h))
+	}
+	words := []string{"a", "", "longer", "b", "a", "é"}
+	wantGrid(t, made(t, 2, 3, words), 2, 3, words)
+	spots := []spot{{"a", api.Point{X: 1, Y: 2}}, {}, {"b", api.Point{X: -1}}}
+	wantGrid(t, made(t, 3, 1, spots), 3, 1, spots)
+	wantGrid(t, made(t, 1, 3, spots), 1, 3, spots)
+	colours := []api.Color{{R: 1}, {G: 2}, {B: 65535}, {A: 4}}
+	wantGrid(t, made(t, 2, 2, colours), 2, 2, colours)
+	lists := made(t, 1, 2, [][]int{{1, 2}, nil})
+	if v, ok := lists.At(0, 0); !slices.Equal(v, []int{1, 2}) || !ok {
+		t.Error(v, ok)
+	}
+}
+
+// P7.1: sizes that may not be go ahead of lists that don't fit; so they do where
+// the list has just as many cells as the product says.
+func TestOfSizes(t *testing.T) {
+	for _, s := range wrongSizes() {
+		lengths := []int{0, 1, 5}
+		if n := s.w * s.h; n >= 0 && n <= 1<<20 {
+			lengths = append(lengths, n, n+1)
+		}
+		for _, n := range lengths {
+			if g, e := grid.Of(s.w, s.h, make([]byte, n)); e != api.ErrSize || g != nil {
+				t.Errorf("Of(%d, %d, %d cells) = %v, %d", s.w, s.h, n, g, e)
+			}
+		}
+		if g, e := grid.Of[string](s.w, s.h, nil); e != api.ErrSize || g != nil {
+			t.Errorf("Of(%d, %d, nil) = %v, %d", s.w, s.h, g, e)
+		}
+	}
+}
+
+// P7.1: one cell too few, one too many, none, a row too many.
+func TestOfLengths(t *testing.T) {
+	for _, s := range sizes() {
+		n := s.w * s.h
+		for _, wrong := range []int{0, n - 1, n + 1, n + s.w, 2 * n} {
+			if g, e := grid.Of(s.w, s.h, make([]byte, wrong)); e != api.ErrLong || g != nil {
+				t.Errorf("Of(%d, %d, %d cells) = %v, %d", s.w, s.h, wrong, g, e)
+			}
+		}
+		if g, e := grid.Of[spot](s.w, s.h, nil); e != api.ErrLong || g != nil {
+			t.Errorf("Of(%d, %d, nil) = %v, %d", s.w, s.h, g, e)
+		}
+	}
+}
+
+// P7.1: a cell that stands in spare room doesn't count.
+func TestOfSpareRoom(t *testing.T) {
+	list, all := probe.Roomy([]int{1, 2, 3, 4, 5})
+	if g, e := grid.Of(3, 2, list); e != api.ErrLong || g != nil {
+		t.Error(g, e)
+	}
+	wantGrid(t, made(t, 5, 1, list), 5, 1, []int{1, 2, 3, 4, 5})
+	if all[len(all)-1] != 238 {
+		t.Error("changed:", all)
+	}
+}
+
+// around answers places just within and just outside of a grid, on each side,
+// and far ones.
+func around(s size) []api.Point {
+	xs := append(far(), -2, -1, 0, 1, s.w/2, s.w-1, s.w, s.w+1, 2*s.w, api.MaxSide, api.MaxSide+1)
+	ys := append(far(), -2, -1, 0, 1, s.h/2, s.h-1, s.h, s.h+1, 2*s.h, api.MaxSide, api.MaxSide+1)
+	var all []api.Point
+	for _, y := range ys {
+		for _, x := range xs {
+			all = append(all, api.Point{X: x, Y: y})
+		}
+	}
+	return all
+}
+
+// within says of a place whether a grid has it.
+func within(s size, p api.Point) bool {
+	return p.X >= 0 && p.X < s.w && p.Y >= 0 && p.Y < s.h
+}
+
+// P7.1: At, on and around each edge.
+func TestAt(t *testing.T) {
+	for _, s := range sizes() {
+		g := counted(t, s.w, s.h, 1)
+		for _, p := range around(s) {
+			want, there := 0, within(s, p)
+			if there {
+				want = 1 + p.Y*s.w + p.X
+			}
+			if v, ok := g.At(p.X, p.Y); v != want || ok != there {
+				t.Errorf("%v: At(%d, %d) = %d, %v; want %d, %v", s, p.X, p.Y, v, ok, want, there)
+			}
+		}
+	}
+}
+
+// P7.1, R3: beside false stands the zero cell.
+func TestAtZero(t *testing.T) {
+	words := made(t, 1, 1, []string{"a"})
+	if v, ok := words.At(1, 0); v != "" || ok {
+		t.Error(v, ok)
+	}
+	spots := made(t, 1, 1, []spot{{name: "a"}})
+	if v, ok := spots.At(0, -1); v != (spot{}) || ok {
+		t.Error(v, ok)
+	}
+}
+
+// P7.1: Set sets one cell where there is one, and nothing else.
+func TestSet(t *testing.T) {
+	for _, s := range []size{{1, 1}, {4, 1}, {1, 3}, {4, 3}, {3, 4}} {
+		for _, p := range around(s) {
+			g, want := counted(t, s.w, s.h, 1), count(1, s.w*s.h)
+			if within(s, p) {
+				want[p.Y*s.w+p.X] = 99
+			}
+			if ok := g.Set(p.X, p.Y, 99); ok != within(s, p) {
+				t.Errorf("%v: Set(%d, %d) = %v", s, p.X, p.Y, ok)
+			}
+			wantGrid(t, g, s.w, s.h, want)
+		}
+	}
+}
+
+// P7.1: Set, at the last places of the greatest grids.
+func TestSetFarthest(t *testing.T) {
+	for _, s := range sizes() {
+		g, want := counted(t, s.w, s.h, 1), count(1, s.w*s.h)
+		for _, x := range []int{0, s.w - 1} {
+			for _, y := range []int{0, s.h - 1} {
+				if !g.Set(x, y, -5) {
+					t.Error(s, x, y)
+				}
+				want[y*s.w+x] = -5
+			}
+		}
+		if g.Set(s.w, s.h-1, -6) || g.Set(s.w-1, s.h, -6) || g.Set(-1, 0, -6) || g.Set(0, -1, -6) {
+			t.Error("outside of", s)
+		}
+		wantGrid(t, g, s.w, s.h, want)
+	}
+}
+
+// P7.1: a cell may be set again, back to zero too; grids of other kinds.
+func TestSetAgain(t *testing.T) {
+	g, _ := grid.New[string](2, 2)
+	for i, word := range []string{"a", "b", "", "c"} {
+		if !g.Set(1, 0, word) || !g.Set(0, 1, strconv.Itoa(i)) {
+			t.Error(i)
+		}
+		wantGrid(t, g, 2, 2, []string{"", word, strconv.Itoa(i), ""})
+	}
+	s, _ := grid.New[spot](1, 2)
+	s.Set(0, 1, spot{"x", api.Point{X: 3}})
+	wantGrid(t, s, 1, 2, []spot{{}, {"x", api.Point{X: 3}}})
+}
