@@ -29,7 +29,7 @@ func TestRowsStopped(t *testing.T) {
 	for _, s := range append(smallSizes(), size{1, api.MaxSide}) {
 		g := counted(t, s.w, s.h, 1)
 		rows := g.Rows()
-		for n := 1; n <= s.h; n += 1 + n/9 {
+		for n := 1; n <= s.h; n += 1 + n/64 {
 			given := 0
 			rows(func(y int, row []int) bool {
 				if y != given || row[0] != 1+y*s.w {
@@ -50,7 +50,7 @@ func TestAllStopped(t *testing.T) {
 	for _, s := range append(smallSizes(), size{api.MaxSide, 1}) {
 		g := counted(t, s.w, s.h, 1)
 		all := g.All()
-		for n := 1; n <= s.w*s.h; n += 1 + n/9 {
+		for n := 1; n <= s.w*s.h; n += 1 + n/64 {
 			given := 0
 			all(func(p api.Point, v int) bool {
 				if p != (api.Point{X: given % s.w, Y: given / s.w}) || v != 1+given {
