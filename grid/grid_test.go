@@ -12,12 +12,12 @@ import (
 
 // P7.1: each size that may be, and its cells.
 func TestNew(t *testing.T) {
-	for _, s := range sizes() {
-		g, e := grid.New[int](s.w, s.h)
+	for _, s := range probe.Sizes() {
+		g, e := grid.New[int](s.W, s.H)
 		if e != api.OK {
 			t.Fatal(s, e)
 		}
-		wantGrid(t, g, s.w, s.h, make([]int, s.w*s.h))
+		wantGrid(t, g, s.W, s.H, make([]int, s.W*s.H))
 	}
 }
 
@@ -42,9 +42,9 @@ func TestNewOfOtherKinds(t *testing.T) {
 
 // P7.1: sizes that may not be.
 func TestNewSizes(t *testing.T) {
-	for _, s := range wrongSizes() {
-		if g, e := grid.New[byte](s.w, s.h); e != api.ErrSize || g != nil {
-			t.Errorf("New(%d, %d) = %v, %d", s.w, s.h, g, e)
+	for _, s := range probe.WrongSizes() {
+		if g, e := grid.New[byte](s.W, s.H); e != api.ErrSize || g != nil {
+			t.Errorf("New(%d, %d) = %v, %d", s.W, s.H, g, e)
 		}
 	}
 }
@@ -55,8 +55,8 @@ func TestOf(t *testing.T) {
 	if v, ok := g.At(1, 0); v != 2 || !ok {
 		t.Error(v, ok)
 	}
-	for _, s := range sizes() {
-		wantGrid(t, counted(t, s.w, s.h, 7), s.w, s.h, count(7, s.w*s.h))
+	for _, s := range probe.Sizes() {
+		wantGrid(t, counted(t, s.W, s.H, 7), s.W, s.H, count(7, s.W*s.H))
 	}
 	words := []string{"a", "", "longer", "b", "a", "é"}
 	wantGrid(t, made(t, 2, 3, words), 2, 3, words)
@@ -74,33 +74,33 @@ func TestOf(t *testing.T) {
 // P7.1: sizes that may not be go ahead of lists that don't fit; so they do where
 // the list has just as many cells as the product says.
 func TestOfSizes(t *testing.T) {
-	for _, s := range wrongSizes() {
+	for _, s := range probe.WrongSizes() {
 		lengths := []int{0, 1, 5}
-		if n := s.w * s.h; n >= 0 && n <= 1<<20 {
+		if n := s.W * s.H; n >= 0 && n <= 1<<20 {
 			lengths = append(lengths, n, n+1)
 		}
 		for _, n := range lengths {
-			if g, e := grid.Of(s.w, s.h, make([]byte, n)); e != api.ErrSize || g != nil {
-				t.Errorf("Of(%d, %d, %d cells) = %v, %d", s.w, s.h, n, g, e)
+			if g, e := grid.Of(s.W, s.H, make([]byte, n)); e != api.ErrSize || g != nil {
+				t.Errorf("Of(%d, %d, %d cells) = %v, %d", s.W, s.H, n, g, e)
 			}
 		}
-		if g, e := grid.Of[string](s.w, s.h, nil); e != api.ErrSize || g != nil {
-			t.Errorf("Of(%d, %d, nil) = %v, %d", s.w, s.h, g, e)
+		if g, e := grid.Of[string](s.W, s.H, nil); e != api.ErrSize || g != nil {
+			t.Errorf("Of(%d, %d, nil) = %v, %d", s.W, s.H, g, e)
 		}
 	}
 }
 
 // P7.1: one cell too few, one too many, none, a row too many.
 func TestOfLengths(t *testing.T) {
-	for _, s := range sizes() {
-		n := s.w * s.h
-		for _, wrong := range []int{0, n - 1, n + 1, n + s.w, 2 * n} {
-			if g, e := grid.Of(s.w, s.h, make([]byte, wrong)); e != api.ErrLong || g != nil {
-				t.Errorf("Of(%d, %d, %d cells) = %v, %d", s.w, s.h, wrong, g, e)
+	for _, s := range probe.Sizes() {
+		n := s.W * s.H
+		for _, wrong := range []int{0, n - 1, n + 1, n + s.W, 2 * n} {
+			if g, e := grid.Of(s.W, s.H, make([]byte, wrong)); e != api.ErrLong || g != nil {
+				t.Errorf("Of(%d, %d, %d cells) = %v, %d", s.W, s.H, wrong, g, e)
 			}
 		}
-		if g, e := grid.Of[spot](s.w, s.h, nil); e != api.ErrLong || g != nil {
-			t.Errorf("Of(%d, %d, nil) = %v, %d", s.w, s.h, g, e)
+		if g, e := grid.Of[spot](s.W, s.H, nil); e != api.ErrLong || g != nil {
+			t.Errorf("Of(%d, %d, nil) = %v, %d", s.W, s.H, g, e)
 		}
 	}
 }
@@ -117,33 +117,14 @@ func TestOfSpareRoom(t *testing.T) {
 	}
 }
 
-// around answers places just within and just outside of a grid, on each side,
-// and far ones.
-func around(s size) []api.Point {
-	xs := append(far(), -2, -1, 0, 1, s.w/2, s.w-1, s.w, s.w+1, 2*s.w, api.MaxSide, api.MaxSide+1)
-	ys := append(far(), -2, -1, 0, 1, s.h/2, s.h-1, s.h, s.h+1, 2*s.h, api.MaxSide, api.MaxSide+1)
-	var all []api.Point
-	for _, y := range ys {
-		for _, x := range xs {
-			all = append(all, api.Point{X: x, Y: y})
-		}
-	}
-	return all
-}
-
-// within says of a place whether a grid has it.
-func within(s size, p api.Point) bool {
-	return p.X >= 0 && p.X < s.w && p.Y >= 0 && p.Y < s.h
-}
-
 // P7.1: At, on and around each edge.
 func TestAt(t *testing.T) {
-	for _, s := range sizes() {
-		g := counted(t, s.w, s.h, 1)
-		for _, p := range around(s) {
-			want, there := 0, within(s, p)
+	for _, s := range probe.Sizes() {
+		g := counted(t, s.W, s.H, 1)
+		for _, p := range probe.Around(s) {
+			want, there := 0, probe.Within(s, p)
 			if there {
-				want = 1 + p.Y*s.w + p.X
+				want = 1 + p.Y*s.W + p.X
 			}
 			if v, ok := g.At(p.X, p.Y); v != want || ok != there {
 				t.Errorf("%v: At(%d, %d) = %d, %v; want %d, %v", s, p.X, p.Y, v, ok, want, there)
@@ -166,36 +147,36 @@ func TestAtZero(t *testing.T) {
 
 // P7.1: Set sets one cell where there is one, and nothing else.
 func TestSet(t *testing.T) {
-	for _, s := range []size{{1, 1}, {4, 1}, {1, 3}, {4, 3}, {3, 4}} {
-		for _, p := range around(s) {
-			g, want := counted(t, s.w, s.h, 1), count(1, s.w*s.h)
-			if within(s, p) {
-				want[p.Y*s.w+p.X] = 99
+	for _, s := range []probe.Size{{1, 1}, {4, 1}, {1, 3}, {4, 3}, {3, 4}} {
+		for _, p := range probe.Around(s) {
+			g, want := counted(t, s.W, s.H, 1), count(1, s.W*s.H)
+			if probe.Within(s, p) {
+				want[p.Y*s.W+p.X] = 99
 			}
-			if ok := g.Set(p.X, p.Y, 99); ok != within(s, p) {
+			if ok := g.Set(p.X, p.Y, 99); ok != probe.Within(s, p) {
 				t.Errorf("%v: Set(%d, %d) = %v", s, p.X, p.Y, ok)
 			}
-			wantGrid(t, g, s.w, s.h, want)
+			wantGrid(t, g, s.W, s.H, want)
 		}
 	}
 }
 
 // P7.1: Set, at the last places of the greatest grids.
 func TestSetFarthest(t *testing.T) {
-	for _, s := range sizes() {
-		g, want := counted(t, s.w, s.h, 1), count(1, s.w*s.h)
-		for _, x := range []int{0, s.w - 1} {
-			for _, y := range []int{0, s.h - 1} {
+	for _, s := range probe.Sizes() {
+		g, want := counted(t, s.W, s.H, 1), count(1, s.W*s.H)
+		for _, x := range []int{0, s.W - 1} {
+			for _, y := range []int{0, s.H - 1} {
 				if !g.Set(x, y, -5) {
 					t.Error(s, x, y)
 				}
-				want[y*s.w+x] = -5
+				want[y*s.W+x] = -5
 			}
 		}
-		if g.Set(s.w, s.h-1, -6) || g.Set(s.w-1, s.h, -6) || g.Set(-1, 0, -6) || g.Set(0, -1, -6) {
+		if g.Set(s.W, s.H-1, -6) || g.Set(s.W-1, s.H, -6) || g.Set(-1, 0, -6) || g.Set(0, -1, -6) {
 			t.Error("outside of", s)
 		}
-		wantGrid(t, g, s.w, s.h, want)
+		wantGrid(t, g, s.W, s.H, want)
 	}
 }
 

@@ -1,7 +1,6 @@
 package grid_test
 
 import (
-	"math"
 	"slices"
 	"testing"
 
@@ -9,45 +8,10 @@ import (
 	"darkroom/grid"
 )
 
-// A size is a width and a height.
-type size struct{ w, h int }
-
 // A spot is a cell of several fields.
 type spot struct {
 	name string
 	at   api.Point
-}
-
-// sizes are those that a grid may have, the greatest ones among them.
-func sizes() []size {
-	return []size{
-		{1, 1}, {2, 1}, {1, 2}, {3, 2}, {2, 3}, {5, 3}, {7, 7},
-		{api.MaxSide, 1}, {1, api.MaxSide}, {api.MaxSide - 1, 2},
-		{api.MaxSide, 16}, {16, api.MaxSide}, {256, 256}, {257, 255}, {api.MaxSide, 15},
-	}
-}
-
-// wrongSizes are those that no grid has. The products of some of them wrap round
-// to what a grid might have.
-func wrongSizes() []size {
-	return []size{
-		{0, 0}, {0, 1}, {1, 0}, {0, 5}, {5, 0}, {0, api.MaxSide},
-		{-1, 1}, {1, -1}, {-1, -1}, {-2, -3}, {-256, -256}, {-1, 0},
-		{api.MaxSide + 1, 1}, {1, api.MaxSide + 1}, {api.MaxPixels, 1}, {1, api.MaxPixels},
-		{api.MaxSide, 17}, {17, api.MaxSide}, {257, 256}, {256, 257}, {api.MaxSide, api.MaxSide},
-		{api.MaxSide + 1, 16}, {16, api.MaxSide + 1}, {api.MaxSide + 1, 0}, {0, api.MaxSide + 1},
-		{1 << 32, 1 << 32}, {1<<32 + 1, 1}, {1, 1<<32 + 1}, {1 << 62, 4}, {4, 1 << 62},
-		{math.MaxInt, 1}, {1, math.MaxInt}, {math.MaxInt, math.MaxInt}, {math.MaxInt, 2},
-		{math.MinInt, 1}, {1, math.MinInt}, {math.MinInt, math.MinInt}, {math.MinInt, math.MaxInt},
-	}
-}
-
-// far are places and lengths far from all grids.
-func far() []int {
-	return []int{
-		math.MinInt, math.MinInt + 1, math.MinInt + 4, math.MinInt / 2, math.MinInt / 4, -1 << 32, -1 << 31, -api.MaxPixels,
-		api.MaxPixels, 1 << 31, 1 << 32, 1<<32 + 1, 1 << 61, 1 << 62, 1<<62 + 1, math.MaxInt - 4, math.MaxInt - 1, math.MaxInt,
-	}
 }
 
 // count answers n numbers, from first on.

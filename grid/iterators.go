@@ -5,6 +5,7 @@ import (
 	"slices"
 
 	"darkroom/api"
+	"darkroom/sizes"
 )
 
 // Rows gives each row's number and a copy of its cells.
@@ -37,7 +38,7 @@ func (g *Grid[T]) All() iter.Seq2[api.Point, T] {
 // this size: from the left to the right, and from the top down.
 func Tiles(w, h, tw, th int) iter.Seq[api.Rect] {
 	return func(yield func(api.Rect) bool) {
-		if !mayBe(w, h) || tw < 1 || th < 1 {
+		if !sizes.MayBe(w, h) || tw < 1 || th < 1 {
 			return
 		}
 		// A second step is taken by tiles smaller than the grid alone, so that no

@@ -10,7 +10,7 @@ import (
 )
 
 // smallSizes are those at which each place may be looked at with each other.
-func smallSizes() []size { return []size{{1, 1}, {3, 1}, {1, 4}, {4, 3}, {2, 5}} }
+func smallSizes() []probe.Size { return []probe.Size{{1, 1}, {3, 1}, {1, 4}, {4, 3}, {2, 5}} }
 
 // P7.2: the document's example.
 func TestRowsExample(t *testing.T) {
@@ -26,13 +26,13 @@ func TestRowsExample(t *testing.T) {
 
 // P7.2: who stops at the n-th row gets no more, and begins anew next time.
 func TestRowsStopped(t *testing.T) {
-	for _, s := range append(smallSizes(), size{1, api.MaxSide}) {
-		g := counted(t, s.w, s.h, 1)
+	for _, s := range append(smallSizes(), probe.Size{1, api.MaxSide}) {
+		g := counted(t, s.W, s.H, 1)
 		rows := g.Rows()
-		for n := 1; n <= s.h; n += 1 + n/64 {
+		for n := 1; n <= s.H; n += 1 + n/64 {
 			given := 0
 			rows(func(y int, row []int) bool {
-				if y != given || row[0] != 1+y*s.w {
+				if y != given || row[0] != 1+y*s.W {
 					t.Errorf("%v, stopped at %d: row %d is %d, %v", s, n, given, y, head(row))
 				}
 				given++
@@ -47,13 +47,13 @@ func TestRowsStopped(t *testing.T) {
 
 // P7.2: who stops at the n-th cell gets no more, and begins anew next time.
 func TestAllStopped(t *testing.T) {
-	for _, s := range append(smallSizes(), size{api.MaxSide, 1}) {
-		g := counted(t, s.w, s.h, 1)
+	for _, s := range append(smallSizes(), probe.Size{api.MaxSide, 1}) {
+		g := counted(t, s.W, s.H, 1)
 		all := g.All()
-		for n := 1; n <= s.w*s.h; n += 1 + n/64 {
+		for n := 1; n <= s.W*s.H; n += 1 + n/64 {
 			given := 0
 			all(func(p api.Point, v int) bool {
-				if p != (api.Point{X: given % s.w, Y: given / s.w}) || v != 1+given {
+				if p != (api.Point{X: given % s.W, Y: given / s.W}) || v != 1+given {
 					t.Errorf("%v, stopped at %d: cell %d is %v, %d", s, n, given, p, v)
 				}
 				given++
@@ -100,14 +100,14 @@ func TestLoopsOfLoops(t *testing.T) {
 // row too, and not where it was given already.
 func TestSetWithinAll(t *testing.T) {
 	for _, s := range smallSizes() {
-		n := s.w * s.h
+		n := s.W * s.H
 		for at := range n {
 			for set := range n {
-				g, want := counted(t, s.w, s.h, 1), count(1, n)
+				g, want := counted(t, s.W, s.H, 1), count(1, n)
 				var met []int
 				for p, v := range g.All() {
-					if met = append(met, v); p == (api.Point{X: at % s.w, Y: at / s.w}) {
-						g.Set(set%s.w, set/s.w, 99)
+					if met = append(met, v); p == (api.Point{X: at % s.W, Y: at / s.W}) {
+						g.Set(set%s.W, set/s.W, 99)
 					}
 				}
 				if set > at {
@@ -117,7 +117,7 @@ func TestSetWithinAll(t *testing.T) {
 					t.Errorf("%v, cell %d set at cell %d: %v", s, set, at, met)
 				}
 				want[set] = 99
-				wantGrid(t, g, s.w, s.h, want)
+				wantGrid(t, g, s.W, s.H, want)
 			}
 		}
 	}
@@ -137,23 +137,23 @@ func TestSetsAlongAll(t *testing.T) {
 // that were given, the one that is there now among them.
 func TestSetWithinRows(t *testing.T) {
 	for _, s := range smallSizes() {
-		for at := range s.h {
-			for set := range s.w * s.h {
-				g, want := counted(t, s.w, s.h, 1), count(1, s.w*s.h)
+		for at := range s.H {
+			for set := range s.W * s.H {
+				g, want := counted(t, s.W, s.H, 1), count(1, s.W*s.H)
 				var rows [][]int
 				for y, row := range g.Rows() {
 					if rows = append(rows, row); y == at {
-						g.Set(set%s.w, set/s.w, 99)
+						g.Set(set%s.W, set/s.W, 99)
 					}
 				}
-				if set/s.w > at {
+				if set/s.W > at {
 					want[set] = 99
 				}
-				if met := slices.Concat(rows...); len(rows) != s.h || !slices.Equal(met, want) {
+				if met := slices.Concat(rows...); len(rows) != s.H || !slices.Equal(met, want) {
 					t.Errorf("%v, cell %d set at row %d: %v", s, set, at, rows)
 				}
 				want[set] = 99
-				wantGrid(t, g, s.w, s.h, want)
+				wantGrid(t, g, s.W, s.H, want)
 			}
 		}
 	}
@@ -206,19 +206,19 @@ func TestSetAheadOfLoops(t *testing.T) {
 // included, changes neither the grid nor other rows.
 func TestRowsAreNew(t *testing.T) {
 	for _, s := range smallSizes() {
-		g, want := counted(t, s.w, s.h, 1), count(1, s.w*s.h)
+		g, want := counted(t, s.W, s.H, 1), count(1, s.W*s.H)
 		var rows [][]int
 		for range 2 {
 			for y, row := range g.Rows() {
-				if !slices.Equal(row, want[y*s.w:(y+1)*s.w]) {
+				if !slices.Equal(row, want[y*s.W:(y+1)*s.W]) {
 					t.Errorf("%v: row %d: %v", s, y, row)
 				}
 				probe.Spoil(row)
-				_ = append(row[:0], make([]int, 3*s.w)...)
+				_ = append(row[:0], make([]int, 3*s.W)...)
 				rows = append(rows, row)
 			}
 		}
-		wantGrid(t, g, s.w, s.h, want)
+		wantGrid(t, g, s.W, s.H, want)
 		// The last ones first: spare room reaches towards what is behind.
 		for i, row := range slices.Backward(rows) {
 			row = row[:cap(row)]
@@ -231,7 +231,7 @@ func TestRowsAreNew(t *testing.T) {
 				t.Errorf("%v: rows share memory: %v", s, rows)
 			}
 		}
-		wantGrid(t, g, s.w, s.h, want)
+		wantGrid(t, g, s.W, s.H, want)
 	}
 }
 

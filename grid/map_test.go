@@ -8,26 +8,27 @@ import (
 
 	"darkroom/api"
 	"darkroom/grid"
+	"darkroom/probe"
 )
 
 // P7.1: f of each cell, called once a cell in their order; the grid stays.
 func TestMap(t *testing.T) {
-	for _, s := range sizes() {
-		g := counted(t, s.w, s.h, 3)
+	for _, s := range probe.Sizes() {
+		g := counted(t, s.W, s.H, 3)
 		var met []int
 		m := grid.Map(g, func(v int) int64 {
 			met = append(met, v)
 			return int64(v) * 1000
 		})
-		if !slices.Equal(met, count(3, s.w*s.h)) {
+		if !slices.Equal(met, count(3, s.W*s.H)) {
 			t.Errorf("%v: f is called with %v", s, head(met))
 		}
-		want := make([]int64, s.w*s.h)
+		want := make([]int64, s.W*s.H)
 		for i := range want {
 			want[i] = int64(i+3) * 1000
 		}
-		wantGrid(t, m, s.w, s.h, want)
-		wantGrid(t, g, s.w, s.h, count(3, s.w*s.h))
+		wantGrid(t, m, s.W, s.H, want)
+		wantGrid(t, g, s.W, s.H, count(3, s.W*s.H))
 	}
 }
 

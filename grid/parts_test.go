@@ -6,19 +6,8 @@ import (
 
 	"darkroom/api"
 	"darkroom/grid"
+	"darkroom/probe"
 )
-
-// lies tells, place by place, whether a part lies within.
-func lies(s, part size, x, y int) bool {
-	for i := range part.w {
-		for k := range part.h {
-			if !within(s, api.Point{X: x + i, Y: y + k}) {
-				return false
-			}
-		}
-	}
-	return true
-}
 
 // P7.3: the document's example, and parts of each kind.
 func TestCropExamples(t *testing.T) {
@@ -43,26 +32,26 @@ func TestCropExamples(t *testing.T) {
 // P7.3: each part of a grid, and each that reaches over an edge, by one and more,
 // or has no cells.
 func TestCropEach(t *testing.T) {
-	for _, s := range []size{{1, 1}, {4, 1}, {1, 3}, {4, 3}} {
-		g := counted(t, s.w, s.h, 1)
-		for y := -2; y <= s.h+1; y++ {
-			for x := -2; x <= s.w+1; x++ {
-				for h := -2; h <= s.h+2; h++ {
-					for w := -2; w <= s.w+2; w++ {
+	for _, s := range []probe.Size{{1, 1}, {4, 1}, {1, 3}, {4, 3}} {
+		g := counted(t, s.W, s.H, 1)
+		for y := -2; y <= s.H+1; y++ {
+			for x := -2; x <= s.W+1; x++ {
+				for h := -2; h <= s.H+2; h++ {
+					for w := -2; w <= s.W+2; w++ {
 						wantCrop(t, g, s, x, y, w, h)
 					}
 				}
 			}
 		}
-		wantGrid(t, g, s.w, s.h, count(1, s.w*s.h))
+		wantGrid(t, g, s.W, s.H, count(1, s.W*s.H))
 	}
 }
 
 // wantCrop crops a grid of the numbers from 1 on.
-func wantCrop(t *testing.T, g *grid.Grid[int], s size, x, y, w, h int) {
+func wantCrop(t *testing.T, g *grid.Grid[int], s probe.Size, x, y, w, h int) {
 	t.Helper()
 	p, e := g.Crop(x, y, w, h)
-	if w < 1 || h < 1 || !lies(s, size{w, h}, x, y) {
+	if w < 1 || h < 1 || !probe.Lies(s, probe.Size{w, h}, x, y) {
 		if p != nil || e != api.ErrRange {
 			t.Fatalf("%v: Crop(%d, %d, %d, %d) = %v, %d", s, x, y, w, h, p, e)
 		}
@@ -73,30 +62,30 @@ func wantCrop(t *testing.T, g *grid.Grid[int], s size, x, y, w, h int) {
 	}
 	var cells []int
 	for k := range h {
-		cells = append(cells, count(1+(y+k)*s.w+x, w)...)
+		cells = append(cells, count(1+(y+k)*s.W+x, w)...)
 	}
 	wantGrid(t, p, w, h, cells)
 }
 
 // P7.3: the greatest grids, whole, their rows, columns, corners, and one more.
 func TestCropOfGreatest(t *testing.T) {
-	for _, s := range sizes() {
-		g := counted(t, s.w, s.h, 1)
-		for _, part := range []size{s, {s.w, 1}, {1, s.h}, {1, 1}} {
-			x, y := s.w-part.w, s.h-part.h
+	for _, s := range probe.Sizes() {
+		g := counted(t, s.W, s.H, 1)
+		for _, part := range []probe.Size{s, {s.W, 1}, {1, s.H}, {1, 1}} {
+			x, y := s.W-part.W, s.H-part.H
 			for _, at := range []api.Point{{}, {X: x}, {Y: y}, {X: x, Y: y}, {X: x / 2, Y: y / 2}, {X: x + 1}, {Y: y + 1}, {X: -1}, {Y: -1}} {
-				wantCrop(t, g, s, at.X, at.Y, part.w, part.h)
+				wantCrop(t, g, s, at.X, at.Y, part.W, part.H)
 			}
 		}
-		wantCrop(t, g, s, 0, 0, s.w+1, s.h)
-		wantCrop(t, g, s, 0, 0, s.w, s.h+1)
+		wantCrop(t, g, s, 0, 0, s.W+1, s.H)
+		wantCrop(t, g, s, 0, 0, s.W, s.H+1)
 	}
 }
 
 // P7.3, R1: numbers so great that sums and differences of them run over.
 func TestCropFar(t *testing.T) {
 	g := counted(t, 4, 3, 1)
-	numbers := append(far(), -1, 0, 1, 2, 3)
+	numbers := append(probe.Far(), -1, 0, 1, 2, 3)
 	for _, x := range numbers {
 		for _, y := range numbers {
 			for _, w := range numbers {
@@ -145,43 +134,43 @@ func TestCropOfOtherKinds(t *testing.T) {
 
 // P7.3: grids of each size pasted at each place, within and not.
 func TestPasteEach(t *testing.T) {
-	for _, s := range []size{{1, 1}, {4, 1}, {1, 3}, {4, 3}} {
-		for _, part := range []size{{1, 1}, {2, 1}, {1, 2}, {2, 2}, {3, 2}, {4, 1}, {1, 3}, {4, 3}, {5, 1}, {1, 4}, {5, 4}} {
-			p := counted(t, part.w, part.h, 101)
-			for y := -part.h - 1; y <= s.h+1; y++ {
-				for x := -part.w - 1; x <= s.w+1; x++ {
-					wantPaste(t, counted(t, s.w, s.h, 1), p, s, part, x, y)
+	for _, s := range []probe.Size{{1, 1}, {4, 1}, {1, 3}, {4, 3}} {
+		for _, part := range []probe.Size{{1, 1}, {2, 1}, {1, 2}, {2, 2}, {3, 2}, {4, 1}, {1, 3}, {4, 3}, {5, 1}, {1, 4}, {5, 4}} {
+			p := counted(t, part.W, part.H, 101)
+			for y := -part.H - 1; y <= s.H+1; y++ {
+				for x := -part.W - 1; x <= s.W+1; x++ {
+					wantPaste(t, counted(t, s.W, s.H, 1), p, s, part, x, y)
 				}
 			}
-			wantGrid(t, p, part.w, part.h, count(101, part.w*part.h))
+			wantGrid(t, p, part.W, part.H, count(101, part.W*part.H))
 		}
 	}
 }
 
 // wantPaste pastes numbers from 101 on into those from 1 on.
-func wantPaste(t *testing.T, g, p *grid.Grid[int], s, part size, x, y int) {
+func wantPaste(t *testing.T, g, p *grid.Grid[int], s, part probe.Size, x, y int) {
 	t.Helper()
-	want, wantE := count(1, s.w*s.h), api.ErrRange
-	if lies(s, part, x, y) {
+	want, wantE := count(1, s.W*s.H), api.ErrRange
+	if probe.Lies(s, part, x, y) {
 		wantE = api.OK
-		for i := range part.w * part.h {
-			want[(y+i/part.w)*s.w+x+i%part.w] = 101 + i
+		for i := range part.W * part.H {
+			want[(y+i/part.W)*s.W+x+i%part.W] = 101 + i
 		}
 	}
 	if e := g.Paste(x, y, p); e != wantE {
 		t.Fatalf("%v: Paste(%d, %d, %v) = %d", s, x, y, part, e)
 	}
-	wantGrid(t, g, s.w, s.h, want)
+	wantGrid(t, g, s.W, s.H, want)
 }
 
 // P7.3: into the greatest grids, whole ones, rows, columns and corners.
 func TestPasteIntoGreatest(t *testing.T) {
-	for _, s := range sizes() {
-		for _, part := range []size{s, {s.w, 1}, {1, s.h}, {1, 1}} {
-			p := counted(t, part.w, part.h, 101)
-			wantPaste(t, counted(t, s.w, s.h, 1), p, s, part, s.w-part.w, s.h-part.h)
-			wantPaste(t, counted(t, s.w, s.h, 1), p, s, part, s.w-part.w+1, s.h-part.h)
-			wantPaste(t, counted(t, s.w, s.h, 1), p, s, part, s.w-part.w, s.h-part.h+1)
+	for _, s := range probe.Sizes() {
+		for _, part := range []probe.Size{s, {s.W, 1}, {1, s.H}, {1, 1}} {
+			p := counted(t, part.W, part.H, 101)
+			wantPaste(t, counted(t, s.W, s.H, 1), p, s, part, s.W-part.W, s.H-part.H)
+			wantPaste(t, counted(t, s.W, s.H, 1), p, s, part, s.W-part.W+1, s.H-part.H)
+			wantPaste(t, counted(t, s.W, s.H, 1), p, s, part, s.W-part.W, s.H-part.H+1)
 		}
 	}
 }
@@ -189,10 +178,10 @@ func TestPasteIntoGreatest(t *testing.T) {
 // P7.3, R1: places so great that sums of them run over.
 func TestPasteFar(t *testing.T) {
 	g := counted(t, 4, 3, 1)
-	for _, part := range []size{{1, 1}, {4, 3}, {api.MaxSide, 1}, {1, api.MaxSide}} {
-		p := counted(t, part.w, part.h, 101)
-		for _, x := range far() {
-			for _, y := range append(far(), 0, 1) {
+	for _, part := range []probe.Size{{1, 1}, {4, 3}, {api.MaxSide, 1}, {1, api.MaxSide}} {
+		p := counted(t, part.W, part.H, 101)
+		for _, x := range probe.Far() {
+			for _, y := range append(probe.Far(), 0, 1) {
 				if e := g.Paste(x, y, p); e != api.ErrRange {
 					t.Fatalf("Paste(%d, %d, %v) = %d", x, y, part, e)
 				}
@@ -209,9 +198,9 @@ func TestPasteFar(t *testing.T) {
 // within.
 func TestPasteIntoItself(t *testing.T) {
 	for _, s := range smallSizes() {
-		g := counted(t, s.w, s.h, 1)
-		for y := -s.h; y <= s.h; y++ {
-			for x := -s.w; x <= s.w; x++ {
+		g := counted(t, s.W, s.H, 1)
+		for y := -s.H; y <= s.H; y++ {
+			for x := -s.W; x <= s.W; x++ {
 				want := api.ErrRange
 				if x == 0 && y == 0 {
 					want = api.OK
@@ -219,20 +208,20 @@ func TestPasteIntoItself(t *testing.T) {
 				if e := g.Paste(x, y, g); e != want {
 					t.Errorf("%v: Paste(%d, %d) = %d", s, x, y, e)
 				}
-				wantGrid(t, g, s.w, s.h, count(1, s.w*s.h))
+				wantGrid(t, g, s.W, s.H, count(1, s.W*s.H))
 			}
 		}
-		if p, e := g.Crop(0, 0, s.w, s.h); e != api.OK || g.Paste(0, 0, p) != api.OK {
+		if p, e := g.Crop(0, 0, s.W, s.H); e != api.OK || g.Paste(0, 0, p) != api.OK {
 			t.Error(s, e)
 		}
-		wantGrid(t, g, s.w, s.h, count(1, s.w*s.h))
+		wantGrid(t, g, s.W, s.H, count(1, s.W*s.H))
 	}
 }
 
 // P7.3, R4: what was pasted isn't kept: the two grids stay two.
 func TestPasteKeepsNothing(t *testing.T) {
-	for _, s := range []size{{3, 2}, {1, 2}, {3, 1}} {
-		g, p := counted(t, 3, 2, 1), counted(t, s.w, s.h, 101)
+	for _, s := range []probe.Size{{3, 2}, {1, 2}, {3, 1}} {
+		g, p := counted(t, 3, 2, 1), counted(t, s.W, s.H, 101)
 		if e := g.Paste(0, 0, p); e != api.OK {
 			t.Fatal(e)
 		}
@@ -242,7 +231,7 @@ func TestPasteKeepsNothing(t *testing.T) {
 		}
 		wantGrid(t, g, 3, 2, cells)
 		g.Set(0, 0, 66)
-		wantGrid(t, p, s.w, s.h, slices.Repeat([]int{77}, s.w*s.h))
+		wantGrid(t, p, s.W, s.H, slices.Repeat([]int{77}, s.W*s.H))
 	}
 }
 

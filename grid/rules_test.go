@@ -24,7 +24,7 @@ func wantNil[T comparable](t *testing.T) {
 	if none.W() != 0 || none.H() != 0 || len(none.Cells()) != 0 {
 		t.Error(none.W(), none.H(), none.Cells())
 	}
-	for _, p := range append(around(size{1, 1}), api.Point{}) {
+	for _, p := range append(probe.Around(probe.Size{1, 1}), api.Point{}) {
 		if v, ok := none.At(p.X, p.Y); v != zero || ok || none.Set(p.X, p.Y, zero) {
 			t.Error(p, v, ok)
 		}
@@ -42,7 +42,7 @@ func wantNil[T comparable](t *testing.T) {
 func wantNilParts[T any](t *testing.T, none *grid.Grid[T]) {
 	t.Helper()
 	g, _ := grid.New[T](2, 2)
-	for _, n := range append(far(), -1, 0, 1, 2) {
+	for _, n := range append(probe.Far(), -1, 0, 1, 2) {
 		for _, r := range []api.Rect{{X: n, W: 1, H: 1}, {Y: n, W: 1, H: 1}, {W: n, H: 1}, {W: 1, H: n}, {X: n, Y: n, W: n, H: n}} {
 			if p, e := none.Crop(r.X, r.Y, r.W, r.H); p != nil || e != api.ErrNil {
 				t.Error("Crop", r, p, e)

@@ -7,6 +7,7 @@ import (
 
 	"darkroom/api"
 	"darkroom/grid"
+	"darkroom/probe"
 )
 
 // tilesAsTold finds the tiles place by place: each place adds itself to its one.
@@ -89,31 +90,31 @@ func wantEachOnce(t *testing.T, w, h, tw, th int) {
 // less and one more, and by very great ones.
 func TestTilesOfGreatest(t *testing.T) {
 	great := []int{api.MaxSide, api.MaxSide + 1, 1 << 31, 1<<32 + 1, 1 << 62, math.MaxInt - api.MaxSide, math.MaxInt - 1, math.MaxInt}
-	for _, s := range sizes() {
-		for _, tw := range append(great, s.w, s.w+1, (s.w+1)/2, 1+s.w/3, max(s.w-1, 1)) {
-			for _, th := range append(great, s.h, max(s.h-1, 1), 1+s.h/2) {
-				wantTiles(t, s.w, s.h, tw, th, tilesAsTold(s.w, s.h, min(tw, s.w), min(th, s.h)))
+	for _, s := range probe.Sizes() {
+		for _, tw := range append(great, s.W, s.W+1, (s.W+1)/2, 1+s.W/3, max(s.W-1, 1)) {
+			for _, th := range append(great, s.H, max(s.H-1, 1), 1+s.H/2) {
+				wantTiles(t, s.W, s.H, tw, th, tilesAsTold(s.W, s.H, min(tw, s.W), min(th, s.H)))
 			}
 		}
-		wantTiles(t, s.w, s.h, 1, 1, tilesAsTold(s.w, s.h, 1, 1))
-		wantTiles(t, s.w, s.h, math.MaxInt, 1, tilesAsTold(s.w, s.h, s.w, 1))
-		wantTiles(t, s.w, s.h, 1, math.MaxInt, tilesAsTold(s.w, s.h, 1, s.h))
+		wantTiles(t, s.W, s.H, 1, 1, tilesAsTold(s.W, s.H, 1, 1))
+		wantTiles(t, s.W, s.H, math.MaxInt, 1, tilesAsTold(s.W, s.H, s.W, 1))
+		wantTiles(t, s.W, s.H, 1, math.MaxInt, tilesAsTold(s.W, s.H, 1, s.H))
 	}
 }
 
 // P7.4: nothing, if the size may not be a grid's, or tiles have no cells.
 func TestTilesOfNothing(t *testing.T) {
-	for _, s := range wrongSizes() {
+	for _, s := range probe.WrongSizes() {
 		for _, side := range []int{1, 2, api.MaxSide, math.MaxInt, 0, -1, math.MinInt} {
-			wantNoTiles(t, s.w, s.h, side, side)
+			wantNoTiles(t, s.W, s.H, side, side)
 		}
 	}
-	for _, s := range sizes() {
+	for _, s := range probe.Sizes() {
 		for _, side := range []int{0, -1, -api.MaxSide, math.MinInt} {
-			wantNoTiles(t, s.w, s.h, side, 1)
-			wantNoTiles(t, s.w, s.h, 1, side)
-			wantNoTiles(t, s.w, s.h, side, side)
-			wantNoTiles(t, s.w, s.h, side, math.MaxInt)
+			wantNoTiles(t, s.W, s.H, side, 1)
+			wantNoTiles(t, s.W, s.H, 1, side)
+			wantNoTiles(t, s.W, s.H, side, side)
+			wantNoTiles(t, s.W, s.H, side, math.MaxInt)
 		}
 	}
 }
@@ -153,10 +154,10 @@ func TestTilesStopped(t *testing.T) {
 
 // P7.3, P7.4: a grid cut into tiles, and put together of them, last ones first.
 func TestCutAndPutTogether(t *testing.T) {
-	for _, side := range []size{{1, 1}, {2, 3}, {3, 2}, {7, 1}, {1, 5}, {7, 5}, {9, 9}} {
+	for _, side := range []probe.Size{{1, 1}, {2, 3}, {3, 2}, {7, 1}, {1, 5}, {7, 5}, {9, 9}} {
 		g := counted(t, 7, 5, 1)
 		h, _ := grid.New[int](7, 5)
-		tiles := slices.Collect(grid.Tiles(7, 5, side.w, side.h))
+		tiles := slices.Collect(grid.Tiles(7, 5, side.W, side.H))
 		for _, r := range slices.Backward(tiles) {
 			p, e := g.Crop(r.X, r.Y, r.W, r.H)
 			if e != api.OK || h.Paste(r.X, r.Y, p) != api.OK {

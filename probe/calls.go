@@ -10,32 +10,32 @@ import (
 )
 
 // Kept answers how a call breaks the rule of what is handed in and answered, ""
-// if it doesn't: b is read alone, stays and isn't kept, spare room included,
+// if it doesn't: list is read alone, stays and isn't kept, spare room included,
 // and what is answered is new memory.
-func Kept(b []byte, call func(b []byte) ([]byte, api.Errno)) string {
-	want, wantE := call(slices.Clone(b))
-	wanted := string(want)
-	given, all := Roomy(b)
-	before := string(all)
+func Kept[T Number](list []T, call func(list []T) ([]T, api.Errno)) string {
+	want, wantE := call(slices.Clone(list))
+	wanted := slices.Clone(want)
+	given, all := Roomy(list)
+	before := slices.Clone(all)
 	first, e := call(given)
 	second, _ := call(given)
-	if e != wantE || string(first) != wanted {
-		return "what wasn't handed in is read: " + Short(first)
+	if e != wantE || !slices.Equal(first, wanted) {
+		return "what wasn't handed in is read"
 	}
 	Spoil(first)
-	if string(all) != before {
+	if !slices.Equal(all, before) {
 		return "what was handed in is changed, or answered"
 	}
-	if string(second) != wanted || string(want) != wanted {
+	if !slices.Equal(second, wanted) || !slices.Equal(want, wanted) {
 		return "answers share memory"
 	}
 	Spoil(all)
-	if string(second) != wanted {
+	if !slices.Equal(second, wanted) {
 		return "what was handed in is answered"
 	}
 	Spoil(want)
 	Spoil(second)
-	if third, e := call(slices.Clone(b)); e != wantE || string(third) != wanted {
+	if third, e := call(slices.Clone(list)); e != wantE || !slices.Equal(third, wanted) {
 		return "what was handed in, or answered, is kept"
 	}
 	return ""

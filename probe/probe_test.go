@@ -5,6 +5,7 @@ import (
 	"slices"
 	"testing"
 
+	"darkroom/api"
 	"darkroom/probe"
 )
 
@@ -79,5 +80,63 @@ func TestTexts(t *testing.T) {
 	}
 	if len(names) != len(probe.Texts()) {
 		t.Error("two texts have one name")
+	}
+}
+
+func TestSizes(t *testing.T) {
+	for _, s := range probe.Sizes() {
+		if s.W < 1 || s.W > 4096 || s.H < 1 || s.H > 4096 || s.W*s.H > 65536 {
+			t.Error(s)
+		}
+	}
+	for _, s := range probe.WrongSizes() {
+		if s.W >= 1 && s.W <= 4096 && s.H >= 1 && s.H <= 4096 && s.W*s.H <= 65536 {
+			t.Error(s)
+		}
+	}
+	for _, n := range probe.Far() {
+		if n > -65536 && n < 65536 {
+			t.Error(n)
+		}
+	}
+}
+
+func TestPlaces(t *testing.T) {
+	s := probe.Size{3, 2}
+	all, within := probe.Around(s), map[api.Point]bool{}
+	for _, p := range all {
+		if probe.Within(s, p) {
+			within[p] = true
+		}
+	}
+	if len(within) != 6 || !within[api.Point{X: 2, Y: 1}] || !within[api.Point{}] {
+		t.Error(within)
+	}
+	for _, p := range []api.Point{{X: -1}, {Y: -1}, {X: 3}, {Y: 2}, {X: 3, Y: 2}} {
+		if !slices.Contains(all, p) || probe.Lies(s, probe.Size{1, 1}, p.X, p.Y) {
+			t.Error(p)
+		}
+	}
+	if !probe.Lies(s, s, 0, 0) || !probe.Lies(s, probe.Size{2, 1}, 1, 1) || probe.Lies(s, probe.Size{2, 1}, 2, 1) || probe.Lies(s, probe.Size{1, 2}, 0, 1) {
+		t.Error("Lies")
+	}
+}
+
+func TestImages(t *testing.T) {
+	list := probe.Colors(1, 65536)
+	seen := map[api.Color]int{}
+	for _, c := range list {
+		seen[c]++
+	}
+	if len(list) != 65536 || len(seen) != 65536 || !slices.Equal(list, probe.Colors(1, 65536)) || list[0] == probe.Colors(2, 1)[0] {
+		t.Error("colours come again, or hang on something beside their seed, or not on that:", len(list), len(seen))
+	}
+	m := probe.ImageOf(1, 2, []api.Color{{R: 1, G: 2, B: 3, A: 4}, {G: 6}})
+	if m.W != 1 || m.H != 2 || !slices.Equal(m.Pix, []uint16{1, 2, 3, 4, 0, 6, 0, 0}) {
+		t.Error(m)
+	}
+	m = probe.Image(5, 3, 2)
+	if n := probe.ImageOf(3, 2, probe.Colors(5, 6)); m.W != 3 || m.H != 2 || !slices.Equal(m.Pix, n.Pix) {
+		t.Error(m)
 	}
 }

@@ -4,6 +4,7 @@ import (
 	"testing"
 
 	"darkroom/api"
+	"darkroom/probe"
 	"darkroom/tones"
 )
 
@@ -38,7 +39,7 @@ func TestLumaOfEachSample(t *testing.T) {
 
 // P8.2: alpha isn't looked at.
 func TestLumaWithoutAlpha(t *testing.T) {
-	for _, c := range noisy(1, 200000) {
+	for _, c := range probe.Colors(1, 200000) {
 		want := plainLuma(c)
 		for _, a := range []uint16{c.A, 0, 1, 65535} {
 			c.A = a

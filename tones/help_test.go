@@ -6,7 +6,6 @@ import (
 	"testing"
 
 	"darkroom/api"
-	"darkroom/probe"
 	"darkroom/tones"
 )
 
@@ -142,16 +141,4 @@ func wantNearest(t *testing.T, what string, palette []api.Color, c api.Color, wa
 		t.Helper()
 		t.Fatalf("%s: Nearest to %v = %d; want %d", what, c, place, want)
 	}
-}
-
-// noisy answers n colours that look like none in particular, the same each time
-// for one seed.
-func noisy(seed uint32, n int) []api.Color {
-	b := probe.Noise(seed, 8*n)
-	list := make([]api.Color, n)
-	for i := range list {
-		s := func(k int) uint16 { return uint16(b[8*i+k])<<8 | uint16(b[8*i+k+1]) }
-		list[i] = api.Color{R: s(0), G: s(2), B: s(4), A: s(6)}
-	}
-	return list
 }

@@ -60,7 +60,7 @@ func TestNearestKnown(t *testing.T) {
 
 // P8.4: of no colour there's none, whatever stands behind.
 func TestNearestOfNone(t *testing.T) {
-	for _, c := range append(noisy(1, 100), api.Color{}, api.Color{A: greatest}, api.Color{R: greatest, G: greatest, B: greatest, A: greatest}) {
+	for _, c := range append(probe.Colors(1, 100), api.Color{}, api.Color{A: greatest}, api.Color{R: greatest, G: greatest, B: greatest, A: greatest}) {
 		wantNearest(t, "nil", nil, c, -1)
 		wantNearest(t, "empty", []api.Color{}, c, -1)
 		wantNearest(t, "spare room", []api.Color{c, c}[:0], c, -1)
@@ -78,11 +78,11 @@ func TestNearestInPart(t *testing.T) {
 func TestNearestOfMany(t *testing.T) {
 	for _, n := range []int{1, 2, 3, 4, 5, 7, 8, 9, 15, 16, 17, 31, 64, 100, 255, 256, 257, 600} {
 		for seed := range uint32(4) {
-			palette := noisy(seed, n)
+			palette := probe.Colors(seed, n)
 			for i := range palette {
 				palette[i] = coarse(palette[i], seed)
 			}
-			for _, c := range slices.Concat(noisy(seed+100, 60), palette[:min(n, 20)]) {
+			for _, c := range slices.Concat(probe.Colors(seed+100, 60), palette[:min(n, 20)]) {
 				c = coarse(c, seed)
 				wantNearest(t, fmt.Sprint(n, " colours of seed ", seed), palette, c, plainNearest(palette, c))
 			}
@@ -133,10 +133,10 @@ func TestNearestByEachDifference(t *testing.T) {
 
 // R4: a palette stays, spare room included.
 func TestPaletteStays(t *testing.T) {
-	all := noisy(7, 40)
+	all := probe.Colors(7, 40)
 	before := slices.Clone(all)
 	for from := 0; from <= 30; from += 3 {
-		for _, c := range noisy(8, 50) {
+		for _, c := range probe.Colors(8, 50) {
 			palette := all[from : from+10]
 			wantNearest(t, "of ten", palette, c, plainNearest(before[from:from+10], c))
 		}
