@@ -40,9 +40,8 @@ func Paste(m, p api.Image, x, y int) (api.Image, api.Errno) {
 	return out, api.OK
 }
 
-// overlap answers which numbers below most are among n of them from first on:
-// those from one number on, below another one, which is no greater where there
-// are none.
+// overlap answers which of the n numbers from first on are at least 0 and below
+// most: those from one number on, below another one; none, if that isn't greater.
 func overlap(first, n, most int) (from, to int) {
 	// A sum that wraps round lies below nought, and thus below from.
 	return max(first, 0), min(first+n, most)
