@@ -1,6 +1,10 @@
 package probe
 
 import (
+	"slices"
+	"strconv"
+	"strings"
+
 	"darkroom/api"
 )
 
@@ -26,4 +30,60 @@ func ImageOf(w, h int, colors []api.Color) api.Image {
 		m.Pix = append(m.Pix, c.R, c.G, c.B, c.A)
 	}
 	return m
+}
+
+// Sampled answers an image, good or not, with n samples.
+func Sampled(w, h, n int) api.Image {
+	return api.Image{W: w, H: h, Pix: slices.Repeat([]uint16{7}, n)}
+}
+
+// BadImages are such as aren't good.
+func BadImages() []api.Image {
+	bad := []api.Image{{}, {Pix: []uint16{1, 2, 3, 4}}}
+	for _, s := range WrongSizes() {
+		bad = append(bad, Sampled(s.W, s.H, 0), Sampled(s.W, s.H, 4))
+		// Just as many as there would be, if such a size might be.
+		if n := s.W * s.H; n > 0 && n <= 1<<17 {
+			bad = append(bad, Sampled(s.W, s.H, 4*n))
+		}
+	}
+	for _, s := range Sizes() {
+		n := 4 * s.W * s.H
+		for _, wrong := range []int{0, 1, n / 4, n - 4*s.W, n - 4, n - 1, n + 1, n + 4, n + 4*s.W, 2 * n} {
+			bad = append(bad, Sampled(s.W, s.H, wrong))
+		}
+	}
+	return append(bad, RoomyImage(Sampled(1, 1, 3)), RoomyImage(Sampled(1, 1, 5)), RoomyImage(Sampled(2, 2, 15)))
+}
+
+// RoomyImage answers an image whose samples are the middle of a greater list.
+func RoomyImage(m api.Image) api.Image {
+	m.Pix, _ = Roomy(m.Pix)
+	return m
+}
+
+// Told tells an image, but not all samples of a great one.
+func Told(m api.Image) string {
+	var t strings.Builder
+	t.WriteString(strconv.Itoa(m.W) + " by " + strconv.Itoa(m.H) + ":")
+	for _, s := range m.Pix[:min(len(m.Pix), mostTold)] {
+		t.WriteString(" " + strconv.Itoa(int(s)))
+	}
+	if len(m.Pix) > mostTold {
+		t.WriteString(" .. (" + strconv.Itoa(len(m.Pix)) + ")")
+	}
+	return t.String()
+}
+
+// Other tells an image, and the error that it was answered with, and what they
+// should be, "" if they are that. Beside an error should be the zero image.
+func Other(m api.Image, e api.Errno, want api.Image, wantE api.Errno) string {
+	if e == wantE && m.W == want.W && m.H == want.H && slices.Equal(m.Pix, want.Pix) {
+		return ""
+	}
+	place := 0
+	for place < min(len(m.Pix), len(want.Pix)) && m.Pix[place] == want.Pix[place] {
+		place++
+	}
+	return Told(m) + ", " + strconv.Itoa(int(e)) + "; want " + Told(want) + ", " + strconv.Itoa(int(wantE)) + "; alike up to sample " + strconv.Itoa(place)
 }

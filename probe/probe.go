@@ -46,7 +46,7 @@ func Spoil[T Number](list []T) {
 	}
 }
 
-// mostTold is how many bytes Short tells.
+// mostTold is how many bytes, or samples, are told of a great many.
 const mostTold = 60
 
 // Short tells bytes, but not all of many.

@@ -3,6 +3,7 @@ package probe_test
 import (
 	"bytes"
 	"slices"
+	"strings"
 	"testing"
 
 	"darkroom/api"
@@ -138,5 +139,51 @@ func TestImages(t *testing.T) {
 	m = probe.Image(5, 3, 2)
 	if n := probe.ImageOf(3, 2, probe.Colors(5, 6)); m.W != 3 || m.H != 2 || !slices.Equal(m.Pix, n.Pix) {
 		t.Error(m)
+	}
+}
+
+func TestBadImages(t *testing.T) {
+	sizes := map[probe.Size]bool{}
+	for _, s := range probe.Sizes() {
+		sizes[s] = true
+	}
+	for _, m := range probe.BadImages() {
+		if sizes[probe.Size{W: m.W, H: m.H}] && len(m.Pix) == 4*m.W*m.H {
+			t.Error(probe.Told(m))
+		}
+	}
+	m := probe.Sampled(-3, 2, 5)
+	if n := probe.RoomyImage(m); m.W != -3 || n.H != 2 || !slices.Equal(m.Pix, []uint16{7, 7, 7, 7, 7}) || !slices.Equal(m.Pix, n.Pix) || cap(n.Pix) == 5 {
+		t.Error(m, n)
+	}
+}
+
+func TestTold(t *testing.T) {
+	if s := probe.Told(api.Image{W: -1, H: 20, Pix: []uint16{3, 65535}}); s != "-1 by 20: 3 65535" {
+		t.Error(s)
+	}
+	if s := probe.Told(probe.Sampled(1, 1, 61)); !strings.HasSuffix(s, " 7 7 .. (61)") || strings.Count(s, " 7") != 60 {
+		t.Error(s)
+	}
+}
+
+func TestOther(t *testing.T) {
+	m := api.Image{W: 1, H: 1, Pix: []uint16{1, 2, 3, 4}}
+	if s := probe.Other(m, api.OK, probe.RoomyImage(m), api.OK); s != "" {
+		t.Error(s)
+	}
+	if s := probe.Other(api.Image{Pix: []uint16{}}, api.ErrSize, api.Image{}, api.ErrSize); s != "" {
+		t.Error(s)
+	}
+	for _, n := range []api.Image{
+		{}, {W: 2, H: 1, Pix: m.Pix}, {W: 1, H: 2, Pix: m.Pix}, {W: 1, H: 1}, {W: 1, H: 1, Pix: m.Pix[:3]},
+		{W: 1, H: 1, Pix: []uint16{1, 2, 3, 5}}, {W: 1, H: 1, Pix: []uint16{1, 2, 3, 4, 0}},
+	} {
+		if probe.Other(n, api.OK, m, api.OK) == "" || probe.Other(m, api.OK, n, api.OK) == "" {
+			t.Error("not found out:", probe.Told(n))
+		}
+	}
+	if probe.Other(m, api.ErrEnd, m, api.OK) == "" || probe.Other(m, api.OK, m, api.ErrEnd) == "" {
+		t.Error("not found out: an error")
 	}
 }

@@ -107,7 +107,7 @@ func TestCropFar(t *testing.T) {
 
 // P9.3, R2: an image that isn't good goes ahead of a part that doesn't lie within.
 func TestCropOfNotGood(t *testing.T) {
-	for _, m := range append(badImages(), api.Image{}) {
+	for _, m := range probe.BadImages() {
 		for _, r := range []api.Rect{{}, {W: 1, H: 1}, {W: m.W, H: m.H}, {X: -1, W: 1, H: 1}, {W: m.W + 1, H: m.H}, {W: 1, H: -1}, {X: 1 << 62, W: 1 << 62, H: 1 << 62}} {
 			part, e := raster.Crop(m, r)
 			wantNoImage(t, fmt.Sprint("Crop of ", m.W, m.H, r), part, e, api.ErrImage)

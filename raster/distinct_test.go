@@ -90,14 +90,14 @@ func TestDistinct(t *testing.T) {
 
 // P9.4: what stands in spare room is no pixel.
 func TestDistinctSpareRoom(t *testing.T) {
-	wantDistinct(t, "one pixel", roomy(probe.ImageOf(1, 1, []api.Color{{G: 1}})), []api.Color{{G: 1}})
+	wantDistinct(t, "one pixel", probe.RoomyImage(probe.ImageOf(1, 1, []api.Color{{G: 1}})), []api.Color{{G: 1}})
 }
 
 // P9.4: an image that isn't good has none.
 func TestDistinctOfNotGood(t *testing.T) {
-	for _, m := range append(badImages(), api.Image{}) {
+	for _, m := range probe.BadImages() {
 		if all := raster.Distinct(m); len(all) != 0 {
-			t.Errorf("%s has %v", told(m), all)
+			t.Errorf("%s has %v", probe.Told(m), all)
 		}
 	}
 }

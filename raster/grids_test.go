@@ -15,7 +15,7 @@ func mustGrid(t *testing.T, m api.Image) *grid.Grid[api.Color] {
 	t.Helper()
 	g, e := raster.Grid(m)
 	if g == nil || e != api.OK {
-		t.Fatalf("Grid(%s) = %v, %d", told(m), g, e)
+		t.Fatalf("Grid(%s) = %v, %d", probe.Told(m), g, e)
 	}
 	return g
 }
@@ -34,10 +34,10 @@ func mustOf(t *testing.T, g *grid.Grid[api.Color]) api.Image {
 func TestGrid(t *testing.T) {
 	for _, s := range probe.Sizes() {
 		m := probe.Image(6, s.W, s.H)
-		for _, given := range []api.Image{m, roomy(m)} {
+		for _, given := range []api.Image{m, probe.RoomyImage(m)} {
 			g := mustGrid(t, given)
 			if g.W() != s.W || g.H() != s.H || !slices.Equal(g.Cells(), plainColors(m)) {
-				t.Errorf("%s has a grid of %d by %d", told(m), g.W(), g.H())
+				t.Errorf("%s has a grid of %d by %d", probe.Told(m), g.W(), g.H())
 			}
 			back, e := raster.Of(g)
 			wantImage(t, "Of", back, e, m)
@@ -65,9 +65,9 @@ func TestGridExamples(t *testing.T) {
 
 // P9.2: images that aren't good have no grid.
 func TestGridOfNotGood(t *testing.T) {
-	for _, m := range append(badImages(), api.Image{}) {
+	for _, m := range probe.BadImages() {
 		if g, e := raster.Grid(m); g != nil || e != api.ErrImage {
-			t.Errorf("Grid(%s) = %v, %d", told(m), g, e)
+			t.Errorf("Grid(%s) = %v, %d", probe.Told(m), g, e)
 		}
 	}
 }

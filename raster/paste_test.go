@@ -129,7 +129,7 @@ func TestPasteIntoItself(t *testing.T) {
 // P9.3: either image not good, or both, wherever the one comes to lie.
 func TestPasteOfNotGood(t *testing.T) {
 	good := []api.Image{probe.Image(9, 1, 1), probe.Image(9, 3, 2)}
-	for _, m := range append(badImages(), api.Image{}) {
+	for _, m := range probe.BadImages() {
 		for _, at := range []api.Point{{}, {X: -1}, {X: 1 << 62, Y: -1 << 63}} {
 			for _, p := range append(good, m) {
 				out, e := raster.Paste(m, p, at.X, at.Y)

@@ -14,8 +14,8 @@ import (
 // in spare room.
 func TestGood(t *testing.T) {
 	for _, s := range probe.Sizes() {
-		m := sampled(s.W, s.H, 4*s.W*s.H)
-		if !raster.Good(m) || !raster.Good(roomy(m)) {
+		m := probe.Sampled(s.W, s.H, 4*s.W*s.H)
+		if !raster.Good(m) || !raster.Good(probe.RoomyImage(m)) {
 			t.Error(s)
 		}
 	}
@@ -23,12 +23,9 @@ func TestGood(t *testing.T) {
 
 // P9.1: sizes that may not be, a sample too few or too many, no samples.
 func TestNotGood(t *testing.T) {
-	if raster.Good(api.Image{}) {
-		t.Error("the zero image")
-	}
-	for _, m := range badImages() {
+	for _, m := range probe.BadImages() {
 		if raster.Good(m) {
-			t.Error(told(m))
+			t.Error(probe.Told(m))
 		}
 	}
 }
@@ -76,12 +73,12 @@ func unlikeImages() []api.Image {
 func TestSame(t *testing.T) {
 	all := unlikeImages()
 	for i, a := range all {
-		if !raster.Same(a, a) || !raster.Same(a, cloned(a)) || !raster.Same(roomy(a), a) || !raster.Same(a, roomy(a)) {
-			t.Error("alike:", told(a))
+		if !raster.Same(a, a) || !raster.Same(a, cloned(a)) || !raster.Same(probe.RoomyImage(a), a) || !raster.Same(a, probe.RoomyImage(a)) {
+			t.Error("alike:", probe.Told(a))
 		}
 		for k, b := range all {
 			if i != k && raster.Same(a, b) {
-				t.Error("not alike:", told(a), told(b))
+				t.Error("not alike:", probe.Told(a), probe.Told(b))
 			}
 		}
 	}
@@ -189,7 +186,7 @@ func TestAtExample(t *testing.T) {
 func TestAt(t *testing.T) {
 	for _, s := range probe.Sizes() {
 		m := probe.Image(4, s.W, s.H)
-		withRoom := roomy(m)
+		withRoom := probe.RoomyImage(m)
 		for _, p := range probe.Around(s) {
 			wantAt(t, m, p)
 			wantAt(t, withRoom, p)
@@ -212,10 +209,10 @@ func TestAtEach(t *testing.T) {
 // P9.1, R2: images that aren't good have no pixels, though samples may stand
 // where one would be looked for.
 func TestAtOfNotGood(t *testing.T) {
-	for _, m := range badImages() {
+	for _, m := range probe.BadImages() {
 		for _, p := range []api.Point{{}, {X: 1}, {Y: 1}, {X: -1}, {X: m.W - 1, Y: m.H - 1}, {X: m.W, Y: m.H}} {
 			if c, ok := raster.At(m, p.X, p.Y); c != (api.Color{}) || ok {
-				t.Errorf("%s: At(%d, %d) = %v, %v", told(m), p.X, p.Y, c, ok)
+				t.Errorf("%s: At(%d, %d) = %v, %v", probe.Told(m), p.X, p.Y, c, ok)
 			}
 		}
 	}

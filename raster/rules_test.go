@@ -135,7 +135,7 @@ func TestSameAnswers(t *testing.T) {
 	all := calls()
 	images := []api.Image{
 		probe.Image(3, 3, 2), probe.Image(4, 3, 2), probe.Image(5, 3, 3), mustFill(t, 4, 2, api.Color{R: 9}),
-		{}, sampled(3, 2, 23), sampled(3, 2, 24), sampled(0, 2, 24), sampled(1, 1, 4),
+		{}, probe.Sampled(3, 2, 23), probe.Sampled(3, 2, 24), probe.Sampled(0, 2, 24), probe.Sampled(1, 1, 4),
 	}
 	if s := probe.Steady(len(all)*len(images), func(i int) ([]byte, api.Errno) {
 		list, e := all[i%len(all)].do(images[i/len(all)])
@@ -152,7 +152,7 @@ func TestSameAnswers(t *testing.T) {
 // R1: no call panics, whatever image, places and sizes it is given.
 func TestNoPanic(t *testing.T) {
 	numbers := append(probe.Far(), -api.MaxSide, -1, 0, 1, 2, api.MaxSide)
-	images := []api.Image{{}, probe.Image(1, 1, 1), probe.Image(1, 3, 2), sampled(1, 1, 3), sampled(1<<62, 1, 0), sampled(1<<32, 1<<32, 4), sampled(-1, -1, 4)}
+	images := []api.Image{{}, probe.Image(1, 1, 1), probe.Image(1, 3, 2), probe.Sampled(1, 1, 3), probe.Sampled(1<<62, 1, 0), probe.Sampled(1<<32, 1<<32, 4), probe.Sampled(-1, -1, 4)}
 	for _, m := range images {
 		for _, c := range calls() {
 			_, _ = c.do(m)

@@ -12,6 +12,10 @@ func MayBe(w, h int) bool {
 	return sideMayBe(w) && sideMayBe(h) && w*h <= api.MaxPixels
 }
 
+// TooGreat tells of a width and a height, neither below 1, whether an image that
+// may have so many pixels can't have them.
+func TooGreat(w, h, most int) bool { return !MayBe(w, h) || w*h > most }
+
 func sideMayBe(n int) bool { return n >= 1 && n <= api.MaxSide }
 
 // Holds tells whether what is w wide and h high, neither below nought, has such a

@@ -39,6 +39,30 @@ func TestMayBeOfEachWidth(t *testing.T) {
 	}
 }
 
+// Sizes of an image that may be, with just as many pixels as there may be, more
+// and fewer, and none at all; and sizes of which no number of pixels is enough.
+func TestTooGreat(t *testing.T) {
+	numbers := append(probe.Far(), -1, 0, api.MaxPixels-1, api.MaxPixels+1)
+	for _, s := range probe.Sizes() {
+		n := s.W * s.H
+		for _, most := range append(numbers, n-1, n, n+1) {
+			if want := most < n; sizes.TooGreat(s.W, s.H, most) != want {
+				t.Error(s, most, want)
+			}
+		}
+	}
+	for _, s := range probe.WrongSizes() {
+		if s.W < 1 || s.H < 1 {
+			continue
+		}
+		for _, most := range append(numbers, s.W*s.H, s.W*s.H+1) {
+			if !sizes.TooGreat(s.W, s.H, most) {
+				t.Error(s, most)
+			}
+		}
+	}
+}
+
 // Parts within, over each edge, of no width or height, and far ones.
 func TestHolds(t *testing.T) {
 	numbers := append(probe.Far(), -3, -2, -1, 0, 1, 2, 3, 4, 5, 6)

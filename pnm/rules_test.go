@@ -1,0 +1,129 @@
+package pnm_test
+
+import (
+	"fmt"
+	"math"
+	"slices"
+	"testing"
+
+	"darkroom/api"
+	"darkroom/pnm"
+	"darkroom/probe"
+)
+
+// R3: nil and an empty list are one.
+func TestNilIsEmpty(t *testing.T) {
+	for _, b := range [][]byte{nil, {}, make([]byte, 0, 50)} {
+		if m, e := pnm.Decode(b, plenty); probe.Other(m, e, api.Image{}, api.ErrMalformed) != "" {
+			t.Error(m, e)
+		}
+	}
+	for _, pix := range [][]uint16{nil, {}, make([]uint16, 0, 50)} {
+		wantNoFile(t, api.Image{W: 1, H: 1, Pix: pix}, 1, 1, api.ErrImage)
+		wantNoFile(t, api.Image{Pix: pix}, 1, 1, api.ErrImage)
+	}
+}
+
+// R2, R4: what is handed in stays, spare room included, and isn't read there nor
+// kept; what is answered is new memory, spare room included.
+func TestKeepsAndSharesNothing(t *testing.T) {
+	for _, kind := range kinds() {
+		for _, top := range []int{1, 255, 256, greatest} {
+			m := probe.Image(1, 3, 2)
+			for _, n := range []int{24, 23, 0} {
+				if s := probe.Kept(m.Pix[:n], func(pix []uint16) ([]uint16, api.Errno) {
+					b, e := pnm.Encode(api.Image{W: 3, H: 2, Pix: pix}, kind, top)
+					return wide(b), e
+				}); s != "" {
+					t.Errorf("Encode, kind %d, top %d: %s", kind, top, s)
+				}
+			}
+			file := plainEncode(m, kind, top)
+			for _, n := range []int{len(file), len(file) - 1, len(file) - 2, 5, 0} {
+				if s := probe.Kept(file[:n], func(b []byte) ([]byte, api.Errno) {
+					m, e := pnm.Decode(b, 6)
+					return narrow(m.Pix), e
+				}); s != "" {
+					t.Errorf("Decode(%q): %s", file[:n], s)
+				}
+			}
+		}
+	}
+}
+
+// wide answers a list of bytes, as it is, as one of samples; narrow the other way.
+func wide(b []byte) []uint16 {
+	list := make([]uint16, len(b))
+	for i, x := range b {
+		list[i] = uint16(x)
+	}
+	return list
+}
+
+func narrow(pix []uint16) []byte {
+	var b []byte
+	for _, s := range pix {
+		b = append(b, byte(s>>8), byte(s))
+	}
+	return b
+}
+
+// R4: answers share no memory with one another.
+func TestAnswersAreNew(t *testing.T) {
+	for _, kind := range kinds() {
+		m := probe.Image(2, 4, 3)
+		first, _ := pnm.Encode(m, kind, 300)
+		second, _ := pnm.Encode(m, kind, 300)
+		want := slices.Clone(second)
+		one, _ := pnm.Decode(first, plenty)
+		two, _ := pnm.Decode(first, plenty)
+		before := slices.Clone(two.Pix)
+		probe.Spoil(first)
+		probe.Spoil(one.Pix)
+		if !slices.Equal(second, want) || !slices.Equal(two.Pix, before) || !slices.Equal(m.Pix, probe.Image(2, 4, 3).Pix) {
+			t.Error("answers share memory, kind", kind)
+		}
+		wantFile(t, m, kind, 300, string(want))
+	}
+}
+
+// R5, R6: the same call answers the same, whatever was asked ahead of it and is
+// asked beside it.
+func TestSameAnswers(t *testing.T) {
+	t.Parallel()
+	files := smallFiles()
+	for i := range len(files) {
+		files = append(files, changed(files[i], uint32(i)))
+	}
+	images := []api.Image{probe.Image(1, 3, 2), probe.Image(2, 9, 1), {}, probe.Sampled(2, 2, 15), probe.Image(3, 1, 20)}
+	if s := probe.Steady(3*len(files), func(i int) ([]byte, api.Errno) {
+		if i%3 == 0 {
+			return pnm.Encode(images[i%len(images)], i/3%8, i*i*7)
+		}
+		m, e := pnm.Decode([]byte(files[i/3]), 4*(i%3)+1)
+		return append(narrow(m.Pix), byte(m.W), byte(m.H)), e
+	}); s != "" {
+		t.Error(s)
+	}
+}
+
+// R1: no call panics or goes on for ever, whatever it is given.
+func TestNoPanic(t *testing.T) {
+	numbers := append(probe.Far(), -1, 0, 1, 5, 6, 7, greatest)
+	images := []api.Image{{}, probe.Image(1, 1, 1), probe.Image(1, 3, 2), probe.Sampled(1, 1, 3), probe.Sampled(1<<62, 4, 0), probe.Sampled(-1, -1, 4)}
+	for _, a := range numbers {
+		for _, b := range numbers {
+			for _, m := range images {
+				_, _ = pnm.Encode(m, a, b)
+			}
+		}
+		for _, file := range smallFiles() {
+			_, _ = pnm.Decode([]byte(file), a)
+		}
+	}
+	for seed := range uint32(300) {
+		b := probe.Noise(seed, 500)
+		copy(b, fmt.Sprintf("P%d %d %d %d", seed%9, b[100]%50, b[101]%50, b[102]))
+		_, _ = pnm.Decode(b, math.MaxInt)
+	}
+}
