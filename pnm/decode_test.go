@@ -12,12 +12,12 @@ import (
 
 // P10.1: the document's examples.
 func TestDecodeExamples(t *testing.T) {
-	wantImage(t, "P1 2 1 10", plenty, greys(2, 1, 0, greatest))
+	wantImage(t, "P1 2 1 10", plenty, probe.Greys(2, 1, 0, greatest))
 	wantFault(t, "P2 1 1 9 10", plenty, api.ErrMalformed)
-	wantImage(t, "P5 1 1 255 \x80", plenty, greys(1, 1, 32896))
-	wantImage(t, "P1#x\n1 1\n1", plenty, greys(1, 1, 0))
-	wantImage(t, "P2 3 1 9 1 5 9", plenty, greys(3, 1, 7282, 36408, greatest))
-	wantImage(t, "P3\n2 1\n255\n255 0 0 255 0 0", plenty, solid(2, 1, greatest, 0, 0, greatest, 0, 0))
+	wantImage(t, "P5 1 1 255 \x80", plenty, probe.Greys(1, 1, 32896))
+	wantImage(t, "P1#x\n1 1\n1", plenty, probe.Greys(1, 1, 0))
+	wantImage(t, "P2 3 1 9 1 5 9", plenty, probe.Greys(3, 1, 7282, 36408, greatest))
+	wantImage(t, "P3\n2 1\n255\n255 0 0 255 0 0", plenty, probe.Solid(2, 1, greatest, 0, 0, greatest, 0, 0))
 }
 
 // P10.1: a file of each kind: rows from the top, pixels from the left, red, green
@@ -28,21 +28,21 @@ func TestDecodeKinds(t *testing.T) {
 		file string
 		want api.Image
 	}{
-		{"P1 3 2 100 011", greys(3, 2, 0, w, w, w, 0, 0)},
-		{"P1 1 3 1\n0\n1\n", greys(1, 3, 0, w, 0)},
-		{"P2 3 2 15 0 1 2 3 14 15", greys(3, 2, 0, 4369, 8738, 13107, 61166, w)},
-		{"P2 1 1 1 1", greys(1, 1, w)},
-		{"P3 1 2 65535 1 2 3 65533 65534 65535", solid(1, 2, 1, 2, 3, 65533, 65534, w)},
-		{"P3 2 1 1 1 0 0 0 1 1", solid(2, 1, w, 0, 0, 0, w, w)},
-		{"P4 3 2 \x80\x60", greys(3, 2, 0, w, w, w, 0, 0)},
-		{"P4 8 1\n\x01", greys(8, 1, w, w, w, w, w, w, w, 0)},
-		{"P4 9 2\n\x80\x80\x40\x00", greys(9, 2, 0, w, w, w, w, w, w, w, 0, w, 0, w, w, w, w, w, w, w)},
-		{"P5 3 2 255\n\x00\x01\x02\x03\xFE\xFF", greys(3, 2, 0, 257, 514, 771, 65278, w)},
-		{"P5 1 2 1\n\x01\x00", greys(1, 2, w, 0)},
-		{"P5 2 1 256\n\x00\x01\x01\x00", greys(2, 1, 256, w)},
-		{"P5 1 2 65535\n\x12\x34\xFF\x00", greys(1, 2, 0x1234, 0xFF00)},
-		{"P6 1 2 255\n\x00\x01\x02\x03\x04\xFF", solid(1, 2, 0, 257, 514, 771, 1028, w)},
-		{"P6 2 1 65535\n\x00\x01\x02\x03\x04\x05\x06\x07\x08\x09\x0A\x0B", solid(2, 1, 0x1, 0x203, 0x405, 0x607, 0x809, 0xA0B)},
+		{"P1 3 2 100 011", probe.Greys(3, 2, 0, w, w, w, 0, 0)},
+		{"P1 1 3 1\n0\n1\n", probe.Greys(1, 3, 0, w, 0)},
+		{"P2 3 2 15 0 1 2 3 14 15", probe.Greys(3, 2, 0, 4369, 8738, 13107, 61166, w)},
+		{"P2 1 1 1 1", probe.Greys(1, 1, w)},
+		{"P3 1 2 65535 1 2 3 65533 65534 65535", probe.Solid(1, 2, 1, 2, 3, 65533, 65534, w)},
+		{"P3 2 1 1 1 0 0 0 1 1", probe.Solid(2, 1, w, 0, 0, 0, w, w)},
+		{"P4 3 2 \x80\x60", probe.Greys(3, 2, 0, w, w, w, 0, 0)},
+		{"P4 8 1\n\x01", probe.Greys(8, 1, w, w, w, w, w, w, w, 0)},
+		{"P4 9 2\n\x80\x80\x40\x00", probe.Greys(9, 2, 0, w, w, w, w, w, w, w, 0, w, 0, w, w, w, w, w, w, w)},
+		{"P5 3 2 255\n\x00\x01\x02\x03\xFE\xFF", probe.Greys(3, 2, 0, 257, 514, 771, 65278, w)},
+		{"P5 1 2 1\n\x01\x00", probe.Greys(1, 2, w, 0)},
+		{"P5 2 1 256\n\x00\x01\x01\x00", probe.Greys(2, 1, 256, w)},
+		{"P5 1 2 65535\n\x12\x34\xFF\x00", probe.Greys(1, 2, 0x1234, 0xFF00)},
+		{"P6 1 2 255\n\x00\x01\x02\x03\x04\xFF", probe.Solid(1, 2, 0, 257, 514, 771, 1028, w)},
+		{"P6 2 1 65535\n\x00\x01\x02\x03\x04\x05\x06\x07\x08\x09\x0A\x0B", probe.Solid(2, 1, 0x1, 0x203, 0x405, 0x607, 0x809, 0xA0B)},
 	} {
 		wantImage(t, x.file, plenty, x.want)
 	}
@@ -71,7 +71,7 @@ func TestDecodeOfEachTop(t *testing.T) {
 	t.Parallel()
 	for top := 1; top <= greatest; top++ {
 		v := (top + 1) * 3 / 7
-		want := greys(3, 1, 0, up(v, top), greatest)
+		want := probe.Greys(3, 1, 0, probe.Up(v, top), greatest)
 		wantImage(t, fmt.Sprintf("P2 3 1 %d 0 %d %d", top, v, top), plenty, want)
 		packed := []byte{0, byte(v), byte(top)}
 		if top >= 256 {
@@ -91,14 +91,14 @@ func TestDecodeOfEachSample(t *testing.T) {
 		var packed []byte
 		for i := range list {
 			v := i % (top + 1)
-			list[i] = up(v, top)
+			list[i] = probe.Up(v, top)
 			digits = append(digits, fmt.Sprint(v))
 			if top >= 256 {
 				packed = append(packed, byte(v>>8))
 			}
 			packed = append(packed, byte(v))
 		}
-		want := greys(w, h, list...)
+		want := probe.Greys(w, h, list...)
 		wantImage(t, fmt.Sprintf("P2 %d %d %d %s", w, h, top, strings.Join(digits, " ")), plenty, want)
 		wantImage(t, fmt.Sprintf("P5 %d %d %d\n%s", w, h, top, packed), plenty, want)
 	}
@@ -132,7 +132,7 @@ func TestSamplesAboveTop(t *testing.T) {
 		for c := range 256 {
 			list := []byte("010110")
 			list[place] = byte(c)
-			want := greys(6, 1, greatest, 0, greatest, 0, 0, greatest)
+			want := probe.Greys(6, 1, greatest, 0, greatest, 0, 0, greatest)
 			for i := range 3 {
 				want.Pix[4*place+i] = greatest
 				if c == '1' {
@@ -160,7 +160,7 @@ func TestBitsBehindRows(t *testing.T) {
 				bit := packed[i/w*length+i%w/8] << (i % w % 8) >> 7
 				list = append(list, greatest*(1-uint16(bit)))
 			}
-			want := greys(w, h, list...)
+			want := probe.Greys(w, h, list...)
 			for _, fill := range []byte{0, 255, 0x55} {
 				for y := range h {
 					last := y*length + length - 1
@@ -197,7 +197,7 @@ func TestBehindIsNotLookedAt(t *testing.T) {
 	for d := range 10 {
 		wantFault(t, fmt.Sprint("P2 2 1 9 1 1", d), plenty, api.ErrMalformed)
 		wantFault(t, fmt.Sprint("P2 2 1 9 1 000000001", d), plenty, api.ErrMalformed)
-		wantImage(t, fmt.Sprint("P1 2 1 11", d), plenty, greys(2, 1, 0, 0))
+		wantImage(t, fmt.Sprint("P1 2 1 11", d), plenty, probe.Greys(2, 1, 0, 0))
 	}
 }
 
@@ -206,7 +206,7 @@ func TestEndsTooEarly(t *testing.T) {
 	for _, kind := range kinds() {
 		for _, top := range []int{9, 255, 256, greatest} {
 			// No number's beginning is a number that might stand there.
-			m := greys(3, 3, slices.Repeat([]uint16{greatest}, 9)...)
+			m := probe.Greys(3, 3, slices.Repeat([]uint16{greatest}, 9)...)
 			m.Pix[35] = 0
 			file := string(plainEncode(m, kind, top))
 			wantImage(t, file, plenty, rounded(m, kind, top))

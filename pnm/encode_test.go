@@ -15,7 +15,7 @@ func TestEncodeKnown(t *testing.T) {
 	const w = greatest
 	two := api.Image{W: 2, H: 1, Pix: []uint16{0, 0, 0, w, w, w, w, 0}}
 	six := probe.ImageOf(3, 2, []api.Color{{R: w}, {G: w}, {B: w}, {R: 257, G: 514, B: 771, A: 9}, {R: w, G: w, B: w}, {A: w}})
-	nine := greys(9, 2, 0, w, 0, w, 0, w, 0, w, 0, w, w, w, w, w, w, w, 0, w)
+	nine := probe.Greys(9, 2, 0, w, 0, w, 0, w, 0, w, 0, w, w, w, w, w, w, w, 0, w)
 	for _, x := range []struct {
 		m         api.Image
 		kind, top int
@@ -37,8 +37,8 @@ func TestEncodeKnown(t *testing.T) {
 		{six, 6, 255, "P6\n3 2\n255\n\xFF\x00\x00\x00\xFF\x00\x00\x00\xFF\x01\x02\x03\xFF\xFF\xFF\x00\x00\x00"},
 		{nine, 1, 1, "P1\n9 2\n1 0 1 0 1 0 1 0 1\n0 0 0 0 0 0 0 1 0\n"},
 		{nine, 4, 1, "P4\n9 2\n\xAA\x80\x01\x00"},
-		{greys(1, 3, 0, w, 0), 1, 1, "P1\n1 3\n1\n0\n1\n"},
-		{greys(1, 3, 0, w, 0), 2, 10, "P2\n1 3\n10\n0\n10\n0\n"},
+		{probe.Greys(1, 3, 0, w, 0), 1, 1, "P1\n1 3\n1\n0\n1\n"},
+		{probe.Greys(1, 3, 0, w, 0), 2, 10, "P2\n1 3\n10\n0\n10\n0\n"},
 		{probe.ImageOf(2, 1, []api.Color{{R: w}, {R: w}}), 3, 255, "P3\n2 1\n255\n255 0 0 255 0 0\n"},
 	} {
 		wantFile(t, x.m, x.kind, x.top, x.want)
@@ -70,7 +70,7 @@ func TestEncodeOfEachWidth(t *testing.T) {
 		for _, kind := range kinds() {
 			m := probe.Image(uint32(w), w, 3)
 			wantFile(t, m, kind, 77, string(plainEncode(m, kind, 77)))
-			black := greys(w, 3, slices.Repeat([]uint16{0}, 3*w)...)
+			black := probe.Greys(w, 3, slices.Repeat([]uint16{0}, 3*w)...)
 			wantFile(t, black, kind, 300, string(plainEncode(black, kind, 300)))
 		}
 	}
@@ -83,7 +83,7 @@ func TestBlackAndWhite(t *testing.T) {
 	for v := range greatest + 1 {
 		all = append(all, uint16(v))
 	}
-	m := greys(256, 256, all...)
+	m := probe.Greys(256, 256, all...)
 	b, e := pnm.Encode(m, 4, 1)
 	if head := "P4\n256 256\n"; e != api.OK || string(b) != head+string(probe.Alike(255, 4096))+string(probe.Alike(0, 4096)) {
 		t.Error(e, probe.Short(b))
@@ -108,8 +108,8 @@ func TestEncodeOfEachTop(t *testing.T) {
 		half := uint16((greatest/2 + top) / top)
 		c := api.Color{R: half, G: half - 1, B: greatest - half, A: uint16(top)}
 		m := probe.ImageOf(1, 1, []api.Color{c})
-		wantFile(t, m, 3, top, fmt.Sprintf("P3\n1 1\n%d\n%d %d %d\n", top, down(c.R, top), down(c.G, top), down(c.B, top)))
-		wantFile(t, m, 2, top, fmt.Sprintf("P2\n1 1\n%d\n%d\n", top, down(luma(c), top)))
+		wantFile(t, m, 3, top, fmt.Sprintf("P3\n1 1\n%d\n%d %d %d\n", top, probe.Down(c.R, top), probe.Down(c.G, top), probe.Down(c.B, top)))
+		wantFile(t, m, 2, top, fmt.Sprintf("P2\n1 1\n%d\n%d\n", top, probe.Down(luma(c), top)))
 		wantFile(t, m, 6, top, string(plainEncode(m, 6, top)))
 		wantFile(t, m, 5, top, string(plainEncode(m, 5, top)))
 	}

@@ -14,17 +14,17 @@ import (
 func pieces(kind int) (list []string, want api.Image) {
 	switch kind {
 	case 1:
-		return []string{"P1", "2", "1", "0", "1"}, greys(2, 1, greatest, 0)
+		return []string{"P1", "2", "1", "0", "1"}, probe.Greys(2, 1, greatest, 0)
 	case 2:
-		return []string{"P2", "2", "1", "99", "0", "99"}, greys(2, 1, 0, greatest)
+		return []string{"P2", "2", "1", "99", "0", "99"}, probe.Greys(2, 1, 0, greatest)
 	case 3:
-		return []string{"P3", "1", "1", "15", "0", "1", "15"}, solid(1, 1, 0, 4369, greatest)
+		return []string{"P3", "1", "1", "15", "0", "1", "15"}, probe.Solid(1, 1, 0, 4369, greatest)
 	case 4:
-		return []string{"P4", "2", "1", "\x40"}, greys(2, 1, greatest, 0)
+		return []string{"P4", "2", "1", "\x40"}, probe.Greys(2, 1, greatest, 0)
 	case 5:
-		return []string{"P5", "2", "1", "255", "\x00\x01"}, greys(2, 1, 0, 257)
+		return []string{"P5", "2", "1", "255", "\x00\x01"}, probe.Greys(2, 1, 0, 257)
 	}
-	return []string{"P6", "1", "1", "255", "123"}, solid(1, 1, 49*257, 50*257, 51*257)
+	return []string{"P6", "1", "1", "255", "123"}, probe.Solid(1, 1, 49*257, 50*257, 51*257)
 }
 
 // spacing answers a file of the pieces of a kind, with this between two of them,
@@ -109,7 +109,7 @@ func TestRemarks(t *testing.T) {
 			}
 		}
 	}
-	wantImage(t, "P1 6 1 #\n1#\n0#a\n#b\r 1\r0 #\n 0#1\n1", plenty, greys(6, 1, 0, greatest, 0, greatest, greatest, 0))
+	wantImage(t, "P1 6 1 #\n1#\n0#a\n#b\r 1\r0 #\n 0#1\n1", plenty, probe.Greys(6, 1, 0, greatest, 0, greatest, greatest, 0))
 }
 
 // P10.1: ahead of packed samples stands one space: what is behind it is a sample,
@@ -133,13 +133,13 @@ func TestOneSpace(t *testing.T) {
 			}
 		}
 	}
-	wantImage(t, "P4 8 1\n ", plenty, greys(8, 1, greatest, greatest, 0, greatest, greatest, greatest, greatest, greatest))
-	wantImage(t, "P4 2 1  \xFF", plenty, greys(2, 1, greatest, greatest))
-	wantImage(t, "P5 1 1 255 #", plenty, greys(1, 1, 35*257))
-	wantImage(t, "P5 1 1 255\n\n", plenty, greys(1, 1, 10*257))
-	wantImage(t, "P5 2 1 255\r\n#", plenty, greys(2, 1, 10*257, 35*257))
-	wantImage(t, "P6 1 1 255 \t\r ", plenty, solid(1, 1, 9*257, 13*257, 32*257))
-	wantImage(t, "P5 1 1 65535 # ", plenty, greys(1, 1, 35*256+32))
+	wantImage(t, "P4 8 1\n ", plenty, probe.Greys(8, 1, greatest, greatest, 0, greatest, greatest, greatest, greatest, greatest))
+	wantImage(t, "P4 2 1  \xFF", plenty, probe.Greys(2, 1, greatest, greatest))
+	wantImage(t, "P5 1 1 255 #", plenty, probe.Greys(1, 1, 35*257))
+	wantImage(t, "P5 1 1 255\n\n", plenty, probe.Greys(1, 1, 10*257))
+	wantImage(t, "P5 2 1 255\r\n#", plenty, probe.Greys(2, 1, 10*257, 35*257))
+	wantImage(t, "P6 1 1 255 \t\r ", plenty, probe.Solid(1, 1, 9*257, 13*257, 32*257))
+	wantImage(t, "P5 1 1 65535 # ", plenty, probe.Greys(1, 1, 35*256+32))
 }
 
 // P10.1: numbers of one to nine digits, noughts ahead, and what is no number.
@@ -181,9 +181,9 @@ func TestNumbers(t *testing.T) {
 
 // P10.1: of kind 1 two digits are two samples, a nought ahead is one too.
 func TestDigits(t *testing.T) {
-	wantImage(t, "P1 2 1 01", plenty, greys(2, 1, greatest, 0))
-	wantImage(t, "P1 1 1 01", plenty, greys(1, 1, greatest))
-	wantImage(t, "P1 12 1 010101 010101", plenty, greys(12, 1, greatest, 0, greatest, 0, greatest, 0, greatest, 0, greatest, 0, greatest, 0))
+	wantImage(t, "P1 2 1 01", plenty, probe.Greys(2, 1, greatest, 0))
+	wantImage(t, "P1 1 1 01", plenty, probe.Greys(1, 1, greatest))
+	wantImage(t, "P1 12 1 010101 010101", plenty, probe.Greys(12, 1, greatest, 0, greatest, 0, greatest, 0, greatest, 0, greatest, 0, greatest, 0))
 	wantFault(t, "P1 3 1 0 1", plenty, api.ErrMalformed)
 }
 
@@ -210,7 +210,7 @@ func TestHeadNumbers(t *testing.T) {
 		}
 	}
 	// Of the other kinds no top value stands there: it is a sample, or several.
-	wantImage(t, "P1 1 1 1", plenty, greys(1, 1, 0))
-	wantImage(t, "P1 2 1 1 1", plenty, greys(2, 1, 0, 0))
-	wantImage(t, "P4 1 1 1 ", plenty, greys(1, 1, greatest))
+	wantImage(t, "P1 1 1 1", plenty, probe.Greys(1, 1, 0))
+	wantImage(t, "P1 2 1 1 1", plenty, probe.Greys(2, 1, 0, 0))
+	wantImage(t, "P4 1 1 1 ", plenty, probe.Greys(1, 1, greatest))
 }

@@ -31,51 +31,18 @@ func tops() []int {
 	return []int{1, 2, 3, 4, 7, 9, 15, 99, 100, 127, 128, 254, 255, 256, 257, 1000, 4095, 32767, 32768, 65534, greatest}
 }
 
-// up is the sample that stands for v of top.
-func up(v, top int) uint16 { return uint16((greatest*v + top/2) / top) }
-
-// down is the number from 0 to top that stands for a sample.
-func down(v uint16, top int) int { return (int(v)*top + 32767) / greatest }
-
 // luma is a pixel's grey.
 func luma(c api.Color) uint16 {
 	return uint16((19595*int(c.R) + 38470*int(c.G) + 7471*int(c.B) + 32768) / 65536)
-}
-
-// colorsOf are all of an image's pixels.
-func colorsOf(m api.Image) []api.Color {
-	var all []api.Color
-	for i := 0; i < len(m.Pix); i += 4 {
-		all = append(all, api.Color{R: m.Pix[i], G: m.Pix[i+1], B: m.Pix[i+2], A: m.Pix[i+3]})
-	}
-	return all
-}
-
-// greys answers an image of solid greys.
-func greys(w, h int, list ...uint16) api.Image {
-	var all []api.Color
-	for _, v := range list {
-		all = append(all, api.Color{R: v, G: v, B: v, A: greatest})
-	}
-	return probe.ImageOf(w, h, all)
-}
-
-// solid answers an image of solid colours, three numbers a pixel.
-func solid(w, h int, list ...uint16) api.Image {
-	var all []api.Color
-	for c := range slices.Chunk(list, 3) {
-		all = append(all, api.Color{R: c[0], G: c[1], B: c[2], A: greatest})
-	}
-	return probe.ImageOf(w, h, all)
 }
 
 // numbers answers what a pixel is in a file, in the order of the file.
 func numbers(c api.Color, kind, top int) []int {
 	switch grey := luma(c); {
 	case isColor(kind):
-		return []int{down(c.R, top), down(c.G, top), down(c.B, top)}
+		return []int{probe.Down(c.R, top), probe.Down(c.G, top), probe.Down(c.B, top)}
 	case isGraded(kind):
-		return []int{down(grey, top)}
+		return []int{probe.Down(grey, top)}
 	case grey < 32768:
 		return []int{1}
 	}
@@ -89,7 +56,7 @@ func plainEncode(m api.Image, kind, top int) []byte {
 	if isGraded(kind) {
 		fmt.Fprintf(&b, "%d\n", top)
 	}
-	for row := range slices.Chunk(colorsOf(m), m.W) {
+	for row := range slices.Chunk(probe.ColorsOf(m), m.W) {
 		var list []int
 		for _, c := range row {
 			list = append(list, numbers(c, kind, top)...)
@@ -126,14 +93,14 @@ func plainRow(list []int, kind, top int) []byte {
 
 // rounded answers what an image is when it was written and read again.
 func rounded(m api.Image, kind, top int) api.Image {
-	all := colorsOf(m)
+	all := probe.ColorsOf(m)
 	for i, c := range all {
 		list := numbers(c, kind, top)
 		switch {
 		case isColor(kind):
-			all[i] = api.Color{R: up(list[0], top), G: up(list[1], top), B: up(list[2], top), A: greatest}
+			all[i] = api.Color{R: probe.Up(list[0], top), G: probe.Up(list[1], top), B: probe.Up(list[2], top), A: greatest}
 		case isGraded(kind):
-			v := up(list[0], top)
+			v := probe.Up(list[0], top)
 			all[i] = api.Color{R: v, G: v, B: v, A: greatest}
 		default:
 			v := uint16(greatest * (1 - list[0]))

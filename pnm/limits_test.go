@@ -32,15 +32,15 @@ func TestLongFiles(t *testing.T) {
 	// Most of the longest file there may be is a gap, or a remark.
 	b := append(slices.Clone(longest[:api.MaxFile-7]), "1 1 1"...)
 	copy(b, "P1")
-	wantImage(t, string(b), plenty, greys(1, 1, 0))
+	wantImage(t, string(b), plenty, probe.Greys(1, 1, 0))
 	b[2] = '#'
 	b[len(b)-6] = '\n'
-	wantImage(t, string(b), plenty, greys(1, 1, 0))
+	wantImage(t, string(b), plenty, probe.Greys(1, 1, 0))
 }
 
 // whole answers a file of an image that is white all over.
 func whole(kind, w, h int) (string, api.Image) {
-	m := greys(w, h, slices.Repeat([]uint16{greatest}, w*h)...)
+	m := probe.Greys(w, h, slices.Repeat([]uint16{greatest}, w*h)...)
 	return string(plainEncode(m, kind, 1)), m
 }
 

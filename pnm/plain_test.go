@@ -126,15 +126,15 @@ func plainImage(samples []int, kind, w, h, top int) api.Image {
 	for _, v := range samples {
 		switch {
 		case isColor(kind):
-			all = append(all, up(v, top))
+			all = append(all, probe.Up(v, top))
 		case isGraded(kind):
-			all = append(all, up(v, top), up(v, top), up(v, top))
+			all = append(all, probe.Up(v, top), probe.Up(v, top), probe.Up(v, top))
 		default:
 			v = greatest * (1 - v)
 			all = append(all, uint16(v), uint16(v), uint16(v))
 		}
 	}
-	return solid(w, h, all...)
+	return probe.Solid(w, h, all...)
 }
 
 // smallFiles are files of all kinds, with few pixels, written in several ways.
@@ -156,26 +156,7 @@ func smallFiles() []string {
 // changed answers a file with some bytes changed, put in, or taken out.
 func changed(file string, seed uint32) string {
 	letters := " \t\n\v\f\r#0011234569P\x00\x08\x0E\x1F!/:\x85\xA0\xFF-+x"
-	dice := probe.Noise(seed, 16)
-	b := []byte(file)
-	for i := range int(dice[0]) % 4 {
-		d := dice[4*i+1 : 4*i+5]
-		place := int(d[0]) % (len(b) + 1)
-		letter := letters[int(d[1])%len(letters)]
-		switch d[2] % 4 {
-		case 0:
-			b = slices.Insert(b, place, letter)
-		case 1:
-			b = slices.Delete(b, place, min(place+1, len(b)))
-		case 2:
-			b = slices.Replace(b, place, min(place+1, len(b)), letter)
-		default:
-			if d[3]%4 == 0 {
-				b = b[:place]
-			}
-		}
-	}
-	return string(b)
+	return string(probe.Changed([]byte(file), []byte(letters), seed))
 }
 
 // P10.1: files, and such with a few bytes changed, against the plain reader.

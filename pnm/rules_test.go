@@ -33,7 +33,7 @@ func TestKeepsAndSharesNothing(t *testing.T) {
 			for _, n := range []int{24, 23, 0} {
 				if s := probe.Kept(m.Pix[:n], func(pix []uint16) ([]uint16, api.Errno) {
 					b, e := pnm.Encode(api.Image{W: 3, H: 2, Pix: pix}, kind, top)
-					return wide(b), e
+					return probe.Wide(b), e
 				}); s != "" {
 					t.Errorf("Encode, kind %d, top %d: %s", kind, top, s)
 				}
@@ -42,30 +42,13 @@ func TestKeepsAndSharesNothing(t *testing.T) {
 			for _, n := range []int{len(file), len(file) - 1, len(file) - 2, 5, 0} {
 				if s := probe.Kept(file[:n], func(b []byte) ([]byte, api.Errno) {
 					m, e := pnm.Decode(b, 6)
-					return narrow(m.Pix), e
+					return probe.Narrow(m.Pix), e
 				}); s != "" {
 					t.Errorf("Decode(%q): %s", file[:n], s)
 				}
 			}
 		}
 	}
-}
-
-// wide answers a list of bytes, as it is, as one of samples; narrow the other way.
-func wide(b []byte) []uint16 {
-	list := make([]uint16, len(b))
-	for i, x := range b {
-		list[i] = uint16(x)
-	}
-	return list
-}
-
-func narrow(pix []uint16) []byte {
-	var b []byte
-	for _, s := range pix {
-		b = append(b, byte(s>>8), byte(s))
-	}
-	return b
 }
 
 // R4: answers share no memory with one another.
@@ -101,7 +84,7 @@ func TestSameAnswers(t *testing.T) {
 			return pnm.Encode(images[i%len(images)], i/3%8, i*i*7)
 		}
 		m, e := pnm.Decode([]byte(files[i/3]), 4*(i%3)+1)
-		return append(narrow(m.Pix), byte(m.W), byte(m.H)), e
+		return append(probe.Narrow(m.Pix), byte(m.W), byte(m.H)), e
 	}); s != "" {
 		t.Error(s)
 	}

@@ -32,6 +32,33 @@ func ImageOf(w, h int, colors []api.Color) api.Image {
 	return m
 }
 
+// ColorsOf are all of an image's pixels.
+func ColorsOf(m api.Image) []api.Color {
+	var all []api.Color
+	for i := 0; i < len(m.Pix); i += 4 {
+		all = append(all, api.Color{R: m.Pix[i], G: m.Pix[i+1], B: m.Pix[i+2], A: m.Pix[i+3]})
+	}
+	return all
+}
+
+// Greys answers an image of solid greys.
+func Greys(w, h int, list ...uint16) api.Image {
+	var all []api.Color
+	for _, v := range list {
+		all = append(all, api.Color{R: v, G: v, B: v, A: greatest})
+	}
+	return ImageOf(w, h, all)
+}
+
+// Solid answers an image of solid colours, three numbers a pixel.
+func Solid(w, h int, list ...uint16) api.Image {
+	var all []api.Color
+	for c := range slices.Chunk(list, 3) {
+		all = append(all, api.Color{R: c[0], G: c[1], B: c[2], A: greatest})
+	}
+	return ImageOf(w, h, all)
+}
+
 // Sampled answers an image, good or not, with n samples.
 func Sampled(w, h, n int) api.Image {
 	return api.Image{W: w, H: h, Pix: slices.Repeat([]uint16{7}, n)}

@@ -84,6 +84,30 @@ func TestTexts(t *testing.T) {
 	}
 }
 
+func TestChanged(t *testing.T) {
+	file, before := probe.Roomy(probe.Alike(1, 600))
+	all := slices.Clone(before)
+	seen := map[int]int{}
+	places := map[int]bool{}
+	for seed := range uint32(2000) {
+		b := probe.Changed(file, []byte{2, 3}, seed)
+		if !bytes.Equal(b, probe.Changed(file, []byte{2, 3}, seed)) || !slices.Equal(all, before) {
+			t.Fatal("changes hang on something beside their seed, or change the file")
+		}
+		places[bytes.IndexAny(b, "\x02\x03")] = true
+		seen[len(b)]++
+		if len(b) > 603 || bytes.ContainsFunc(b, func(r rune) bool { return r < 1 || r > 3 }) {
+			t.Error(probe.Short(b))
+		}
+	}
+	if seen[600] < 300 || seen[599] < 100 || seen[601] < 100 || len(seen) < 50 || len(places) < 300 {
+		t.Error("of some changes there are but few:", seen[600], seen[599], seen[601], len(seen), len(places))
+	}
+	if b := probe.Changed(nil, []byte{9}, 1); len(b) > 3 {
+		t.Error(b)
+	}
+}
+
 func TestSizes(t *testing.T) {
 	for _, s := range probe.Sizes() {
 		if s.W < 1 || s.W > 4096 || s.H < 1 || s.H > 4096 || s.W*s.H > 65536 {
@@ -139,6 +163,38 @@ func TestImages(t *testing.T) {
 	m = probe.Image(5, 3, 2)
 	if n := probe.ImageOf(3, 2, probe.Colors(5, 6)); m.W != 3 || m.H != 2 || !slices.Equal(m.Pix, n.Pix) {
 		t.Error(m)
+	}
+}
+
+func TestColorsOf(t *testing.T) {
+	if list := probe.ColorsOf(probe.Image(3, 5, 4)); !slices.Equal(list, probe.Colors(3, 20)) {
+		t.Error(list)
+	}
+	if m := probe.Greys(1, 2, 3, 4); m.W != 1 || m.H != 2 || !slices.Equal(m.Pix, []uint16{3, 3, 3, 65535, 4, 4, 4, 65535}) {
+		t.Error(m)
+	}
+	if m := probe.Solid(2, 1, 1, 2, 3, 4, 5, 6); m.W != 2 || m.H != 1 || !slices.Equal(m.Pix, []uint16{1, 2, 3, 65535, 4, 5, 6, 65535}) {
+		t.Error(m)
+	}
+}
+
+func TestDepths(t *testing.T) {
+	for _, x := range []struct {
+		v, top int
+		want   uint16
+	}{{0, 1, 0}, {1, 1, 65535}, {1, 31, 2114}, {1, 255, 257}, {65535, 65535, 65535}} {
+		if probe.Up(x.v, x.top) != x.want || probe.Down(x.want, x.top) != x.v {
+			t.Error(x)
+		}
+	}
+	if probe.Down(128, 255) != 0 || probe.Down(129, 255) != 1 {
+		t.Error("Down")
+	}
+	if list := probe.Wide([]byte{0, 255, 7}); !slices.Equal(list, []uint16{0, 255, 7}) {
+		t.Error(list)
+	}
+	if b := probe.Narrow([]uint16{0x1234, 255}); !bytes.Equal(b, []byte{0x12, 0x34, 0, 255}) {
+		t.Error(b)
 	}
 }
 

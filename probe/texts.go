@@ -65,6 +65,31 @@ func Pieces(seed uint32, n int) []byte {
 	return b
 }
 
+// Changed answers a file with up to three bytes changed, put in, or taken out, or
+// its end cut off. The new bytes are some of letters.
+func Changed(file, letters []byte, seed uint32) []byte {
+	dice := Noise(seed, 16)
+	b := slices.Clone(file)
+	for i := range int(dice[0]) % 4 {
+		d := dice[4*i+1 : 4*i+5]
+		place := (int(d[0]) + 256*int(d[3])) % (len(b) + 1)
+		letter := letters[int(d[1])%len(letters)]
+		switch d[2] % 4 {
+		case 0:
+			b = slices.Insert(b, place, letter)
+		case 1:
+			b = slices.Delete(b, place, min(place+1, len(b)))
+		case 2:
+			b = slices.Replace(b, place, min(place+1, len(b)), letter)
+		default:
+			if d[3]%4 == 0 {
+				b = b[:place]
+			}
+		}
+	}
+	return b
+}
+
 // A Text is bytes to be packed.
 type Text struct {
 	Name string
