@@ -95,10 +95,7 @@ func TestEncode(t *testing.T) {
 func TestEncodeOfEachSample(t *testing.T) {
 	t.Parallel()
 	for k := range 4 {
-		m := probe.Image(uint32(k), 256, 256)
-		for v := range 1 << 16 {
-			m.Pix[4*v+k] = uint16(v)
-		}
+		m := probe.EachSample(k)
 		for _, alpha := range []bool{false, true} {
 			wantFile(t, m, alpha, plainEncode(m, alpha))
 			b, _ := bmp.Encode(m, alpha)

@@ -22,45 +22,35 @@ type plain struct {
 	palette              []api.Color
 }
 
-// must ends the reading at what isn't so.
-func must(ok bool, e api.Errno) {
-	if !ok {
-		panic(e)
-	}
-}
-
-func plainDecode(b []byte, most int) (m api.Image, e api.Errno) {
-	defer func() {
-		if fault := recover(); fault != nil {
-			m, e = api.Image{}, fault.(api.Errno)
+func plainDecode(b []byte, most int) (api.Image, api.Errno) {
+	return probe.Read(func() api.Image {
+		probe.Must(len(b) <= 4194304, api.ErrLimit)
+		p := &plain{b: b, most: most}
+		p.head()
+		p.colors()
+		probe.Must(p.width <= 4096 && p.height <= 4096, api.ErrLimit)
+		probe.Must(p.width*p.height <= 65536 && p.width*p.height <= most, api.ErrLimit)
+		probe.Must(p.place <= len(b), api.ErrMalformed)
+		numbers := p.rows
+		if p.packing == 1 || p.packing == 2 {
+			numbers = p.runs
 		}
-	}()
-	must(len(b) <= 4194304, api.ErrLimit)
-	p := &plain{b: b, most: most}
-	p.head()
-	p.colors()
-	must(p.width <= 4096 && p.height <= 4096, api.ErrLimit)
-	must(p.width*p.height <= 65536 && p.width*p.height <= most, api.ErrLimit)
-	must(p.place <= len(b), api.ErrMalformed)
-	numbers := p.rows
-	if p.packing == 1 || p.packing == 2 {
-		numbers = p.runs
-	}
-	list := numbers()
-	var all []api.Color
-	for y := range p.height {
-		if !p.down {
-			y = p.height - 1 - y
+		list := numbers()
+		var all []api.Color
+		for y := range p.height {
+			if !p.down {
+				y = p.height - 1 - y
+			}
+			for x := range p.width {
+				all = append(all, p.color(list[api.Point{X: x, Y: y}]))
+			}
 		}
-		for x := range p.width {
-			all = append(all, p.color(list[api.Point{X: x, Y: y}]))
-		}
-	}
-	return probe.ImageOf(p.width, p.height, all), api.OK
+		return probe.ImageOf(p.width, p.height, all)
+	})
 }
 
 func (p *plain) number(at, size int) int {
-	must(at+size <= len(p.b), api.ErrMalformed)
+	probe.Must(at+size <= len(p.b), api.ErrMalformed)
 	v := 0
 	for i := range size {
 		v = 256*v + int(p.b[at+size-1-i])
@@ -77,27 +67,27 @@ func (p *plain) signed(at int) int {
 }
 
 func (p *plain) head() {
-	must(len(p.b) >= 18 && p.b[0] == 66 && p.b[1] == 77, api.ErrMalformed)
+	probe.Must(len(p.b) >= 18 && p.b[0] == 66 && p.b[1] == 77, api.ErrMalformed)
 	p.place = p.number(10, 4)
 	p.second = p.number(14, 4)
-	must(p.second != 12 && p.second != 16 && p.second != 64, api.ErrUnsupported)
-	must(slices.Contains(seconds(), p.second), api.ErrMalformed)
-	must(len(p.b) >= 14+p.second, api.ErrMalformed)
+	probe.Must(p.second != 12 && p.second != 16 && p.second != 64, api.ErrUnsupported)
+	probe.Must(slices.Contains(seconds(), p.second), api.ErrMalformed)
+	probe.Must(len(p.b) >= 14+p.second, api.ErrMalformed)
 	p.width = p.signed(18)
-	must(p.width >= 1, api.ErrMalformed)
+	probe.Must(p.width >= 1, api.ErrMalformed)
 	p.height = p.signed(22)
-	must(p.height != 0, api.ErrMalformed)
+	probe.Must(p.height != 0, api.ErrMalformed)
 	if p.height < 0 {
 		p.height, p.down = -p.height, true
 	}
-	must(p.number(26, 2) == 1, api.ErrMalformed)
+	probe.Must(p.number(26, 2) == 1, api.ErrMalformed)
 	p.depth = p.number(28, 2)
-	must(slices.Contains([]int{1, 4, 8, 16, 24, 32}, p.depth), api.ErrMalformed)
+	probe.Must(slices.Contains([]int{1, 4, 8, 16, 24, 32}, p.depth), api.ErrMalformed)
 	p.packing = p.number(30, 4)
-	must(p.packing != 4 && p.packing != 5, api.ErrUnsupported)
+	probe.Must(p.packing != 4 && p.packing != 5, api.ErrUnsupported)
 	fits := map[int][]int{0: {1, 4, 8, 16, 24, 32}, 1: {8}, 2: {4}, 3: {16, 32}, 6: {16, 32}}
-	must(slices.Contains(fits[p.packing], p.depth), api.ErrMalformed)
-	must(!p.down || p.packing != 1 && p.packing != 2, api.ErrMalformed)
+	probe.Must(slices.Contains(fits[p.packing], p.depth), api.ErrMalformed)
+	probe.Must(!p.down || p.packing != 1 && p.packing != 2, api.ErrMalformed)
 }
 
 // colors reads a palette, or masks, if there is such.
@@ -105,7 +95,7 @@ func (p *plain) colors() {
 	if p.depth < 16 {
 		count := p.number(46, 4)
 		all := []int{1: 2, 4: 16, 8: 256}[p.depth]
-		must(count <= all, api.ErrMalformed)
+		probe.Must(count <= all, api.ErrMalformed)
 		if count == 0 {
 			count = all
 		}
@@ -129,11 +119,11 @@ func (p *plain) colors() {
 	if p.packing == 3 && p.second <= 52 {
 		n = 3
 	}
-	must(p.packing != 6 || p.second != 52, api.ErrMalformed)
+	probe.Must(p.packing != 6 || p.second != 52, api.ErrMalformed)
 	for i := range n {
 		p.masks[i] = p.number(54+4*i, 4)
 	}
-	must(plainMasks(p.masks, p.depth), api.ErrMalformed)
+	probe.Must(plainMasks(p.masks, p.depth), api.ErrMalformed)
 }
 
 // setBits are the places of the bits that are set, from the lowest on.
@@ -167,7 +157,7 @@ func plainMasks(masks [4]int, depth int) bool {
 
 func (p *plain) color(number int) api.Color {
 	if p.depth < 16 {
-		must(number < len(p.palette), api.ErrMalformed)
+		probe.Must(number < len(p.palette), api.ErrMalformed)
 		return p.palette[number]
 	}
 	s := func(mask int) uint16 {
@@ -191,7 +181,7 @@ func (p *plain) rows() map[api.Point]int {
 	for length%4 != 0 {
 		length++
 	}
-	must(p.place+length*p.height <= len(p.b), api.ErrMalformed)
+	probe.Must(p.place+length*p.height <= len(p.b), api.ErrMalformed)
 	for y := range p.height {
 		row := p.b[p.place+length*y:]
 		for x := range p.width {
@@ -215,7 +205,7 @@ func (p *plain) runs() map[api.Point]int {
 	list, at, pen := map[api.Point]int{}, p.place, api.Point{}
 	next := func() int { at++; return p.number(at-1, 1) }
 	draw := func(v int) {
-		must(pen.X < p.width && pen.Y < p.height, api.ErrMalformed)
+		probe.Must(pen.X < p.width && pen.Y < p.height, api.ErrMalformed)
 		list[pen] = v
 		pen.X++
 	}
@@ -252,7 +242,7 @@ func (p *plain) runs() map[api.Point]int {
 				next()
 			}
 		}
-		must(pen.X <= p.width && pen.Y <= p.height, api.ErrMalformed)
+		probe.Must(pen.X <= p.width && pen.Y <= p.height, api.ErrMalformed)
 	}
 }
 

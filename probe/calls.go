@@ -68,3 +68,47 @@ func Steady(n int, call func(i int) ([]byte, api.Errno)) string {
 	ws.Wait()
 	return slices.Max(faults[:])
 }
+
+// Apart answers how a format's answers share memory with one another or with what
+// was handed in, "" if they don't: encode writes such files as decode reads.
+func Apart(encode func(m api.Image) ([]byte, api.Errno), decode func(b []byte) (api.Image, api.Errno)) string {
+	m, before := Image(2, 4, 3), Image(2, 4, 3)
+	first, _ := encode(m)
+	second, _ := encode(m)
+	file := bytes.Clone(second)
+	one, _ := decode(first)
+	two, _ := decode(first)
+	pix := slices.Clone(two.Pix)
+	Spoil(first)
+	Spoil(one.Pix)
+	if !bytes.Equal(second, file) || !slices.Equal(two.Pix, pix) {
+		return "answers share memory"
+	}
+	if !slices.Equal(m.Pix, before.Pix) {
+		return "what was handed in is answered"
+	}
+	if again, e := encode(before); e != api.OK || !bytes.Equal(again, file) {
+		return "what was answered is kept"
+	}
+	if again, e := decode(file); e != api.OK || !slices.Equal(again.Pix, pix) {
+		return "what was answered is kept"
+	}
+	return ""
+}
+
+// Must ends what Read calls with an error, if something isn't so.
+func Must(ok bool, e api.Errno) {
+	if !ok {
+		panic(e)
+	}
+}
+
+// Read answers what a reader that goes by Must does.
+func Read(read func() api.Image) (m api.Image, e api.Errno) {
+	defer func() {
+		if fault := recover(); fault != nil {
+			m, e = api.Image{}, fault.(api.Errno)
+		}
+	}()
+	return read(), api.OK
+}

@@ -55,6 +55,54 @@ func TestKept(t *testing.T) {
 	}
 }
 
+func TestApart(t *testing.T) {
+	encode := func(m api.Image) ([]byte, api.Errno) { return probe.Narrow(m.Pix), api.OK }
+	decode := func(b []byte) (api.Image, api.Errno) { return api.Image{W: 4, H: 3, Pix: probe.Wide(b)}, api.OK }
+	if s := probe.Apart(encode, decode); s != "" {
+		t.Error(s)
+	}
+	var file []byte
+	if probe.Apart(func(m api.Image) ([]byte, api.Errno) {
+		if file == nil {
+			file, _ = encode(m)
+		}
+		return file, api.OK
+	}, decode) == "" {
+		t.Error("not found out: files share memory")
+	}
+	var read api.Image
+	if probe.Apart(encode, func(b []byte) (api.Image, api.Errno) {
+		if read.Pix == nil {
+			read, _ = decode(b)
+		}
+		return read, api.OK
+	}) == "" {
+		t.Error("not found out: images share memory")
+	}
+	var first []byte
+	if probe.Apart(func(m api.Image) ([]byte, api.Errno) {
+		if first == nil {
+			first, _ = encode(m)
+			return first, api.OK
+		}
+		return bytes.Clone(first), api.OK
+	}, decode) == "" {
+		t.Error("not found out: what was answered is kept")
+	}
+}
+
+func TestRead(t *testing.T) {
+	for _, e := range []api.Errno{api.OK, api.ErrLimit, api.ErrMalformed} {
+		m, got := probe.Read(func() api.Image {
+			probe.Must(e == api.OK, e)
+			return api.Image{W: 5}
+		})
+		if got != e || (m.W == 5) != (e == api.OK) {
+			t.Error(e, m, got)
+		}
+	}
+}
+
 func TestSteady(t *testing.T) {
 	lists := [][]byte{nil, {1}, {2}, {3, 4}, {5}}
 	if s := probe.Steady(len(lists), func(i int) ([]byte, api.Errno) { return good(lists[i]) }); s != "" {

@@ -23,6 +23,16 @@ func Colors(seed uint32, n int) []api.Color {
 // Image answers an image of such colours.
 func Image(seed uint32, w, h int) api.Image { return ImageOf(w, h, Colors(seed, w*h)) }
 
+// EachSample answers an image with each sample as one of a pixel's four, the one of
+// this number.
+func EachSample(plane int) api.Image {
+	m := Image(uint32(plane), 256, 256)
+	for v := range greatest + 1 {
+		m.Pix[4*v+plane] = uint16(v)
+	}
+	return m
+}
+
 // ImageOf answers an image of these colours, row by row.
 func ImageOf(w, h int, colors []api.Color) api.Image {
 	m := api.Image{W: w, H: h}
