@@ -45,7 +45,7 @@ func TestApplyKnown(t *testing.T) {
 		"one color in two samples":      {[]api.Color{{R: 9}, {R: 250}}, []api.Color{{R: 128, A: greatest}, {R: 129, A: greatest}, black}, []byte{0, 1, 0}},
 	} {
 		t.Log(name)
-		wantIndex(t, row(x.pixels...), x.palette, x.want)
+		wantIndex(t, probe.Row(x.pixels...), x.palette, x.want)
 	}
 }
 
@@ -57,7 +57,7 @@ func TestApply(t *testing.T) {
 	for seed := range uint32(400) {
 		s := probe.Noise(seed, 6)
 		m := probe.Image(seed, 1+int(s[0])%20, 1+int(s[1])%20)
-		coarsen(m, seed)
+		probe.Coarsen(m, seed)
 		palette := probe.Colors(seed+1000, 1+int(s[2])*int(s[3])/255)
 		for i := range palette {
 			if s[4]%3 == 0 && i%5 == int(s[5])%5 {
@@ -88,7 +88,7 @@ func TestApply(t *testing.T) {
 func TestApplySizes(t *testing.T) {
 	for i, s := range probe.Sizes() {
 		m := probe.Image(uint32(i), s.W, s.H)
-		coarsen(m, 4)
+		probe.Coarsen(m, 4)
 		for _, n := range []int{1, 2, 255, 256} {
 			palette := probe.Colors(uint32(i), n)
 			wantIndex(t, m, palette, plainIndex(m, palette))
@@ -98,16 +98,16 @@ func TestApplySizes(t *testing.T) {
 
 // P14.2: each place of the greatest palette, and each sample of each plane.
 func TestApplyEach(t *testing.T) {
-	all := eights(plenty)
+	all := probe.Eights(plenty)
 	var want []byte
 	for i := range plenty {
 		want = append(want, byte(i))
 	}
-	wantIndex(t, row(all...), all, want)
+	wantIndex(t, probe.Row(all...), all, want)
 	for place := range all {
 		palette := slices.Clone(all)
 		palette[place].A = 0
-		wantIndex(t, row(hole, all[place]), palette, []byte{byte(place), byte(place)})
+		wantIndex(t, probe.Row(hole, all[place]), palette, []byte{byte(place), byte(place)})
 	}
 	for plane := range 4 {
 		m := probe.EachSample(plane)
@@ -123,9 +123,9 @@ func TestApplyEach(t *testing.T) {
 
 // P14.2: palettes that are empty or too long; an image that isn't good goes first.
 func TestNoIndex(t *testing.T) {
-	wrong := [][]api.Color{nil, {}, eights(plenty)[:0], eights(257), eights(258), eights(512), eights(70000), make([]api.Color, 257)}
+	wrong := [][]api.Color{nil, {}, probe.Eights(plenty)[:0], probe.Eights(257), probe.Eights(258), probe.Eights(512), probe.Eights(70000), make([]api.Color, 257)}
 	for _, palette := range wrong {
-		for _, m := range []api.Image{row(black), row(hole), probe.Image(1, 7, 7)} {
+		for _, m := range []api.Image{probe.Row(black), probe.Row(hole), probe.Image(1, 7, 7)} {
 			wantNoIndex(t, m, palette, api.ErrRange)
 		}
 		wantNoIndex(t, api.Image{}, palette, api.ErrImage)
@@ -138,11 +138,11 @@ func TestNoIndex(t *testing.T) {
 
 // P14.4: images of few eight-bit colours come back just as they were.
 func TestThereAndBack(t *testing.T) {
-	images := []api.Image{row(black, white), row(red), row(eights(256)...), probe.ImageOf(16, 16, eights(256))}
+	images := []api.Image{probe.Row(black, white), probe.Row(red), probe.Row(probe.Eights(256)...), probe.ImageOf(16, 16, probe.Eights(256))}
 	for seed := range uint32(60) {
 		s := probe.Noise(seed, 2000)
 		w, h := 1+int(s[0])%40, 1+int(s[1])%40
-		all := eights(1 + int(s[2]))
+		all := probe.Eights(1 + int(s[2]))
 		m := api.Image{W: w, H: h}
 		for i := range w * h {
 			c := all[int(s[3+i])%len(all)]
@@ -163,11 +163,11 @@ func TestThereAndBack(t *testing.T) {
 // P14.4: with other alphas, or samples of more bits, an image comes back rounded;
 // clear pixels come back clear, if the palette has a colour for them.
 func TestThereAndBackRounded(t *testing.T) {
-	m := row(api.Color{R: 128, G: 129, B: 65406, A: 40000}, api.Color{R: 9, G: 500, B: 3, A: 32767}, black)
+	m := probe.Row(api.Color{R: 128, G: 129, B: 65406, A: 40000}, api.Color{R: 9, G: 500, B: 3, A: 32767}, black)
 	palette, e := quant.Palette(m, 2)
 	p, e2 := quant.Apply(m, append(palette, api.Color{R: 7}))
 	if e != api.OK || e2 != api.OK {
 		t.Fatal(e, e2)
 	}
-	wantBack(t, p, row(eight(0, 1, 254), api.Color{R: 7}, black))
+	wantBack(t, p, probe.Row(probe.Eight(0, 1, 254), api.Color{R: 7}, black))
 }

@@ -24,7 +24,7 @@ func TestBackKnown(t *testing.T) {
 		"the same twice":         {[]api.Color{odd, odd}, []byte{1, 0}, []api.Color{odd, odd}},
 	} {
 		t.Log(name)
-		wantBack(t, api.Paletted{W: len(x.index), H: 1, Palette: x.palette, Index: x.index}, row(x.want...))
+		wantBack(t, api.Paletted{W: len(x.index), H: 1, Palette: x.palette, Index: x.index}, probe.Row(x.want...))
 		wantBack(t, api.Paletted{W: 1, H: len(x.index), Palette: x.palette, Index: x.index}, probe.ImageOf(1, len(x.index), x.want))
 	}
 }
@@ -100,5 +100,5 @@ func TestNotBackPlaces(t *testing.T) {
 	all := probe.Colors(2, 9)
 	wantNotBack(t, api.Paletted{W: 1, H: 1, Palette: all[:5], Index: []byte{5}}, api.ErrRange)
 	wantNotBack(t, api.Paletted{W: 1, H: 1, Palette: all[:0], Index: []byte{0}}, api.ErrRange)
-	wantBack(t, api.Paletted{W: 1, H: 1, Palette: all[5:6], Index: []byte{0}}, row(all[5]))
+	wantBack(t, api.Paletted{W: 1, H: 1, Palette: all[5:6], Index: []byte{0}}, probe.Row(all[5]))
 }

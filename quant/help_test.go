@@ -26,71 +26,14 @@ var (
 )
 
 // grey answers the solid grey of a number from 0 to 255.
-func grey(v int) api.Color { return eight(v, v, v) }
-
-// eight answers the solid colour of three numbers from 0 to 255.
-func eight(r, g, b int) api.Color {
-	return api.Color{R: uint16(257 * r), G: uint16(257 * g), B: uint16(257 * b), A: greatest}
-}
-
-// eights answers n solid colours of depth 8, no two of them alike and none near
-// the next one.
-func eights(n int) []api.Color {
-	var all []api.Color
-	for i := range n {
-		v := i * 0x9E3779 & 0xFFFFFF
-		all = append(all, eight(v>>16, v>>8&255, v&255))
-	}
-	return all
-}
-
-// row answers an image of one row, or of rows of so many pixels as an image may
-// be wide.
-func row(colors ...api.Color) api.Image {
-	w := len(colors)
-	for w > api.MaxSide {
-		w /= 2
-	}
-	return probe.ImageOf(w, len(colors)/w, colors)
-}
-
-// plainEight is the eight-bit colour of a pixel.
-func plainEight(c api.Color) api.Color {
-	up := func(s uint16) uint16 { return probe.Up(probe.Down(s, 255), 255) }
-	return api.Color{R: up(c.R), G: up(c.G), B: up(c.B), A: greatest}
-}
-
-// plainMet are the eight-bit colours of the pixels that aren't clear.
-func plainMet(m api.Image) []api.Color {
-	var all []api.Color
-	seen := map[api.Color]bool{}
-	for _, c := range probe.ColorsOf(m) {
-		if c.A >= 32768 && !seen[plainEight(c)] {
-			seen[plainEight(c)] = true
-			all = append(all, plainEight(c))
-		}
-	}
-	return all
-}
-
-// far is how far two colours are from one another, squared.
-func far(a, b api.Color) int {
-	r, g, bl := int(a.R)-int(b.R), int(a.G)-int(b.G), int(a.B)-int(b.B)
-	return r*r + g*g + bl*bl
-}
-
-// plainNearest is the place of the first of a palette's nearest colours.
-func plainNearest(palette []api.Color, c api.Color) int {
-	best := slices.MinFunc(palette, func(p, q api.Color) int { return far(p, c) - far(q, c) })
-	return slices.IndexFunc(palette, func(p api.Color) bool { return far(p, c) == far(best, c) })
-}
+func grey(v int) api.Color { return probe.Eight(v, v, v) }
 
 // plainIndex are the places of a palette's colours that stand for an image's
 // pixels.
 func plainIndex(m api.Image, palette []api.Color) []byte {
 	var list []byte
 	for _, c := range probe.ColorsOf(m) {
-		place := plainNearest(palette, plainEight(c))
+		place := probe.Nearest(palette, probe.EightBit(c))
 		clear := slices.IndexFunc(palette, func(p api.Color) bool { return p.A == 0 })
 		if c.A < 32768 && clear >= 0 {
 			place = clear

@@ -18,23 +18,23 @@ func TestPaletteKnown(t *testing.T) {
 		"one":                      {[]api.Color{red}, []api.Color{red}},
 		"the same again":           {[]api.Color{blue, red, blue, black, red}, []api.Color{blue, red, black}},
 		"neither rising nor not":   {[]api.Color{grey(9), grey(200), grey(3)}, []api.Color{grey(9), grey(200), grey(3)}},
-		"by one sample":            {[]api.Color{eight(1, 2, 3), eight(2, 2, 3), eight(1, 3, 3), eight(1, 2, 4)}, []api.Color{eight(1, 2, 3), eight(2, 2, 3), eight(1, 3, 3), eight(1, 2, 4)}},
-		"the same elsewhere":       {[]api.Color{eight(1, 2, 3), eight(3, 2, 1), eight(2, 1, 3)}, []api.Color{eight(1, 2, 3), eight(3, 2, 1), eight(2, 1, 3)}},
+		"by one sample":            {[]api.Color{probe.Eight(1, 2, 3), probe.Eight(2, 2, 3), probe.Eight(1, 3, 3), probe.Eight(1, 2, 4)}, []api.Color{probe.Eight(1, 2, 3), probe.Eight(2, 2, 3), probe.Eight(1, 3, 3), probe.Eight(1, 2, 4)}},
+		"the same elsewhere":       {[]api.Color{probe.Eight(1, 2, 3), probe.Eight(3, 2, 1), probe.Eight(2, 1, 3)}, []api.Color{probe.Eight(1, 2, 3), probe.Eight(3, 2, 1), probe.Eight(2, 1, 3)}},
 		"rounded to nought":        {[]api.Color{{R: 128, G: 1, B: 127, A: greatest}, black}, []api.Color{black}},
-		"rounded to one":           {[]api.Color{{R: 129, G: 257, B: 385, A: greatest}}, []api.Color{eight(1, 1, 1)}},
-		"rounded to the last one":  {[]api.Color{{R: 65406, G: 65407, B: 65534, A: greatest}}, []api.Color{eight(254, 255, 255)}},
-		"near alphas are one":      {[]api.Color{{R: 514, A: 32768}, {R: 514, A: 65534}, {R: 514, A: greatest}}, []api.Color{eight(2, 0, 0)}},
-		"just not clear":           {[]api.Color{{R: 514, A: 32768}}, []api.Color{eight(2, 0, 0)}},
+		"rounded to one":           {[]api.Color{{R: 129, G: 257, B: 385, A: greatest}}, []api.Color{probe.Eight(1, 1, 1)}},
+		"rounded to the last one":  {[]api.Color{{R: 65406, G: 65407, B: 65534, A: greatest}}, []api.Color{probe.Eight(254, 255, 255)}},
+		"near alphas are one":      {[]api.Color{{R: 514, A: 32768}, {R: 514, A: 65534}, {R: 514, A: greatest}}, []api.Color{probe.Eight(2, 0, 0)}},
+		"just not clear":           {[]api.Color{{R: 514, A: 32768}}, []api.Color{probe.Eight(2, 0, 0)}},
 		"just clear":               {[]api.Color{{R: 514, A: 32767}, black}, []api.Color{black}},
 		"clear between":            {[]api.Color{white, hole, {R: 9, G: 8, B: 7, A: 1}, red}, []api.Color{white, red}},
 		"clear, and solid behind":  {[]api.Color{{R: greatest, A: 5}, black, red}, []api.Color{black, red}},
 		"all clear":                {[]api.Color{hole, {R: greatest, A: 32767}, {G: 5, A: 3}}, nil},
 		"clear in the greatest":    {[]api.Color{{R: greatest, G: greatest, B: greatest}}, nil},
-		"what is rounded is solid": {[]api.Color{{R: 130, A: 40000}, {R: 140, A: 50000}}, []api.Color{eight(1, 0, 0)}},
+		"what is rounded is solid": {[]api.Color{{R: 130, A: 40000}, {R: 140, A: 50000}}, []api.Color{probe.Eight(1, 0, 0)}},
 	} {
 		for _, most := range []int{max(len(x.want), 1), len(x.want) + 1, 17, plenty} {
 			t.Log(name)
-			wantPalette(t, row(x.pixels...), most, x.want)
+			wantPalette(t, probe.Row(x.pixels...), most, x.want)
 		}
 	}
 }
@@ -46,7 +46,7 @@ func TestPaletteOfEachSample(t *testing.T) {
 		for v := range plenty {
 			c := [3]int{}
 			c[plane] = v
-			want = append(want, eight(c[0], c[1], c[2]))
+			want = append(want, probe.Eight(c[0], c[1], c[2]))
 		}
 		m := probe.EachSample(plane)
 		for i := range m.Pix {
@@ -79,7 +79,7 @@ func TestPaletteOfEachSample(t *testing.T) {
 // whether there are fewer colours than the image has.
 func wantGoodPalette(t *testing.T, m api.Image, most int) bool {
 	t.Helper()
-	met := plainMet(m)
+	met := probe.Met(m)
 	if len(met) <= most {
 		wantPalette(t, m, most, met)
 		return false
@@ -90,7 +90,7 @@ func wantGoodPalette(t *testing.T, m api.Image, most int) bool {
 	}
 	seen := map[api.Color]bool{}
 	for _, c := range p {
-		if c != plainEight(c) || seen[c] {
+		if c != probe.EightBit(c) || seen[c] {
 			t.Fatalf("Palette(%s, %d) has %v, which is there or isn't of depth 8", probe.Told(m), most, c)
 		}
 		seen[c] = true
@@ -110,11 +110,11 @@ func TestPaletteOfMany(t *testing.T) {
 			if most < 1 || most > plenty {
 				continue
 			}
-			all := eights(n)
-			if len(plainMet(row(all...))) != n {
+			all := probe.Eights(n)
+			if len(probe.Met(probe.Row(all...))) != n {
 				t.Fatal("not so many colours:", n)
 			}
-			for _, m := range []api.Image{row(all...), row(slices.Concat(all, all)...), row(slices.Repeat(all[:1], n)...)} {
+			for _, m := range []api.Image{probe.Row(all...), probe.Row(slices.Concat(all, all)...), probe.Row(slices.Repeat(all[:1], n)...)} {
 				if wantGoodPalette(t, m, most) {
 					fewer++
 				}
@@ -135,12 +135,12 @@ func TestPaletteOfNoise(t *testing.T) {
 		s := probe.Noise(seed, 6)
 		w, h := 1+int(s[0])%24, 1+int(s[1])%24
 		m := probe.Image(seed, w, h)
-		coarsen(m, seed)
+		probe.Coarsen(m, seed)
 		most := 1 + int(s[2])%(2+int(s[3])*int(s[4])/256)
 		if wantGoodPalette(t, m, most) {
 			fewer++
 		}
-		if len(plainMet(m)) == 0 {
+		if len(probe.Met(m)) == 0 {
 			clear++
 		}
 	}
@@ -149,25 +149,11 @@ func TestPaletteOfNoise(t *testing.T) {
 	}
 }
 
-// coarsen brings an image's colours nearer together, in one way of several.
-func coarsen(m api.Image, how uint32) {
-	step := []uint16{1, 257, 700, 9000, 20000, 30000}[how%6]
-	for i := range m.Pix {
-		if i%4 < 3 {
-			m.Pix[i] = m.Pix[i] / step * step
-		} else if how%5 == 0 {
-			m.Pix[i] |= 32768
-		} else if how%31 == 1 {
-			m.Pix[i] &= 32767
-		}
-	}
-}
-
 // P14.1: the greatest images, with as many colours as pixels, or with few of them.
 func TestPaletteOfGreatImages(t *testing.T) {
 	for _, m := range []api.Image{
-		row(eights(api.MaxPixels)...), probe.Image(1, 256, 256), probe.Image(2, api.MaxSide, 16), probe.EachSample(1),
-		row(slices.Repeat(eights(300)[:256], 256)...), row(slices.Concat(eights(257), slices.Repeat(eights(1), 4096-257))...),
+		probe.Row(probe.Eights(api.MaxPixels)...), probe.Image(1, 256, 256), probe.Image(2, api.MaxSide, 16), probe.EachSample(1),
+		probe.Row(slices.Repeat(probe.Eights(300)[:256], 256)...), probe.Row(slices.Concat(probe.Eights(257), slices.Repeat(probe.Eights(1), 4096-257))...),
 	} {
 		for _, most := range []int{1, 2, 100, 255, 256} {
 			wantGoodPalette(t, m, most)
@@ -183,12 +169,12 @@ func TestPaletteWithinRange(t *testing.T) {
 		for i := range plenty {
 			c := [3]int{50, 60, 70}
 			c[plane] = (i * 77) % 199
-			all = append(all, eight(c[0], c[1], c[2]), api.Color{R: greatest, A: 32767}, api.Color{B: greatest})
+			all = append(all, probe.Eight(c[0], c[1], c[2]), api.Color{R: greatest, A: 32767}, api.Color{B: greatest})
 		}
 		for most := 1; most <= 198; most++ {
-			wantGoodPalette(t, row(all...), most)
+			wantGoodPalette(t, probe.Row(all...), most)
 		}
-		wantGoodPalette(t, row(all...), 199)
+		wantGoodPalette(t, probe.Row(all...), 199)
 	}
 }
 
@@ -200,14 +186,14 @@ func TestPaletteOfHeaps(t *testing.T) {
 		for i := range 40 * n {
 			k := i % n
 			at := func(axis int) int { return 10 + 100*(k/[]int{1, 3, 9}[axis]%3) + i*[]int{7, 5, 3}[axis]/n%9 }
-			all = append(all, eight(at(0), at(1), at(2)))
+			all = append(all, probe.Eight(at(0), at(1), at(2)))
 		}
-		p, e := quant.Palette(row(all...), n)
+		p, e := quant.Palette(probe.Row(all...), n)
 		if e != api.OK || len(p) != n {
 			t.Fatal(n, told(p), e)
 		}
 		for _, c := range all {
-			near := p[plainNearest(p, c)]
+			near := p[probe.Nearest(p, c)]
 			for _, s := range []int{int(near.R) - int(c.R), int(near.G) - int(c.G), int(near.B) - int(c.B)} {
 				if max(s, -s) > 257*9 {
 					t.Fatalf("of %d heaps %v is far from %s", n, c, told(p))
@@ -217,8 +203,8 @@ func TestPaletteOfHeaps(t *testing.T) {
 	}
 	for _, many := range []api.Color{black, red, blue, white} {
 		all := slices.Repeat([]api.Color{many}, 200)
-		wantPalette(t, row(append(all, black, red, blue, white, grey(77))...), 1, []api.Color{many})
-		wantPalette(t, row(append([]api.Color{grey(77), white, blue, red, black}, all...)...), 1, []api.Color{many})
+		wantPalette(t, probe.Row(append(all, black, red, blue, white, grey(77))...), 1, []api.Color{many})
+		wantPalette(t, probe.Row(append([]api.Color{grey(77), white, blue, red, black}, all...)...), 1, []api.Color{many})
 	}
 }
 
@@ -228,17 +214,17 @@ func TestPaletteOfOne(t *testing.T) {
 	asked := 0
 	for seed := range uint32(200) {
 		m := probe.Image(seed, 4+int(seed)%5, 3)
-		coarsen(m, seed/3)
+		probe.Coarsen(m, seed/3)
 		// One colour is there several times.
 		for i := range m.Pix[:4*(seed%8)] {
 			m.Pix[i] = m.Pix[i%4]
 		}
-		met := plainMet(m)
+		met := probe.Met(m)
 		var sum [3]int
 		count := 0
 		for _, c := range probe.ColorsOf(m) {
 			if c.A >= 32768 {
-				c = plainEight(c)
+				c = probe.EightBit(c)
 				sum[0], sum[1], sum[2] = sum[0]+int(c.R), sum[1]+int(c.G), sum[2]+int(c.B)
 				count++
 			}
@@ -248,7 +234,7 @@ func TestPaletteOfOne(t *testing.T) {
 		}
 		asked++
 		mean := api.Color{R: uint16(sum[0] / count), G: uint16(sum[1] / count), B: uint16(sum[2] / count)}
-		wantPalette(t, m, 1, met[plainNearest(met, mean):][:1])
+		wantPalette(t, m, 1, met[probe.Nearest(met, mean):][:1])
 	}
 	if asked < 100 {
 		t.Error("asked only", asked, "times")
@@ -260,8 +246,8 @@ func wrongness(m api.Image, palette []api.Color) int {
 	sum := 0
 	for _, c := range probe.ColorsOf(m) {
 		if c.A >= 32768 {
-			c = plainEight(c)
-			sum += far(c, palette[plainNearest(palette, c)])
+			c = probe.EightBit(c)
+			sum += probe.Distance(c, palette[probe.Nearest(palette, c)])
 		}
 	}
 	return sum
@@ -280,7 +266,7 @@ func TestPaletteIsNear(t *testing.T) {
 				m.Pix[i] = greatest
 			}
 		}
-		met := plainMet(m)
+		met := probe.Met(m)
 		for _, most := range []int{2, 4, 16, 64, 200} {
 			p, e := quant.Palette(m, most)
 			if e != api.OK || len(p) != most {
@@ -301,7 +287,7 @@ func TestPaletteIsNear(t *testing.T) {
 func TestNoPalette(t *testing.T) {
 	wrong := append(probe.Far(), -256, -1, 0, 257, 258, 300, 512)
 	for _, most := range wrong {
-		for _, m := range []api.Image{row(black), row(hole), row(eights(300)...), probe.Image(1, 7, 7)} {
+		for _, m := range []api.Image{probe.Row(black), probe.Row(hole), probe.Row(probe.Eights(300)...), probe.Image(1, 7, 7)} {
 			wantNoPalette(t, m, most, api.ErrRange)
 		}
 		wantNoPalette(t, api.Image{}, most, api.ErrImage)

@@ -18,7 +18,7 @@ func TestNilIsEmpty(t *testing.T) {
 		wantNoIndex(t, api.Image{W: 1, H: 1, Pix: pix}, []api.Color{red}, api.ErrImage)
 	}
 	for _, palette := range [][]api.Color{nil, {}, make([]api.Color, 0, 50)} {
-		wantNoIndex(t, row(red), palette, api.ErrRange)
+		wantNoIndex(t, probe.Row(red), palette, api.ErrRange)
 		wantNotBack(t, api.Paletted{W: 1, H: 1, Palette: palette, Index: []byte{0}}, api.ErrRange)
 		for _, index := range [][]byte{nil, {}, make([]byte, 0, 50)} {
 			wantNotBack(t, api.Paletted{W: 1, H: 1, Palette: palette, Index: index}, api.ErrLong)
@@ -30,15 +30,15 @@ func TestNilIsEmpty(t *testing.T) {
 // small are images that palettes of few colours and of many are made of.
 func small() []api.Image {
 	return []api.Image{
-		row(black, white, black), row(eights(20)...), probe.Image(1, 5, 4), probe.ImageOf(4, 4, append(eights(14), hole, red)),
-		row(hole), {}, probe.Sampled(2, 2, 15),
+		probe.Row(black, white, black), probe.Row(probe.Eights(20)...), probe.Image(1, 5, 4), probe.ImageOf(4, 4, append(probe.Eights(14), hole, red)),
+		probe.Row(hole), {}, probe.Sampled(2, 2, 15),
 	}
 }
 
 // R2, R4: what is handed in stays, spare room included, and isn't read there nor
 // kept; what is answered is new memory, spare room included.
 func TestKeepsAndSharesNothing(t *testing.T) {
-	palette := append(eights(9), hole)
+	palette := append(probe.Eights(9), hole)
 	for _, m := range small() {
 		for _, n := range []int{len(m.Pix), max(len(m.Pix)-1, 0), 0} {
 			of := func(pix []uint16) api.Image { return api.Image{W: m.W, H: m.H, Pix: pix} }
@@ -80,7 +80,7 @@ func spoil(list []api.Color) {
 // R4: palettes stay, spare room included, and aren't kept nor answered; answered
 // ones are one's own.
 func TestPalettesAreApart(t *testing.T) {
-	all := append(eights(12), hole, red, hole)
+	all := append(probe.Eights(12), hole, red, hole)
 	before := slices.Clone(all)
 	palette := all[2:9]
 	m := probe.Image(1, 5, 4)
@@ -98,7 +98,7 @@ func TestPalettesAreApart(t *testing.T) {
 	}
 	wantIndex(t, m, before[2:9], want)
 	for _, most := range []int{1, 5, 256} {
-		m := row(eights(20)...)
+		m := probe.Row(probe.Eights(20)...)
 		one, _ := quant.Palette(m, most)
 		two, _ := quant.Palette(m, most)
 		kept := slices.Clone(two)
@@ -111,7 +111,7 @@ func TestPalettesAreApart(t *testing.T) {
 	given := api.Paletted{W: 2, H: 1, Palette: slices.Clone(before)[:3], Index: []byte{1, 2}}
 	back, e := quant.Back(given)
 	spoil(given.Palette)
-	if s := probe.Other(back, e, row(before[1], before[2]), api.OK); s != "" {
+	if s := probe.Other(back, e, probe.Row(before[1], before[2]), api.OK); s != "" {
 		t.Error("Back keeps or changes a palette:", s)
 	}
 }
@@ -120,7 +120,7 @@ func TestPalettesAreApart(t *testing.T) {
 // asked beside it.
 func TestSameAnswers(t *testing.T) {
 	t.Parallel()
-	images := append(small(), row(eights(4096)...), probe.Image(9, 30, 30))
+	images := append(small(), probe.Row(probe.Eights(4096)...), probe.Image(9, 30, 30))
 	if s := probe.Steady(12*len(images), func(i int) ([]byte, api.Errno) {
 		m := images[i%len(images)]
 		most := []int{1, 2, 3, 16, 100, 256}[i/len(images)%6]
@@ -138,7 +138,7 @@ func TestSameAnswers(t *testing.T) {
 // R1: no call panics or goes on for ever, whatever it is given.
 func TestNoPanic(t *testing.T) {
 	numbers := append(probe.Far(), -1, 0, 1, 2, 256, 257)
-	lists := [][]api.Color{nil, {}, {hole}, eights(256), eights(257)}
+	lists := [][]api.Color{nil, {}, {hole}, probe.Eights(256), probe.Eights(257)}
 	for _, m := range append(small(), probe.Sampled(1<<62, 4, 0), probe.Sampled(-1, -1, 4), probe.Sampled(math.MinInt, 1, 4)) {
 		for _, n := range numbers {
 			_, _ = quant.Palette(m, n)
